@@ -8,32 +8,10 @@ import (
 	"vellum/disk"
 	"vellum/pool"
 	"vellum/store"
+	"vellum/trial"
 )
 
 // A plain model of the chapter's words: the blocks of a store in memory, bitmaps as lists of truths, and a transaction that counts which blocks it has put.
-
-// dice draws numbers, the same ones in every run.
-type dice uint64
-
-func newDice(seed int) *dice {
-	d := dice(seed)
-	return &d
-}
-
-func (d *dice) below(n int) int {
-	*d = *d*6364136223846793005 + 1442695040888963407
-	return int(uint64(*d)>>33) % n
-}
-
-func (d *dice) bytes(n int) []byte {
-	list := make([]byte, n)
-	for i := range list {
-		list[i] = byte(d.below(256))
-	}
-	return list
-}
-
-func one[T any](d *dice, list ...T) T { return list[d.below(len(list))] }
 
 type model struct {
 	layout api.Layout
@@ -197,8 +175,7 @@ type game struct {
 
 func (g *game) begin() {
 	g.t.Helper()
-	tx, e := g.s.Begin()
-	is(g.t, "Begin", e, api.OK)
+	tx := trial.Begun(g.t, g.s)
 	g.p = [2]*pool.Pool{pool.On(tx), pool.On(tx)}
 	g.x = g.m.begin()
 }
@@ -227,9 +204,9 @@ func (g *game) all() {
 	}
 }
 
-func (g *game) take(d *dice, p *pool.Pool) string {
+func (g *game) take(d *trial.Dice, p *pool.Pool) string {
 	g.t.Helper()
-	bitmap := d.below(2)
+	bitmap := d.Below(2)
 	what, call := "TakeBlock", p.TakeBlock
 	if bitmap == 1 {
 		what, call = "TakeNode", p.TakeNode
@@ -239,15 +216,15 @@ func (g *game) take(d *dice, p *pool.Pool) string {
 	return what
 }
 
-func (g *game) drop(d *dice, p *pool.Pool) string {
+func (g *game) drop(d *trial.Dice, p *pool.Pool) string {
 	g.t.Helper()
-	bitmap := d.below(2)
+	bitmap := d.Below(2)
 	what, call := "DropBlock", p.DropBlock
 	if bitmap == 1 {
 		what, call = "DropNode", p.DropNode
 	}
 	from, to := g.m.part(bitmap)
-	number := one(d, from-1, from, to-1, to, to+1, from+d.below(to-from), from+d.below(to-from), from+d.below(to-from), from+d.below(min(8, to-from)), d.below(5000)-500)
+	number := trial.One(d, from-1, from, to-1, to, to+1, from+d.Below(to-from), from+d.Below(to-from), from+d.Below(to-from), from+d.Below(min(8, to-from)), d.Below(5000)-500)
 	is(g.t, what, call(number), g.x.drop(bitmap, number))
 	return what
 }
@@ -260,12 +237,12 @@ func (g *game) left(p *pool.Pool) string {
 }
 
 // put lays a drawn content into some block, the bitmaps too: nearly full ones, nearly empty ones, and junk.
-func (g *game) put(d *dice, p *pool.Pool) string {
+func (g *game) put(d *trial.Dice, p *pool.Pool) string {
 	g.t.Helper()
-	b := one(d, 0, 1, d.below(g.m.layout.Blocks), d.below(g.m.layout.Blocks))
-	data := one(d, fill(255), fill(0), d.bytes(512), fill(byte(d.below(256))))
-	data[d.below(512)] ^= 1 << d.below(8)
-	data[d.below(6)] = byte(d.below(256))
+	b := trial.One(d, 0, 1, d.Below(g.m.layout.Blocks), d.Below(g.m.layout.Blocks))
+	data := trial.One(d, fill(255), fill(0), d.Bytes(512), fill(byte(d.Below(256))))
+	data[d.Below(512)] ^= 1 << d.Below(8)
+	data[d.Below(6)] = byte(d.Below(256))
 	is(g.t, "Put", p.Put(b, data), g.x.lay(b, data))
 	return "Put"
 }
@@ -281,9 +258,9 @@ func (g *game) end(commit bool) string {
 }
 
 // again opens the store anew; all that was committed is kept.
-func (g *game) again(d *dice) {
+func (g *game) again(d *trial.Dice) {
 	g.t.Helper()
-	if d.below(2) == 0 {
+	if d.Below(2) == 0 {
 		is(g.t, "Sync", g.s.Sync(), api.OK)
 		g.d.Crash(nil)
 	}
@@ -295,10 +272,10 @@ func (g *game) again(d *dice) {
 }
 
 // step plays one drawn call.
-func (g *game) step(d *dice) string {
+func (g *game) step(d *trial.Dice) string {
 	g.t.Helper()
-	p := g.p[d.below(2)]
-	switch d.below(40) {
+	p := g.p[d.Below(2)]
+	switch d.Below(40) {
 	case 0:
 		is(g.t, "Clear", p.Clear(), g.x.clear())
 		return "Clear"
@@ -316,7 +293,7 @@ func (g *game) step(d *dice) string {
 		}
 		return "Puts"
 	}
-	if d.below(5) < 3 {
+	if d.Below(5) < 3 {
 		return g.take(d, p)
 	}
 	return g.drop(d, p)
@@ -334,14 +311,14 @@ func TestP601Drawn(t *testing.T) {
 		g.begin()
 		for range 500 {
 			g.same(g.step(d))
-			if e := g.x.state; e != api.OK && d.below(4) == 0 { // else it goes on, to be refused
+			if e := g.x.state; e != api.OK && d.Below(4) == 0 { // else it goes on, to be refused
 				refused[e]++
 				if e != api.ErrEnded {
 					g.end(false)
 				}
 				g.begin()
 			}
-			if d.below(100) == 0 {
+			if d.Below(100) == 0 {
 				g.again(d)
 			}
 		}

@@ -9,6 +9,7 @@ import (
 	"vellum/disk"
 	"vellum/pool"
 	"vellum/store"
+	"vellum/trial"
 )
 
 // The store of the chapter's examples: Blocks 43, Data 3.
@@ -28,12 +29,14 @@ var forms = []api.Super{
 	{Sectors: 2048, Log: 21, Nodes: 12},   // Blocks 2024: its last byte is whole
 }
 
-func is(t *testing.T, what string, got, want api.Errno) {
-	t.Helper()
-	if got != want {
-		t.Fatalf("%s: %v, want %v", what, got, want)
-	}
-}
+// Short names of what the tests of all views share.
+var (
+	is        = trial.Is
+	fill      = trial.Fill
+	formatted = trial.Formatted
+	opened    = trial.Opened
+	newDice   = trial.NewDice
+)
 
 // gives asks for a call's number and error.
 func gives(t *testing.T, what string, want int, wantE api.Errno) func(int, api.Errno) {
@@ -52,29 +55,10 @@ func left(t *testing.T, p *pool.Pool, blocks, nodes int, want api.Errno) {
 	}
 }
 
-func fill(x byte) []byte { return bytes.Repeat([]byte{x}, 512) }
-
-func formatted(t *testing.T, s api.Super) *disk.Disk {
-	t.Helper()
-	d, e := disk.New(s.Sectors)
-	is(t, "New", e, api.OK)
-	is(t, "Format", store.Format(d, s), api.OK)
-	return d
-}
-
-func opened(t *testing.T, d *disk.Disk) *store.Store {
-	t.Helper()
-	s, e := store.Open(d)
-	is(t, "Open", e, api.OK)
-	return s
-}
-
 // begun is a pool on a new transaction.
 func begun(t *testing.T, s *store.Store) *pool.Pool {
 	t.Helper()
-	tx, e := s.Begin()
-	is(t, "Begin", e, api.OK)
-	return pool.On(tx)
+	return pool.On(trial.Begun(t, s))
 }
 
 // fresh is a store of that form and a pool on it, behind Clear.
@@ -87,26 +71,11 @@ func fresh(t *testing.T, form api.Super) (*disk.Disk, *store.Store, *pool.Pool) 
 	return d, s, p
 }
 
-func get(t *testing.T, p *pool.Pool, block int) []byte {
-	t.Helper()
-	data, e := p.Get(block)
-	is(t, "Get", e, api.OK)
-	return data
-}
-
 // laid asks for the bytes with which a bitmap begins; behind them it is zero.
 func laid(t *testing.T, p *pool.Pool, bitmap int, want ...byte) {
 	t.Helper()
-	if data := get(t, p, bitmap); !bytes.Equal(data, append(want, make([]byte, 512-len(want))...)) {
+	if data := trial.Get(t, p.Tx, bitmap); !bytes.Equal(data, append(want, make([]byte, 512-len(want))...)) {
 		t.Fatalf("bitmap %d: % x .., want % x, and zeros", bitmap, data[:8], want)
-	}
-}
-
-// putOthers puts so many blocks that are no bitmaps.
-func putOthers(t *testing.T, p *pool.Pool, count int) {
-	t.Helper()
-	for i := range count {
-		is(t, "Put", p.Put(2+i, fill(byte(i+1))), api.OK)
 	}
 }
 
@@ -189,33 +158,13 @@ func asks(t *testing.T, p *pool.Pool, want api.Errno) {
 	left(t, p, 0, 0, want)
 }
 
-// ending is something that becomes of a transaction, and what its calls then answer.
-type ending struct {
-	what string
-	end  func(d *disk.Disk, s *store.Store, p *pool.Pool)
-	want api.Errno
-}
-
 func TestP601State(t *testing.T) {
-	endings := []ending{
-		{"committed", func(d *disk.Disk, s *store.Store, p *pool.Pool) { p.Commit() }, api.ErrEnded},
-		{"aborted", func(d *disk.Disk, s *store.Store, p *pool.Pool) { p.Abort() }, api.ErrEnded},
-		{"spoilt and aborted", func(d *disk.Disk, s *store.Store, p *pool.Pool) { p.Spoil(api.ErrNoSpace); p.Abort() }, api.ErrEnded},
-		{"cut", func(d *disk.Disk, s *store.Store, p *pool.Pool) { d.Crash(nil) }, api.ErrDead},
-		{"aborted and cut", func(d *disk.Disk, s *store.Store, p *pool.Pool) { p.Abort(); d.Crash(nil) }, api.ErrDead},
-		{"spoilt and cut", func(d *disk.Disk, s *store.Store, p *pool.Pool) { p.Spoil(api.ErrBudget); d.Crash(nil) }, api.ErrDead},
-		{"opened again", func(d *disk.Disk, s *store.Store, p *pool.Pool) { store.Open(d) }, api.ErrDead},
-		{"burnt", func(d *disk.Disk, s *store.Store, p *pool.Pool) { d.Fuse(0); s.Sync() }, api.ErrDead},
-	}
-	for _, by := range []api.Errno{api.ErrCorrupt, api.ErrBudget, api.ErrNoSpace, api.ErrNoNodes} {
-		endings = append(endings, ending{"spoilt", func(d *disk.Disk, s *store.Store, p *pool.Pool) { p.Spoil(by) }, by})
-	}
-	for _, c := range endings {
+	for _, c := range trial.Endings() {
 		d, s, p := fresh(t, small)
-		c.end(d, s, p)
-		is(t, c.what, p.State(), c.want)
-		asks(t, p, c.want)
-		is(t, c.what, p.State(), c.want)
+		c.End(d, s, p.Tx)
+		is(t, c.What, p.State(), c.Want)
+		asks(t, p, c.Want)
+		is(t, c.What, p.State(), c.Want)
 	}
 }
 
@@ -255,7 +204,7 @@ func TestP601Clear(t *testing.T) {
 		s := opened(t, formatted(t, form))
 		p := begun(t, s)
 		d := newDice(600 + i)
-		for _, junk := range [][]byte{fill(0), fill(255), d.bytes(512)} {
+		for _, junk := range [][]byte{fill(0), fill(255), d.Bytes(512)} {
 			is(t, "Put", p.Put(0, junk), api.OK)
 			is(t, "Put", p.Put(1, junk), api.OK)
 			is(t, "Clear", p.Clear(), api.OK)
@@ -288,7 +237,7 @@ func TestP601NothingElse(t *testing.T) {
 		t.Helper()
 		is(t, what, e, api.OK)
 		for b := 2; b < 43; b++ {
-			if !bytes.Equal(get(t, p, b), fill(byte(b))) {
+			if !bytes.Equal(trial.Get(t, p.Tx, b), fill(byte(b))) {
 				t.Fatalf("%s: block %d holds other bytes", what, b)
 			}
 		}
@@ -317,7 +266,7 @@ func TestP601OtherBits(t *testing.T) {
 		p := begun(t, s)
 		l := s.Layout()
 		d := newDice(650 + i)
-		blocks, nodes := d.bytes(512), d.bytes(512)
+		blocks, nodes := d.Bytes(512), d.Bytes(512)
 		is(t, "Put", p.Put(0, blocks), api.OK)
 		is(t, "Put", p.Put(1, nodes), api.OK)
 		for range 4 { // the model plays all kinds of calls: here all that can be taken is taken
@@ -336,7 +285,7 @@ func TestP601OtherBits(t *testing.T) {
 			laid(t, p, 0, blocks...)
 			laid(t, p, 1, nodes...)
 			left(t, p, 0, 0, api.OK)
-			b, k := l.Data+d.below(l.Blocks-l.Data), 1+d.below(l.Nodes)
+			b, k := l.Data+d.Below(l.Blocks-l.Data), 1+d.Below(l.Nodes)
 			is(t, "DropBlock", p.DropBlock(b), api.OK)
 			is(t, "DropNode", p.DropNode(k), api.OK)
 			blocks[b/8] &^= 1 << (b % 8)
@@ -420,7 +369,7 @@ func TestP601Budget(t *testing.T) {
 			}
 			is(t, "Commit", p.Commit(), api.OK)
 			p = begun(t, s)
-			putOthers(t, p, others)
+			trial.PutMany(t, p.Tx, 2, others)
 			n, e := c.call(p)
 			if others+c.puts > 16 {
 				if n != 0 || e != api.ErrBudget {
@@ -452,13 +401,13 @@ func TestP601BudgetAgain(t *testing.T) {
 	_, s, p := fresh(t, small)
 	is(t, "Commit", p.Commit(), api.OK)
 	p = begun(t, s)
-	putOthers(t, p, 16)
+	trial.PutMany(t, p.Tx, 2, 16)
 	is(t, "Clear", p.Clear(), api.OK)
 	is(t, "Abort", p.Abort(), api.OK)
 
 	p = begun(t, s)
 	gives(t, "TakeBlock", 3, api.OK)(p.TakeBlock())
-	putOthers(t, p, 15)
+	trial.PutMany(t, p.Tx, 2, 15)
 	for want := 4; want < 10; want++ {
 		gives(t, "TakeBlock", want, api.OK)(p.TakeBlock())
 	}
@@ -483,7 +432,7 @@ func TestP601Order(t *testing.T) {
 		is(t, "Put", p.Put(1, fill(255)), api.OK)
 		is(t, "Commit", p.Commit(), api.OK)
 		p = begun(t, s)
-		putOthers(t, p, 16)
+		trial.PutMany(t, p.Tx, 2, 16)
 		gives(t, c.what, 0, c.want)(c.call(p))
 		asks(t, p, c.want)
 		is(t, "State", p.State(), c.want)
@@ -525,7 +474,7 @@ func TestP602P603Drawn(t *testing.T) {
 		l := s.Layout()
 		blocks, nodes := map[int]bool{}, map[int]bool{}
 		for range 600 {
-			switch d.below(8) {
+			switch d.Below(8) {
 			case 0, 1, 2:
 				if len(blocks) < l.Blocks-l.Data {
 					b, e := p.TakeBlock()
@@ -545,7 +494,7 @@ func TestP602P603Drawn(t *testing.T) {
 					nodes[k] = true
 				}
 			case 6:
-				b := l.Data + d.below(min(l.Blocks-l.Data, len(blocks)+2))
+				b := l.Data + d.Below(min(l.Blocks-l.Data, len(blocks)+2))
 				want := api.ErrFree
 				if blocks[b] {
 					want = api.OK
@@ -553,7 +502,7 @@ func TestP602P603Drawn(t *testing.T) {
 				is(t, "DropBlock", p.DropBlock(b), want)
 				delete(blocks, b)
 			case 7:
-				k := 1 + d.below(min(l.Nodes, len(nodes)+2))
+				k := 1 + d.Below(min(l.Nodes, len(nodes)+2))
 				want := api.ErrFree
 				if nodes[k] {
 					want = api.OK
@@ -562,7 +511,7 @@ func TestP602P603Drawn(t *testing.T) {
 				delete(nodes, k)
 			}
 			left(t, p, l.Blocks-l.Data-len(blocks), l.Nodes-len(nodes), api.OK)
-			if d.below(20) == 0 {
+			if d.Below(20) == 0 {
 				is(t, "Commit", p.Commit(), api.OK)
 				p = begun(t, s)
 				left(t, p, l.Blocks-l.Data-len(blocks), l.Nodes-len(nodes), api.OK)
@@ -584,7 +533,7 @@ func TestP603NothingElse(t *testing.T) {
 		is(t, "DropNode", p.DropNode(2), api.ErrFree)
 		left(t, p, 39, 3, api.OK)
 	}
-	putOthers(t, p, 10)
+	trial.PutMany(t, p.Tx, 2, 10)
 	left(t, p, 39, 3, api.OK)
 	is(t, "Sync", s.Sync(), api.OK)
 	is(t, "Checkpoint", s.Checkpoint(), api.OK)

@@ -1,6 +1,9 @@
 package pool
 
-import "vellum/api"
+import (
+	"vellum/api"
+	"vellum/halt"
+)
 
 // The home blocks of the bitmaps.
 const (
@@ -40,14 +43,10 @@ func (p *Pool) take(s stock) int {
 
 // drop makes a taken number free.
 func (p *Pool) drop(s stock, number int) {
-	need(p.State())
-	if number < s.first || number > s.last {
-		panic(api.ErrRange)
-	}
+	halt.On(p.State())
+	halt.If(number < s.first || number > s.last, api.ErrRange)
 	bits := p.bits(s)
-	if !bits.taken(number - s.zero) {
-		panic(api.ErrFree)
-	}
+	halt.If(!bits.taken(number-s.zero), api.ErrFree)
 	bits.turn(number - s.zero)
 	p.lay(s, bits)
 }
@@ -65,13 +64,9 @@ func (p *Pool) left(s stock) int {
 }
 
 // bits is the bitmap as the transaction sees it.
-func (p *Pool) bits(s stock) bitmap {
-	bits, e := p.Get(s.bitmap)
-	need(e)
-	return bits
-}
+func (p *Pool) bits(s stock) bitmap { return halt.Got(p.Get(s.bitmap)) }
 
-func (p *Pool) lay(s stock, bits bitmap) { need(p.Put(s.bitmap, bits)) }
+func (p *Pool) lay(s stock, bits bitmap) { halt.On(p.Put(s.bitmap, bits)) }
 
 // bitmap is a block of bits, the lowest of each byte first.
 type bitmap []byte
