@@ -7,7 +7,6 @@ import (
 
 	"vellum/api"
 	"vellum/codec"
-	"vellum/disk"
 	"vellum/node"
 	"vellum/pool"
 	"vellum/store"
@@ -139,62 +138,38 @@ func (m plain) all(kind int) ([]int, api.Errno) {
 	return list, api.OK
 }
 
-// game plays each call at a table and at the model, on two disks that must stay alike byte for byte.
+// game plays each call at a table and at the model.
 type game struct {
-	t      *testing.T
-	dice   *trial.Dice
-	d, md  *disk.Disk
-	s, ms  *store.Store
-	k      [2]*node.Table // two tables on one transaction
-	m      plain
-	nodes  int
-	answer map[api.Errno]int // how often the calls of the table answered what
+	*trial.Twins
+	t     *testing.T
+	k     [2]*node.Table // two tables on one transaction
+	m     plain
+	nodes int
 }
 
-func (g *game) open() {
-	g.t.Helper()
-	g.s, g.ms = opened(g.t, g.d), opened(g.t, g.md)
-	g.begin()
-}
-
-func (g *game) begin() {
-	g.t.Helper()
-	tx := trial.Begun(g.t, g.s)
-	g.k = [2]*node.Table{node.On(pool.On(tx)), node.On(pool.On(tx))}
-	g.m = plain{pool.On(trial.Begun(g.t, g.ms))}
-}
-
-func (g *game) same(what string, got, want api.Errno) {
-	g.t.Helper()
-	g.answer[got]++
-	is(g.t, what, got, want)
-}
-
-// alike holds the bitmaps and the table, or in their stead the transaction's refusal, against the model's.
-func (g *game) alike(what string) {
-	g.t.Helper()
-	for b := range 2 + g.nodes/4 {
-		data, e := g.k[b%2].Get(b)
-		want, wantE := g.m.Get(b)
-		is(g.t, what+", then Get", e, wantE)
-		if !bytes.Equal(data, want) {
-			g.t.Fatalf("P707: behind %s block %d holds other bytes", what, b)
-		}
-		if e != api.OK {
-			return
-		}
+func newGame(t *testing.T) *game {
+	g := &game{t: t}
+	g.Twins = &trial.Twins{
+		T:    t,
+		Dice: newDice(7),
+		On: func(tested, model *store.Tx) {
+			g.k = [2]*node.Table{node.On(pool.On(tested)), node.On(pool.On(tested))}
+			g.m = plain{pool.On(model)}
+		},
+		Refused: func(want api.Errno) { asks(t, g.k[0], want) },
 	}
+	return g
 }
 
 // number draws a node's number: most are among the first, some are none.
 func (g *game) number() int {
-	d := g.dice
+	d := g.Dice
 	return trial.One(d, 1+d.Below(g.nodes), 1+d.Below(g.nodes), 1+d.Below(min(8, g.nodes)), 1+d.Below(min(8, g.nodes)), g.nodes, g.nodes-d.Below(4), 1+d.Below(4), d.Below(1100)-30)
 }
 
 // node draws a node; most of them fit.
 func (g *game) node(kind int) api.Node {
-	d := g.dice
+	d := g.Dice
 	n := api.Node{Kind: kind, Links: d.Below(65), Size: d.Below(api.MaxFile + 1), Owned: trial.One(d, 0, 0, 1, d.Below(2049))}
 	if kind == api.KDir {
 		n.Parent = 1 + d.Below(1024)
@@ -216,7 +191,7 @@ func (g *game) node(kind int) api.Node {
 
 func (g *game) makes(k *node.Table) string {
 	g.t.Helper()
-	d := g.dice
+	d := g.Dice
 	kind := trial.One(d, 1, 2, 2, 3, 1, 2, d.Below(6)-1)
 	parent := trial.One(d, 0, 0, d.Below(g.nodes+3)-1)
 	if kind == api.KDir && d.Below(4) > 0 {
@@ -224,7 +199,7 @@ func (g *game) makes(k *node.Table) string {
 	}
 	want, wantE := g.m.make(kind, parent)
 	got, e := k.Make(kind, parent)
-	g.same("Make", e, wantE)
+	g.Same("Make", e, wantE)
 	if got != want {
 		g.t.Fatalf("P702: Make(%d, %d): %d, want %d", kind, parent, got, want)
 	}
@@ -236,7 +211,7 @@ func (g *game) loads(k *node.Table) string {
 	number := g.number()
 	want, wantE := g.m.load(number)
 	got, e := k.Load(number)
-	g.same("Load", e, wantE)
+	g.Same("Load", e, wantE)
 	if got != want {
 		g.t.Fatalf("P703: Load(%d): %+v, want %+v", number, got, want)
 	}
@@ -246,30 +221,30 @@ func (g *game) loads(k *node.Table) string {
 func (g *game) saves(k *node.Table) string {
 	g.t.Helper()
 	number := g.number()
-	kind := 1 + g.dice.Below(3)
-	if number >= 1 && number <= g.nodes && g.dice.Below(8) > 0 {
+	kind := 1 + g.Dice.Below(3)
+	if number >= 1 && number <= g.nodes && g.Dice.Below(8) > 0 {
 		if old, e := g.m.read(number); e == api.OK {
 			kind = old.Kind
 		}
 	}
 	n := g.node(kind)
-	g.same("Save", k.Save(number, n), g.m.save(number, n))
+	g.Same("Save", k.Save(number, n), g.m.save(number, n))
 	return "Save"
 }
 
 func (g *game) frees(k *node.Table) string {
 	g.t.Helper()
 	number := g.number()
-	g.same("Free", k.Free(number), g.m.free(number))
+	g.Same("Free", k.Free(number), g.m.free(number))
 	return "Free"
 }
 
 func (g *game) alls(k *node.Table) string {
 	g.t.Helper()
-	kind := trial.One(g.dice, 0, 1, 2, 3, g.dice.Below(6)-1)
+	kind := trial.One(g.Dice, 0, 1, 2, 3, g.Dice.Below(6)-1)
 	want, wantE := g.m.all(kind)
 	got, e := k.All(kind)
-	g.same("All", e, wantE)
+	g.Same("All", e, wantE)
 	if !slices.Equal(got, want) {
 		g.t.Fatalf("P706: All(%d): %v, want %v", kind, got, want)
 	}
@@ -279,7 +254,7 @@ func (g *game) alls(k *node.Table) string {
 // put lays something into a block beside the table's calls: a bitmap, a node in its slot, a broken slot, or a data block.
 func (g *game) put(k *node.Table) string {
 	g.t.Helper()
-	d := g.dice
+	d := g.Dice
 	number := 1 + d.Below(g.nodes)
 	block, from := 2+(number-1)/4, 128*((number-1)%4)
 	data, e := k.Get(block)
@@ -303,7 +278,7 @@ func (g *game) put(k *node.Table) string {
 	default:
 		block, data = g.m.Layout().Data+d.Below(g.m.Layout().Blocks-g.m.Layout().Data), d.Bytes(512)
 	}
-	is(g.t, "Put", k.Put(block, data), g.m.Put(block, data))
+	g.Put(block, data)
 	return "Put"
 }
 
@@ -311,9 +286,8 @@ func (g *game) put(k *node.Table) string {
 func (g *game) many(k *node.Table) string {
 	g.t.Helper()
 	l := k.Layout()
-	for b := l.Data; b < min(l.Blocks, l.Data+13+g.dice.Below(4)); b++ {
-		data := g.dice.Bytes(512)
-		is(g.t, "Put", k.Put(b, data), g.m.Put(b, data))
+	for b := l.Data; b < min(l.Blocks, l.Data+13+g.Dice.Below(4)); b++ {
+		g.Put(b, g.Dice.Bytes(512))
 	}
 	return "Puts"
 }
@@ -321,7 +295,7 @@ func (g *game) many(k *node.Table) string {
 // bits makes a call of the pool, which the table knows only by what it leaves in the bitmap.
 func (g *game) bits(k *node.Table) string {
 	g.t.Helper()
-	if g.dice.Below(2) == 0 {
+	if g.Dice.Below(2) == 0 {
 		want, wantE := g.m.TakeNode()
 		got, e := k.TakeNode()
 		is(g.t, "TakeNode", e, wantE)
@@ -335,88 +309,44 @@ func (g *game) bits(k *node.Table) string {
 	return "DropNode"
 }
 
-// end ends the transaction, and begins another.
-func (g *game) end(k *node.Table, commit bool) string {
-	g.t.Helper()
-	if commit && k.State() == api.OK {
-		is(g.t, "Commit", k.Commit(), g.m.Commit())
-	} else {
-		is(g.t, "Abort", k.Abort(), g.m.Abort())
-	}
-	asks(g.t, k, api.ErrEnded)
-	if g.dice.Below(4) == 0 && !bytes.Equal(g.d.Image(), g.md.Image()) {
-		g.t.Fatal("the disks are unlike")
-	}
-	g.begin()
-	return "Commit"
-}
-
-// cut takes the power away, with the same picks on both disks.
-func (g *game) cut() string {
-	g.t.Helper()
-	if g.dice.Below(2) == 0 {
-		is(g.t, "Sync", g.s.Sync(), g.ms.Sync())
-	}
-	var picks []api.Pick
-	for range g.dice.Below(4) {
-		picks = append(picks, api.Pick{A: g.dice.Below(2), B: g.dice.Below(2), Cut: g.dice.Below(513)})
-	}
-	old := g.k
-	g.d.Crash(picks)
-	g.md.Crash(picks)
-	asks(g.t, old[0], api.ErrDead)
-	g.open()
-	return "Crash"
-}
-
 // step plays one drawn call.
 func (g *game) step() string {
 	g.t.Helper()
-	k := g.k[g.dice.Below(2)]
-	if k.State() != api.OK && g.dice.Below(3) == 0 { // else it goes on, to be refused
-		return g.end(k, false)
+	if what := g.End(); what != "" {
+		return what
 	}
-	switch what := g.dice.Below(60); {
-	case what < 1:
-		return g.cut()
-	case what < 3:
-		return g.end(k, false)
-	case what < 10:
-		return g.end(k, true)
-	case what < 16:
+	k := g.k[g.Dice.Below(2)]
+	switch what := g.Dice.Below(50); {
+	case what < 6:
 		return g.put(k)
-	case what < 17:
+	case what < 7:
 		return g.many(k)
-	case what < 20:
+	case what < 10:
 		return g.bits(k)
-	case what < 31:
+	case what < 21:
 		return g.makes(k)
-	case what < 38:
+	case what < 28:
 		return g.loads(k)
-	case what < 49:
+	case what < 39:
 		return g.saves(k)
-	case what < 57:
+	case what < 47:
 		return g.frees(k)
 	default:
 		return g.alls(k)
 	}
 }
 
-// P701 to P707, whatever the blocks hold.
+// P701 to P707, whatever the blocks hold: the bitmaps and the table are the model's behind every call.
 func TestP707Drawn(t *testing.T) {
 	t.Parallel()
-	g := &game{t: t, dice: newDice(7), answer: map[api.Errno]int{}}
+	g := newGame(t)
 	for round := range 48 {
 		form := forms[round%len(forms)]
-		g.d, g.md, g.nodes = formatted(t, form), formatted(t, form), form.Nodes
-		g.open()
+		g.nodes = form.Nodes
+		g.Start(form)
 		for range 300 {
-			g.alike(g.step())
+			g.Alike(g.step(), 2+form.Nodes/4)
 		}
 	}
-	for _, e := range []api.Errno{api.OK, api.ErrArg, api.ErrRange, api.ErrNode, api.ErrField, api.ErrOwned, api.ErrFree, api.ErrCorrupt, api.ErrNoNodes, api.ErrBudget} {
-		if g.answer[e] < 20 {
-			t.Errorf("the draw is thin: %v was answered %d times", e, g.answer[e])
-		}
-	}
+	g.Answered(api.OK, api.ErrArg, api.ErrRange, api.ErrNode, api.ErrField, api.ErrOwned, api.ErrFree, api.ErrCorrupt, api.ErrNoNodes, api.ErrBudget)
 }

@@ -36,6 +36,8 @@ var (
 	opened    = trial.Opened
 	newDice   = trial.NewDice
 	unlike    = trial.Unlike
+	get       = trial.Get
+	blocks    = trial.Blocks
 )
 
 func makes(t *testing.T, k *node.Table, kind, parent, want int, wantE api.Errno) {
@@ -96,16 +98,6 @@ func three(t *testing.T) (*disk.Disk, *store.Store, *node.Table) {
 	return d, s, begun(t, s)
 }
 
-func get(t *testing.T, k *node.Table, block int) []byte {
-	t.Helper()
-	return trial.Get(t, k.Tx, block)
-}
-
-func blocks(t *testing.T, k *node.Table) [][]byte {
-	t.Helper()
-	return trial.Blocks(t, k.Tx)
-}
-
 // raw are the bytes of a slot, by the chapter's numbers.
 func raw(t *testing.T, k *node.Table, number int) []byte {
 	t.Helper()
@@ -130,7 +122,7 @@ func record(t *testing.T, n api.Node) []byte {
 // putOthers puts so many data blocks.
 func putOthers(t *testing.T, k *node.Table, count int) {
 	t.Helper()
-	trial.PutMany(t, k.Tx, k.Layout().Data, count)
+	trial.PutMany(t, k, k.Layout().Data, count)
 }
 
 func TestP701Examples(t *testing.T) {
@@ -646,33 +638,28 @@ func TestP706NewMemory(t *testing.T) {
 	all(t, k, 0, 1, 2, 3, 4)
 }
 
-// put is a call, and the blocks that it puts when nothing is refused.
-type put struct {
-	what string
-	puts []int
-	call func(k *node.Table) api.Errno
-	want api.Errno
-}
+// put is a call, and the blocks that it puts.
+type put = trial.Call[*node.Table]
 
 var puts = []put{
-	{"Make", []int{1, 2}, func(k *node.Table) api.Errno { _, e := k.Make(api.KFile, 0); return e }, api.OK},
-	{"Save", []int{2}, func(k *node.Table) api.Errno { return k.Save(2, api.Node{Kind: 1, Size: 5}) }, api.OK},
-	{"Free", []int{1, 2}, func(k *node.Table) api.Errno { return k.Free(2) }, api.OK},
-	{"Save of the same", nil, func(k *node.Table) api.Errno { return k.Save(2, api.Node{Kind: 1}) }, api.OK},
-	{"Load", nil, func(k *node.Table) api.Errno { _, e := k.Load(2); return e }, api.OK},
-	{"All", nil, func(k *node.Table) api.Errno { _, e := k.All(0); return e }, api.OK},
-	{"Make of no kind", nil, func(k *node.Table) api.Errno { _, e := k.Make(0, 0); return e }, api.ErrArg},
-	{"Make without a parent", nil, func(k *node.Table) api.Errno { _, e := k.Make(api.KDir, 0); return e }, api.ErrRange},
-	{"Load of none", nil, func(k *node.Table) api.Errno { _, e := k.Load(5); return e }, api.ErrNode},
-	{"Save of none", nil, func(k *node.Table) api.Errno { return k.Save(5, api.Node{Kind: 1}) }, api.ErrNode},
-	{"Save of no number", nil, func(k *node.Table) api.Errno { return k.Save(9, api.Node{Kind: 1}) }, api.ErrRange},
-	{"Save of no field", nil, func(k *node.Table) api.Errno { return k.Save(2, api.Node{Kind: 1, Size: -1}) }, api.ErrField},
-	{"Save of another kind", nil, func(k *node.Table) api.Errno { return k.Save(2, api.Node{Kind: 3, Size: 5}) }, api.ErrArg},
-	{"Free of none", nil, func(k *node.Table) api.Errno { return k.Free(5) }, api.ErrNode},
-	{"Free of no number", nil, func(k *node.Table) api.Errno { return k.Free(0) }, api.ErrRange},
-	{"Free of an owner", nil, func(k *node.Table) api.Errno { return k.Free(4) }, api.ErrOwned},
-	{"Free of a free number", nil, func(k *node.Table) api.Errno { return k.Free(3) }, api.ErrFree},
-	{"All of no kind", nil, func(k *node.Table) api.Errno { _, e := k.All(4); return e }, api.ErrArg},
+	{What: "Make", Puts: []int{1, 2}, Do: func(k *node.Table) api.Errno { _, e := k.Make(api.KFile, 0); return e }},
+	{What: "Save", Puts: []int{2}, Do: func(k *node.Table) api.Errno { return k.Save(2, api.Node{Kind: 1, Size: 5}) }},
+	{What: "Free", Puts: []int{1, 2}, Do: func(k *node.Table) api.Errno { return k.Free(2) }},
+	{What: "Save of the same", Do: func(k *node.Table) api.Errno { return k.Save(2, api.Node{Kind: 1}) }},
+	{What: "Load", Do: func(k *node.Table) api.Errno { _, e := k.Load(2); return e }},
+	{What: "All", Do: func(k *node.Table) api.Errno { _, e := k.All(0); return e }},
+	{What: "Make of no kind", Do: func(k *node.Table) api.Errno { _, e := k.Make(0, 0); return e }, Want: api.ErrArg},
+	{What: "Make without a parent", Do: func(k *node.Table) api.Errno { _, e := k.Make(api.KDir, 0); return e }, Want: api.ErrRange},
+	{What: "Load of none", Do: func(k *node.Table) api.Errno { _, e := k.Load(5); return e }, Want: api.ErrNode},
+	{What: "Save of none", Do: func(k *node.Table) api.Errno { return k.Save(5, api.Node{Kind: 1}) }, Want: api.ErrNode},
+	{What: "Save of no number", Do: func(k *node.Table) api.Errno { return k.Save(9, api.Node{Kind: 1}) }, Want: api.ErrRange},
+	{What: "Save of no field", Do: func(k *node.Table) api.Errno { return k.Save(2, api.Node{Kind: 1, Size: -1}) }, Want: api.ErrField},
+	{What: "Save of another kind", Do: func(k *node.Table) api.Errno { return k.Save(2, api.Node{Kind: 3, Size: 5}) }, Want: api.ErrArg},
+	{What: "Free of none", Do: func(k *node.Table) api.Errno { return k.Free(5) }, Want: api.ErrNode},
+	{What: "Free of no number", Do: func(k *node.Table) api.Errno { return k.Free(0) }, Want: api.ErrRange},
+	{What: "Free of an owner", Do: func(k *node.Table) api.Errno { return k.Free(4) }, Want: api.ErrOwned},
+	{What: "Free of a free number", Do: func(k *node.Table) api.Errno { return k.Free(3) }, Want: api.ErrFree},
+	{What: "All of no kind", Do: func(k *node.Table) api.Errno { _, e := k.All(4); return e }, Want: api.ErrArg},
 }
 
 // ready is a small store as three tells it, whose number 3 is free though its slot holds a node.
@@ -684,58 +671,21 @@ func ready(t *testing.T) (*disk.Disk, *store.Store, *node.Table) {
 	return d, s, begun(t, s)
 }
 
-// Each call puts the blocks that are said, and no other; none writes to the disk ahead of Commit, and a Commit of what put nothing writes nothing.
-func TestP707Puts(t *testing.T) {
-	for _, c := range puts {
-		d, _, k := ready(t)
-		was, counts := blocks(t, k), d.Counts()
-		is(t, c.what, c.call(k), c.want)
-		if list := unlike(was, blocks(t, k)); !slices.Equal(list, c.puts) {
-			t.Fatalf("%s has changed the blocks %v, want %v", c.what, list, c.puts)
-		}
-		now := d.Counts()
-		if now.Reads = counts.Reads; now != counts {
-			t.Fatalf("%s has asked the disk %+v, before %+v", c.what, now, counts)
-		}
-		is(t, "Commit", k.Commit(), api.OK)
-		if wrote := d.Counts().Writes > counts.Writes; wrote != (c.puts != nil) {
-			t.Fatalf("%s, then Commit: %v writes", c.what, d.Counts().Writes-counts.Writes)
-		}
+func putting(t *testing.T) *trial.Puts[*node.Table] {
+	p := &trial.Puts[*node.Table]{
+		T:       t,
+		Ready:   func() (*disk.Disk, *store.Store, *node.Table) { return ready(t) },
+		Refused: func(k *node.Table, want api.Errno) { asks(t, k, want) },
+		Calls:   puts,
 	}
+	for b := 4; b < 43; b++ {
+		p.Others = append(p.Others, b)
+	}
+	return p
 }
 
-// Where so many blocks were put before it, a call is let through or refused with ErrBudget; the errors that it has otherwise go ahead.
-func TestP707Budget(t *testing.T) {
-	for _, c := range puts {
-		for others := 13; others <= 16; others++ {
-			_, s, k := ready(t)
-			was := blocks(t, k)
-			putOthers(t, k, others)
-			want := c.want
-			if others+len(c.puts) > 16 && c.puts != nil {
-				want = api.ErrBudget
-			}
-			is(t, c.what, c.call(k), want)
-			if want == api.ErrBudget {
-				asks(t, k, api.ErrBudget)
-				is(t, "Commit", k.Commit(), api.ErrBudget)
-				is(t, "Abort", k.Abort(), api.OK)
-				if list := unlike(was, blocks(t, begun(t, s))); list != nil {
-					t.Fatalf("%s without room has changed %v", c.what, list)
-				}
-				continue
-			}
-			// What room is left tells how many blocks it has put.
-			for free := 16 - others - len(c.puts); free >= 0; free-- {
-				want := api.OK
-				if free == 0 {
-					want = api.ErrBudget
-				}
-				is(t, c.what+", then Put", k.Put(42-free, fill(7)), want)
-			}
-		}
-	}
-}
+func TestP707Puts(t *testing.T)   { putting(t).Blocks() }
+func TestP707Budget(t *testing.T) { putting(t).Budget() }
 
 // With a block too many and no number either, or a broken slot, that goes ahead of the budget.
 func TestP707BudgetLast(t *testing.T) {
@@ -744,16 +694,16 @@ func TestP707BudgetLast(t *testing.T) {
 	is(t, "Put", k.Put(3, fill('x')), api.OK)
 	is(t, "Commit", k.Commit(), api.OK)
 	for _, c := range []put{
-		{what: "Make", call: func(k *node.Table) api.Errno { _, e := k.Make(api.KFile, 0); return e }, want: api.ErrNoNodes},
-		{what: "Save", call: func(k *node.Table) api.Errno { return k.Save(5, api.Node{Kind: 1}) }, want: api.ErrCorrupt},
-		{what: "Free", call: func(k *node.Table) api.Errno { return k.Free(5) }, want: api.ErrCorrupt},
-		{what: "Save", call: func(k *node.Table) api.Errno { return k.Save(2, api.Node{Kind: 1, Links: 1}) }, want: api.ErrBudget},
-		{what: "Free", call: func(k *node.Table) api.Errno { return k.Free(2) }, want: api.ErrBudget},
+		{What: "Make", Do: func(k *node.Table) api.Errno { _, e := k.Make(api.KFile, 0); return e }, Want: api.ErrNoNodes},
+		{What: "Save", Do: func(k *node.Table) api.Errno { return k.Save(5, api.Node{Kind: 1}) }, Want: api.ErrCorrupt},
+		{What: "Free", Do: func(k *node.Table) api.Errno { return k.Free(5) }, Want: api.ErrCorrupt},
+		{What: "Save", Do: func(k *node.Table) api.Errno { return k.Save(2, api.Node{Kind: 1, Links: 1}) }, Want: api.ErrBudget},
+		{What: "Free", Do: func(k *node.Table) api.Errno { return k.Free(2) }, Want: api.ErrBudget},
 	} {
 		k = begun(t, s)
 		putOthers(t, k, 16)
-		is(t, c.what, c.call(k), c.want)
-		asks(t, k, c.want)
+		is(t, c.What, c.Do(k), c.Want)
+		asks(t, k, c.Want)
 		is(t, "Abort", k.Abort(), api.OK)
 	}
 }

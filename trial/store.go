@@ -14,6 +14,16 @@ type T interface {
 	Fatalf(format string, args ...any)
 }
 
+// View is what every view on a transaction has of it.
+type View interface {
+	Layout() api.Layout
+	State() api.Errno
+	Get(block int) ([]byte, api.Errno)
+	Put(block int, data []byte) api.Errno
+	Commit() api.Errno
+	Abort() api.Errno
+}
+
 // Is asks for an error.
 func Is(t T, what string, got, want api.Errno) {
 	t.Helper()
@@ -51,19 +61,19 @@ func Begun(t T, s *store.Store) *store.Tx {
 }
 
 // Get is a block as a transaction sees it.
-func Get(t T, tx *store.Tx, block int) []byte {
+func Get(t T, v View, block int) []byte {
 	t.Helper()
-	data, e := tx.Get(block)
+	data, e := v.Get(block)
 	Is(t, "Get", e, api.OK)
 	return data
 }
 
 // Blocks are all blocks as a transaction sees them.
-func Blocks(t T, tx *store.Tx) [][]byte {
+func Blocks(t T, v View) [][]byte {
 	t.Helper()
 	var list [][]byte
-	for b := range tx.Layout().Blocks {
-		list = append(list, Get(t, tx, b))
+	for b := range v.Layout().Blocks {
+		list = append(list, Get(t, v, b))
 	}
 	return list
 }
@@ -80,9 +90,9 @@ func Unlike(a, b [][]byte) []int {
 }
 
 // PutMany puts so many blocks, from that one on, each with other bytes.
-func PutMany(t T, tx *store.Tx, from, count int) {
+func PutMany(t T, v View, from, count int) {
 	t.Helper()
 	for i := range count {
-		Is(t, "Put", tx.Put(from+i, Fill(byte(i+1))), api.OK)
+		Is(t, "Put", v.Put(from+i, Fill(byte(i+1))), api.OK)
 	}
 }
