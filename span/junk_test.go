@@ -1,11 +1,9 @@
 package span_test
 
 import (
-	"slices"
 	"testing"
 
 	"vellum/api"
-	"vellum/disk"
 	"vellum/span"
 	"vellum/store"
 	"vellum/trial"
@@ -163,86 +161,47 @@ func TestP807Loops(t *testing.T) {
 	_ = corrupt(t, "loop", s, m, func(m *span.Map) { cutFrom(t, m, 1, 0, api.ErrCorrupt) })
 }
 
-// drawer plays drawn calls over drawn pointers, and asks for what holds over junk too.
+// drawer plays drawn calls over drawn junk.
 type drawer struct {
-	t      *testing.T
-	dice   *trial.Dice
-	d      *disk.Disk
-	s      *store.Store
-	m      *span.Map
-	answer map[api.Errno]int
-}
-
-// pointer draws one; most of them name data blocks.
-func (j *drawer) pointer() int {
-	d := j.dice
-	return trial.One(d, 0, 0, 4+d.Below(39), 4+d.Below(39), 4+d.Below(39), 4+d.Below(6), 20, 21, trial.One(d, 20, 22, 42, 43, 1, 2047))
-}
-
-// mess lays junk: a bitmap, an indirect block, or a node.
-func (j *drawer) mess() {
-	j.t.Helper()
-	d := j.dice
-	block, data := 4+d.Below(39), d.Bytes(512)
-	switch d.Below(8) {
-	case 0:
-		block = 0
-	case 1:
-		block, data = 0, fill(trial.One(d, byte(255), 0, 15))
-	case 2, 3:
-		data = indirect(map[int]int{d.Below(128): j.pointer(), 0: j.pointer(), 127: j.pointer()})
-	case 4:
-		pointers := map[int]int{}
-		for place := range 128 {
-			pointers[place] = 4 + d.Below(39)
-		}
-		data = indirect(pointers)
-	default:
-		n := api.Node{Kind: 1, Owned: trial.One(d, 0, 1, 2, 20, 2048, d.Below(2049)), Single: j.pointer(), Double: j.pointer()}
-		for i := range n.Direct {
-			n.Direct[i] = j.pointer()
-		}
-		is(j.t, "Save", j.m.Save(1+d.Below(3), n), api.OK)
-		return
-	}
-	is(j.t, "Put", j.m.Put(block, data), api.OK)
+	*trial.Junk[*span.Map]
+	t *testing.T
 }
 
 func (j *drawer) index() int {
-	d := j.dice
+	d := j.Dice
 	return trial.One(d, d.Below(10), 10+d.Below(128), 138+d.Below(16384), seams[d.Below(len(seams))], 10, 137, 138, 16521)
 }
 
 // call plays one drawn call, and asks for what is answered beside its error.
 func (j *drawer) call() api.Errno {
 	j.t.Helper()
-	d := j.dice
+	d := j.Dice
 	number := 1 + d.Below(4)
 	switch d.Below(5) {
 	case 0:
-		b, e := j.m.Where(number, j.index())
+		b, e := j.View.Where(number, j.index())
 		if b != 0 && (e != api.OK || b < 4 || b > 42) {
 			j.t.Fatalf("P807: Where: %d, %v", b, e)
 		}
 		return e
 	case 1:
-		b, fresh, e := j.m.Grow(number, j.index())
+		b, fresh, e := j.View.Grow(number, j.index())
 		if e != api.OK && (b != 0 || fresh) || e == api.OK && (b < 4 || b > 42) {
 			j.t.Fatalf("P807: Grow: %d, %v, %v", b, fresh, e)
 		}
 		return e
 	case 2:
-		list, e := j.m.Runs(number)
+		list, e := j.View.Runs(number)
 		if e != api.OK && len(list) > 0 {
 			j.t.Fatalf("P807: Runs: %v, %v", list, e)
 		}
 		j.mayBe(list)
 		return e
 	case 3:
-		return j.m.Cut(number, j.index())
+		return j.View.Cut(number, j.index())
 	default:
 		from := j.index()
-		return j.m.Punch(number, from, trial.One(d, from, from+1, max(from, j.index())))
+		return j.View.Punch(number, from, trial.One(d, from, from+1, max(from, j.index())))
 	}
 }
 
@@ -261,40 +220,21 @@ func (j *drawer) mayBe(list []api.Run) {
 // Over junk every call ends; what is refused changes nothing, or spoils the transaction.
 func TestP807Drawn(t *testing.T) {
 	t.Parallel()
-	j := &drawer{t: t, dice: newDice(807), answer: map[api.Errno]int{}}
-	j.d, j.s, j.m = fresh(t, small, 3)
-	for range 6000 {
-		for range 1 + j.dice.Below(4) {
-			j.mess()
-		}
-		refused := j.d.Counts().Refused
-		for range 1 + j.dice.Below(3) {
-			was := blocks(t, j.m)
-			e := j.call()
-			j.answer[e]++
-			if slices.Contains([]api.Errno{api.ErrCorrupt, api.ErrBudget, api.ErrNoSpace}, e) {
-				is(t, "State", j.m.State(), e)
-				wheres(t, j.m, 1, 0, 0, e)
-				break
-			}
-			is(t, "State", j.m.State(), api.OK)
-			if list := unlike(was, blocks(t, j.m)); e != api.OK && list != nil {
-				t.Fatalf("P4: %v, and %v are changed", e, list)
-			}
-		}
-		if now := j.d.Counts().Refused; now != refused {
-			t.Fatal("P9: the disk was asked for what it has not")
-		}
-		if j.m.State() != api.OK || j.dice.Below(2) == 0 {
-			is(t, "Abort", j.m.Abort(), api.OK)
-		} else {
-			is(t, "Commit", j.m.Commit(), api.OK)
-		}
-		j.m = begun(t, j.s)
+	d, s, m := fresh(t, small, 3)
+	is(t, "Abort", m.Abort(), api.OK)
+	j := &drawer{t: t}
+	j.Junk = &trial.Junk[*span.Map]{
+		T:    t,
+		Dice: newDice(807),
+		Disk: d,
+		On:   on,
+		Call: j.call,
+		Dead: func(m *span.Map, want api.Errno) { wheres(t, m, 1, 0, 0, want) },
 	}
+	answers := j.Play(s, 6000)
 	for _, e := range []api.Errno{api.OK, api.ErrNode, api.ErrCorrupt, api.ErrNoSpace} {
-		if j.answer[e] < 100 {
-			t.Errorf("the draw is thin: %v was answered %d times", e, j.answer[e])
+		if answers[e] < 100 {
+			t.Errorf("the draw is thin: %v was answered %d times", e, answers[e])
 		}
 	}
 }

@@ -31,6 +31,9 @@ var (
 	unlike    = trial.Unlike
 	get       = trial.Get
 	blocks    = trial.Blocks
+	indirect  = trial.Indirect
+	ownedBy   = trial.OwnedBy
+	rows      = trial.Rows
 )
 
 // seams are the indexes at which another pointer begins to lead the way, and those beside them.
@@ -124,22 +127,13 @@ func begun(t *testing.T, s *store.Store) *span.Map {
 // next commits, and begins another transaction.
 func next(t *testing.T, s *store.Store, m *span.Map) *span.Map {
 	t.Helper()
-	is(t, "Commit", m.Commit(), api.OK)
-	return begun(t, s)
+	return trial.Next(t, s, m, on)
 }
 
 // fresh is a store of that form with so many files, committed, and a map on a new transaction.
 func fresh(t *testing.T, form api.Super, files int) (*disk.Disk, *store.Store, *span.Map) {
 	t.Helper()
-	d := formatted(t, form)
-	s := opened(t, d)
-	m := begun(t, s)
-	is(t, "Clear", m.Clear(), api.OK)
-	for range files {
-		_, e := m.Make(api.KFile, 0)
-		is(t, "Make", e, api.OK)
-	}
-	return d, s, next(t, s, m)
+	return trial.Fresh(t, form, files, on)
 }
 
 // entry is a pointer in an indirect block, by the chapter's words.
@@ -154,15 +148,6 @@ func lay(t *testing.T, m *span.Map, block, place int, pointer uint32) {
 	data := get(t, m, block)
 	binary.LittleEndian.PutUint32(data[4*place:], pointer)
 	is(t, "Put", m.Put(block, data), api.OK)
-}
-
-// indirect is an indirect block with these pointers, by their places.
-func indirect(pointers map[int]int) []byte {
-	data := make([]byte, 512)
-	for place, pointer := range pointers {
-		binary.LittleEndian.PutUint32(data[4*place:], uint32(pointer))
-	}
-	return data
 }
 
 // fillData lays the byte x into all data blocks, in as many transactions as it takes.
@@ -681,32 +666,6 @@ func many(t *testing.T) (*disk.Disk, *store.Store, *span.Map, map[int]int) {
 		m = next(t, s, m)
 	}
 	return d, s, m, at
-}
-
-// ownedBy is how many blocks a node owns that holds blocks at just these indexes.
-func ownedBy(indexes []int) int {
-	indirects := map[int]bool{} // the places of the pointers that name them
-	for _, index := range indexes {
-		if index >= 138 {
-			indirects[1] = true
-			indirects[2+(index-138)/128] = true
-		} else if index >= 10 {
-			indirects[0] = true
-		}
-	}
-	return len(indexes) + len(indirects)
-}
-
-// rows are the runs of these rising indexes.
-func rows(indexes []int) []api.Run {
-	var list []api.Run
-	for i, index := range indexes {
-		if i == 0 || indexes[i-1] != index-1 {
-			list = append(list, api.Run{From: index})
-		}
-		list[len(list)-1].To = index + 1
-	}
-	return list
 }
 
 // Every range between two seams: what lies in it is freed, with the indirect blocks that have no pointer then, and nothing else.

@@ -1,0 +1,142 @@
+package trial
+
+import (
+	"encoding/binary"
+
+	"vellum/api"
+	"vellum/disk"
+	"vellum/store"
+)
+
+// Nodes is what a view has that knows the table of the nodes.
+type Nodes interface {
+	View
+	Save(number int, n api.Node) api.Errno
+}
+
+// Junk plays drawn calls of a view over drawn blocks, and asks for what holds there too.
+type Junk[V Nodes] struct {
+	T    T
+	Dice *Dice
+	Disk *disk.Disk
+	On   func(tx *store.Tx) V
+	Mess func()                    // lays junk of the view's own kind; none, if it is nil
+	Call func() api.Errno          // plays one drawn call, and asks for what is answered beside its error
+	Dead func(v V, want api.Errno) // asks that the view, whose transaction is spoilt, refuses its calls
+	View V
+}
+
+// Play plays so many transactions on the store of the disk, each with some junk and some calls, and tells how often each error was answered.
+func (j *Junk[V]) Play(s *store.Store, rounds int) map[api.Errno]int {
+	j.T.Helper()
+	answers := map[api.Errno]int{}
+	for range rounds {
+		j.View = j.On(Begun(j.T, s))
+		for range 1 + j.Dice.Below(4) {
+			j.mess()
+		}
+		refused := j.Disk.Counts().Refused
+		for range 1 + j.Dice.Below(3) {
+			e := j.call()
+			answers[e]++
+			if e != api.OK && j.View.State() != api.OK {
+				break
+			}
+		}
+		if j.Disk.Counts().Refused != refused {
+			j.T.Fatalf("P9: the disk was asked for what it has not")
+		}
+		j.end()
+	}
+	return answers
+}
+
+// call plays one: what is refused changes nothing, or spoils the transaction.
+func (j *Junk[V]) call() api.Errno {
+	j.T.Helper()
+	was := Blocks(j.T, j.View)
+	e := j.Call()
+	switch e {
+	case api.ErrCorrupt, api.ErrBudget, api.ErrNoSpace, api.ErrNoNodes:
+		Is(j.T, "State", j.View.State(), e)
+		j.Dead(j.View, e)
+		return e
+	}
+	Is(j.T, "State", j.View.State(), api.OK)
+	if list := Unlike(was, Blocks(j.T, j.View)); e != api.OK && list != nil {
+		j.T.Fatalf("P4: %v, and %v are changed", e, list)
+	}
+	return e
+}
+
+func (j *Junk[V]) end() {
+	j.T.Helper()
+	if j.View.State() != api.OK || j.Dice.Below(2) == 0 {
+		Is(j.T, "Abort", j.View.Abort(), api.OK)
+		return
+	}
+	Is(j.T, "Commit", j.View.Commit(), api.OK)
+}
+
+// Block draws a data block.
+func (j *Junk[V]) Block() int {
+	l := j.View.Layout()
+	return l.Data + j.Dice.Below(l.Blocks-l.Data)
+}
+
+// pointer draws one; most of them name data blocks, some the same ones.
+func (j *Junk[V]) pointer() int {
+	l := j.View.Layout()
+	return One(j.Dice, 0, 0, j.Block(), j.Block(), j.Block(), l.Data+j.Dice.Below(6), l.Data+16, l.Data+17, One(j.Dice, l.Data+16, l.Data+18, l.Blocks-1, l.Blocks, 1, 2047))
+}
+
+// mess lays junk: a bitmap, an indirect block, a node, or what the view knows besides.
+func (j *Junk[V]) mess() {
+	j.T.Helper()
+	if j.Mess != nil && j.Dice.Below(3) == 0 {
+		j.Mess()
+		return
+	}
+	d := j.Dice
+	block, data := j.Block(), d.Bytes(api.Size)
+	switch d.Below(8) {
+	case 0:
+		block = 0
+	case 1:
+		block, data = 0, Fill(One(d, byte(255), 0, 15))
+	case 2, 3:
+		data = Indirect(map[int]int{d.Below(128): j.pointer(), 0: j.pointer(), 127: j.pointer()})
+	case 4:
+		pointers := map[int]int{}
+		for place := range 128 {
+			pointers[place] = j.Block()
+		}
+		data = Indirect(pointers)
+	default:
+		j.node()
+		return
+	}
+	Is(j.T, "Put", j.View.Put(block, data), api.OK)
+}
+
+// node lays drawn pointers, a count and a size into one of the first three nodes, which must be files.
+func (j *Junk[V]) node() {
+	j.T.Helper()
+	d := j.Dice
+	n := api.Node{Kind: api.KFile, Single: j.pointer(), Double: j.pointer()}
+	n.Owned = One(d, 0, 1, 2, 20, 2048, d.Below(2049))
+	n.Size = One(d, 0, d.Below(20000), d.Below(api.MaxFile), api.MaxFile)
+	for i := range n.Direct {
+		n.Direct[i] = j.pointer()
+	}
+	Is(j.T, "Save", j.View.Save(1+d.Below(3), n), api.OK)
+}
+
+// Indirect is an indirect block with these pointers, by their places.
+func Indirect(pointers map[int]int) []byte {
+	data := make([]byte, api.Size)
+	for place, pointer := range pointers {
+		binary.LittleEndian.PutUint32(data[4*place:], uint32(pointer))
+	}
+	return data
+}
