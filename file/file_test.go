@@ -31,6 +31,8 @@ var (
 	unlike  = trial.Unlike
 	get     = trial.Get
 	blocks  = trial.Blocks
+	left    = trial.Left
+	takeTo  = trial.TakeTo
 )
 
 func on(tx *store.Tx) *file.Files { return file.On(span.On(node.On(pool.On(tx)))) }
@@ -94,28 +96,12 @@ func load(t *testing.T, f *file.Files, number int) api.Node {
 	return n
 }
 
-func left(t *testing.T, f *file.Files) int {
-	t.Helper()
-	free, _, e := f.Left()
-	is(t, "Left", e, api.OK)
-	return free
-}
-
 // stat asks for the size and the blocks of node 1, and for what is free.
 func stat(t *testing.T, f *file.Files, size, owned, free int) {
 	t.Helper()
 	n := load(t, f, 1)
 	if n.Size != size || n.Owned != owned || left(t, f) != free {
 		t.Fatalf("size %d, owned %d, %d free, want %d, %d, %d", n.Size, n.Owned, left(t, f), size, owned, free)
-	}
-}
-
-// takeTo leaves so many blocks free.
-func takeTo(t *testing.T, f *file.Files, free int) {
-	t.Helper()
-	for left(t, f) > free {
-		_, e := f.TakeBlock()
-		is(t, "TakeBlock", e, api.OK)
 	}
 }
 

@@ -243,20 +243,6 @@ func (g *game) wipes(f *file.Files) string {
 	return "Wipe"
 }
 
-// puts lays bytes into free blocks: that is nobody's business here, but for the budget.
-func (g *game) puts(count int) string {
-	g.t.Helper()
-	l := g.m.Layout()
-	bits, e := g.m.Get(0)
-	for range count {
-		b := l.Data + g.Dice.Below(l.Blocks-l.Data)
-		if e == api.OK && bits[b/8]>>(b%8)%2 == 0 {
-			g.Put(b, g.Dice.Bytes(512))
-		}
-	}
-	return "Put"
-}
-
 // step plays one drawn call.
 func (g *game) step() string {
 	g.t.Helper()
@@ -266,7 +252,8 @@ func (g *game) step() string {
 	f := g.f[g.Dice.Below(2)]
 	switch what := g.Dice.Below(50); {
 	case what < 3:
-		return g.puts(trial.One(g.Dice, 1, 3, 10))
+		g.PutFree(trial.One(g.Dice, 1, 3, 10))
+		return "Put"
 	case what < 24:
 		return g.writes(f)
 	case what < 32:

@@ -32,18 +32,6 @@ func reading(number, off, n int) func(f *file.Files) api.Errno {
 	return func(f *file.Files) api.Errno { _, e := f.ReadAt(number, off, n); return e }
 }
 
-// filled lays other bytes into the free blocks from that one on: so a fresh block is put when it is cleared.
-func filled(t *testing.T, s *store.Store, f *file.Files, from int) *file.Files {
-	t.Helper()
-	for b := from; b < f.Layout().Blocks; b++ {
-		is(t, "Put", f.Put(b, fill(byte(b))), api.OK)
-		if b%16 == 0 {
-			f = next(t, s, f)
-		}
-	}
-	return next(t, s, f)
-}
-
 // ready is a store with three files. Node 1 has 71000 bytes: its index 0 is in block 3 (full of 'a'), 1 in 4 (full of 'b'), 9 in 5, 10 in 7 behind the single block 6, 138 in 10 behind the double block 8 and the leaf 9. Node 2 has five bytes, in block 11. Node 3 has none.
 func ready(t *testing.T) (*disk.Disk, *store.Store, *file.Files) {
 	t.Helper()
@@ -54,7 +42,7 @@ func ready(t *testing.T) (*disk.Disk, *store.Store, *file.Files) {
 	writes(t, f, 1, 512*138+200, "ee", api.OK)
 	resizes(t, f, 1, 71000, api.OK)
 	writes(t, f, 2, 0, "hello", api.OK)
-	return d, s, filled(t, s, next(t, s, f), 12)
+	return d, s, trial.Filled(t, s, next(t, s, f), 12, on)
 }
 
 var step = strings.Repeat("w", 4096)
@@ -171,7 +159,7 @@ func TestP901RisingOrder(t *testing.T) {
 	} {
 		_, s, f := fresh(t, small, 1)
 		takeTo(t, f, c.free)
-		f = filled(t, s, next(t, s, f), 43-c.free)
+		f = trial.Filled(t, s, next(t, s, f), 43-c.free, on)
 		if c.puts == 14 {
 			n := load(t, f, 1)
 			n.Links = 1

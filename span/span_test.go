@@ -31,6 +31,7 @@ var (
 	unlike    = trial.Unlike
 	get       = trial.Get
 	blocks    = trial.Blocks
+	left      = trial.Left
 	indirect  = trial.Indirect
 	ownedBy   = trial.OwnedBy
 	rows      = trial.Rows
@@ -107,13 +108,6 @@ func owns(t *testing.T, m *span.Map, number, want int) {
 	if n := load(t, m, number); n.Owned != want {
 		t.Fatalf("node %d owns %d blocks, want %d", number, n.Owned, want)
 	}
-}
-
-func left(t *testing.T, m *span.Map) int {
-	t.Helper()
-	blocks, _, e := m.Left()
-	is(t, "Left", e, api.OK)
-	return blocks
 }
 
 func on(tx *store.Tx) *span.Map { return span.On(node.On(pool.On(tx))) }

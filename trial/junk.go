@@ -11,6 +11,7 @@ import (
 // Nodes is what a view has that knows the table of the nodes.
 type Nodes interface {
 	View
+	Load(number int) (api.Node, api.Errno)
 	Save(number int, n api.Node) api.Errno
 }
 
@@ -119,17 +120,20 @@ func (j *Junk[V]) mess() {
 	Is(j.T, "Put", j.View.Put(block, data), api.OK)
 }
 
-// node lays drawn pointers, a count and a size into one of the first three nodes, which must be files.
+// node lays drawn pointers, a count and a size into one of the first three nodes, which must be there.
 func (j *Junk[V]) node() {
 	j.T.Helper()
 	d := j.Dice
-	n := api.Node{Kind: api.KFile, Single: j.pointer(), Double: j.pointer()}
+	number := 1 + d.Below(3)
+	n, e := j.View.Load(number)
+	Is(j.T, "Load", e, api.OK)
+	n.Single, n.Double = j.pointer(), j.pointer()
 	n.Owned = One(d, 0, 1, 2, 20, 2048, d.Below(2049))
 	n.Size = One(d, 0, d.Below(20000), d.Below(api.MaxFile), api.MaxFile)
 	for i := range n.Direct {
 		n.Direct[i] = j.pointer()
 	}
-	Is(j.T, "Save", j.View.Save(1+d.Below(3), n), api.OK)
+	Is(j.T, "Save", j.View.Save(number, n), api.OK)
 }
 
 // Indirect is an indirect block with these pointers, by their places.

@@ -71,6 +71,19 @@ func (w *Twins) Put(block int, data []byte) {
 	Is(w.T, "Put", w.txs[0].Put(block, data), w.txs[1].Put(block, data))
 }
 
+// PutFree puts drawn bytes into some free blocks: that is no view's business, but for the budget.
+func (w *Twins) PutFree(count int) {
+	w.T.Helper()
+	l := w.txs[1].Layout()
+	bits, e := w.txs[1].Get(0)
+	for range count {
+		b := l.Data + w.Dice.Below(l.Blocks-l.Data)
+		if e == api.OK && bits[b/8]>>(b%8)%2 == 0 {
+			w.Put(b, w.Dice.Bytes(api.Size))
+		}
+	}
+}
+
 // Alike holds the first blocks, so many, or in their stead the transaction's refusal, against the model's.
 func (w *Twins) Alike(what string, blocks int) {
 	w.T.Helper()
@@ -135,11 +148,17 @@ func (w *Twins) next() {
 	w.begin()
 }
 
+// Sync makes durable what was committed.
+func (w *Twins) Sync() {
+	w.T.Helper()
+	Is(w.T, "Sync", w.stores[0].Sync(), w.stores[1].Sync())
+}
+
 // Cut takes the power away, with the same picks on both disks.
 func (w *Twins) Cut() {
 	w.T.Helper()
 	if w.Dice.Below(2) == 0 {
-		Is(w.T, "Sync", w.stores[0].Sync(), w.stores[1].Sync())
+		w.Sync()
 	}
 	var picks []api.Pick
 	for range w.Dice.Below(4) {
