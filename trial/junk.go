@@ -1,8 +1,6 @@
 package trial
 
 import (
-	"encoding/binary"
-
 	"vellum/api"
 	"vellum/disk"
 	"vellum/store"
@@ -136,11 +134,13 @@ func (j *Junk[V]) node() {
 	Is(j.T, "Save", j.View.Save(number, n), api.OK)
 }
 
-// Indirect is an indirect block with these pointers, by their places.
+// Indirect is an indirect block with these pointers, by their places: four bytes each, the lowest first.
 func Indirect(pointers map[int]int) []byte {
 	data := make([]byte, api.Size)
 	for place, pointer := range pointers {
-		binary.LittleEndian.PutUint32(data[4*place:], uint32(pointer))
+		for k := range 4 {
+			data[4*place+k] = byte(pointer >> (8 * k))
+		}
 	}
 	return data
 }

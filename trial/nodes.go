@@ -36,13 +36,13 @@ func Next[V View](t T, s *store.Store, v V, on func(*store.Tx) V) V {
 
 // OwnedBy is how many blocks a node owns that holds blocks at just these indexes.
 func OwnedBy(indexes []int) int {
-	indirects := map[int]bool{} // the places of the pointers that name them
+	indirects := map[int]struct{}{} // the places of the pointers that name them
 	for _, index := range indexes {
 		if index >= 138 {
-			indirects[1] = true
-			indirects[2+(index-138)/128] = true
+			indirects[1] = struct{}{}
+			indirects[2+(index-138)/128] = struct{}{}
 		} else if index >= 10 {
-			indirects[0] = true
+			indirects[0] = struct{}{}
 		}
 	}
 	return len(indexes) + len(indirects)
