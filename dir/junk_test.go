@@ -17,47 +17,16 @@ type drawer struct {
 	done   map[string]int
 }
 
-// mess lays a directory of two blocks that are named wherever it falls: one with entries, one with pointers, if any; its count and its size are drawn.
+// mess lays a directory, and remembers a name in it.
 func (j *drawer) mess() {
 	j.t.Helper()
-	d := j.Dice
-	entries, other := j.Block(), j.Block()
-	j.number = 1 + d.Below(3)
-	n, e := j.View.Load(j.number)
-	is(j.t, "Load", e, api.OK)
-	n.Size = 512 * trial.One(d, 1, 2, 3, 10, 11, 12, 138, 139, 140, 300, 16522)
-	n.Owned = d.Below(20)
-	for i := range n.Direct {
-		n.Direct[i] = trial.One(d, 0, 0, 0, other, trial.One(d, other, j.Block()))
-	}
-	n.Direct[d.Below(10)] = entries
-	n.Single, n.Double = trial.One(d, 0, other, entries), trial.One(d, 0, 0, other)
-	is(j.t, "Save", j.View.Save(j.number, n), api.OK)
-	pointers := map[int]int{}
-	for range d.Below(3) {
-		pointers[d.Below(128)] = trial.One(d, other, j.Block(), 43)
-	}
-	is(j.t, "Put", j.View.Put(other, trial.Indirect(pointers)), api.OK)
-	is(j.t, "Put", j.View.Put(entries, j.entries()), api.OK)
+	j.number = 1 + j.Dice.Below(3)
+	j.last = j.Dir(j.number, j.entry)
 }
 
-// entries are the bytes of a block of some, which now and then are the same ones, or broken.
-func (j *drawer) entries() []byte {
-	j.t.Helper()
+func (j *drawer) entry() api.Entry {
 	d := j.Dice
-	var data []byte
-	for range 8 {
-		var e api.Entry
-		if d.Below(3) == 0 {
-			j.last = j.name()
-			e = api.Entry{Node: trial.One(d, 1+d.Below(8), 1024), Kind: 1 + d.Below(3), Name: j.last}
-		}
-		data = append(data, record(j.t, e)...)
-	}
-	if d.Below(10) == 0 {
-		data[d.Below(512)]++
-	}
-	return data
+	return api.Entry{Node: trial.One(d, 1+d.Below(8), 1024), Kind: 1 + d.Below(3), Name: j.name()}
 }
 
 func (j *drawer) name() string {

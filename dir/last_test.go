@@ -39,17 +39,6 @@ func newKeeper(t *testing.T, form api.Super, dice *trial.Dice) *keeper {
 // names are all that are drawn.
 var names = append(numbered(30), "a", "ab", "\xff", strings.Repeat("z", 54), strings.Repeat("z", 53))
 
-// let says whether a call was let through; where there was no room the transaction is aborted.
-func (k *keeper) let(what string, e api.Errno) bool {
-	k.t.Helper()
-	if e == api.ErrNoSpace || e == api.ErrBudget {
-		k.Abort()
-		return false
-	}
-	is(k.t, what, e, api.OK)
-	return true
-}
-
 // change makes a call at a drawn name: one that the name lets be.
 func (k *keeper) change() {
 	k.t.Helper()
@@ -59,19 +48,19 @@ func (k *keeper) change() {
 	if _, there := k.Now[at]; !there {
 		dels(k.t, k.View, at.dir, at.name, api.ErrNotFound)
 		swaps(k.t, k.View, at.dir, at.name, says.node, says.kind, api.ErrNotFound)
-		if k.let("Add", k.View.Add(at.dir, at.name, says.node, says.kind)) {
+		if k.Let("Add", k.View.Add(at.dir, at.name, says.node, says.kind)) {
 			k.Now[at] = says
 		}
 		return
 	}
 	adds(k.t, k.View, at.dir, at.name, says.node, says.kind, api.ErrExists)
 	if d.Below(3) == 0 {
-		if k.let("Swap", k.View.Swap(at.dir, at.name, says.node, says.kind)) {
+		if k.Let("Swap", k.View.Swap(at.dir, at.name, says.node, says.kind)) {
 			k.Now[at] = says
 		}
 		return
 	}
-	if k.let("Del", k.View.Del(at.dir, at.name)) {
+	if k.Let("Del", k.View.Del(at.dir, at.name)) {
 		delete(k.Now, at)
 	}
 }
@@ -80,10 +69,10 @@ func (k *keeper) change() {
 func (k *keeper) file() {
 	k.t.Helper()
 	if k.Dice.Below(2) == 0 {
-		k.let("Resize", k.View.Resize(4, k.Dice.Below(3000)))
+		k.Let("Resize", k.View.Resize(4, k.Dice.Below(3000)))
 		return
 	}
-	k.let("WriteAt", k.View.WriteAt(4, k.Dice.Below(3000), []byte("not an entry")))
+	k.Let("WriteAt", k.View.WriteAt(4, k.Dice.Below(3000), []byte("not an entry")))
 }
 
 func (k *keeper) step() {

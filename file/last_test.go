@@ -32,22 +32,11 @@ func (k *keeper) some() int {
 		return number
 	}
 	made, e := k.View.Make(api.KFile, 0)
-	if !k.let("Make", e) {
+	if !k.Let("Make", e) {
 		return k.some()
 	}
 	k.Now[made] = sheet{}
 	return made
-}
-
-// let says whether a call was let through; where there was no room the transaction is aborted.
-func (k *keeper) let(what string, e api.Errno) bool {
-	k.t.Helper()
-	if e == api.ErrNoSpace || e == api.ErrBudget || e == api.ErrNoNodes {
-		k.Abort()
-		return false
-	}
-	is(k.t, what, e, api.OK)
-	return true
 }
 
 // place draws a byte of a content; some lie far behind.
@@ -60,7 +49,7 @@ func (k *keeper) write() {
 	k.t.Helper()
 	number, off := k.some(), k.place()
 	data := string(k.Dice.Bytes(1 + k.Dice.Below(min(trial.One(k.Dice, 3, 700, 4096), 4096-off%4096))))
-	if k.let("WriteAt", k.View.WriteAt(number, off, []byte(data))) {
+	if k.Let("WriteAt", k.View.WriteAt(number, off, []byte(data))) {
 		k.Now[number] = k.Now[number].write(off, data)
 		reads(k.t, k.View, number, off, len(data), data, api.OK)
 	}
@@ -76,7 +65,7 @@ func (k *keeper) resize() {
 	if e == api.ErrNoSpace {
 		k.t.Fatal("P904: Resize: no space")
 	}
-	if k.let("Resize", e) {
+	if k.Let("Resize", e) {
 		k.Now[number] = k.Now[number].resize(size)
 	}
 }
@@ -89,7 +78,7 @@ func (k *keeper) wipe() {
 	if e == api.ErrNoSpace {
 		k.t.Fatal("P904: Wipe: no space")
 	}
-	if k.let("Wipe", e) {
+	if k.Let("Wipe", e) {
 		k.Now[number] = k.Now[number].wipe(off, n)
 	}
 }
@@ -101,7 +90,7 @@ func (k *keeper) free() {
 	if k.Dice.Below(2) == 0 && load(k.t, k.View, number).Owned > 0 {
 		is(k.t, "Free", k.View.Free(number), api.ErrOwned)
 	}
-	if k.let("Resize", k.View.Resize(number, 0)) && k.let("Free", k.View.Free(number)) {
+	if k.Let("Resize", k.View.Resize(number, 0)) && k.Let("Free", k.View.Free(number)) {
 		delete(k.Now, number)
 	}
 }
@@ -116,12 +105,12 @@ func (k *keeper) mapped() {
 	}
 	index := k.Dice.Below(len(s.blocks))
 	if k.Dice.Below(2) == 0 {
-		if _, _, e := k.View.Grow(number, index); k.let("Grow", e) {
+		if _, _, e := k.View.Grow(number, index); k.Let("Grow", e) {
 			k.Now[number] = s.grow(index)
 		}
 		return
 	}
-	if k.let("Punch", k.View.Punch(number, index, index+1)) {
+	if k.Let("Punch", k.View.Punch(number, index, index+1)) {
 		k.Now[number] = s.wipe(512*index, 512)
 	}
 }

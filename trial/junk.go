@@ -2,6 +2,7 @@ package trial
 
 import (
 	"vellum/api"
+	"vellum/codec"
 	"vellum/disk"
 	"vellum/store"
 )
@@ -143,4 +144,49 @@ func Indirect(pointers map[int]int) []byte {
 		}
 	}
 	return data
+}
+
+// Dir lays a directory of two blocks that are named wherever it falls, into a node that must be one: one with entries, one with pointers, if any; its count and its size are drawn. It tells the name of an entry.
+func (j *Junk[V]) Dir(number int, entry func() api.Entry) string {
+	j.T.Helper()
+	d := j.Dice
+	entries, other := j.Block(), j.Block()
+	n, e := j.View.Load(number)
+	Is(j.T, "Load", e, api.OK)
+	n.Size = api.Size * One(d, 1, 2, 3, 10, 11, 12, 138, 139, 140, 300, api.MaxIndex)
+	n.Owned = d.Below(20)
+	for i := range n.Direct {
+		n.Direct[i] = One(d, 0, 0, 0, other, One(d, other, j.Block()))
+	}
+	n.Direct[d.Below(api.Direct)] = entries
+	n.Single, n.Double = One(d, 0, other, entries), One(d, 0, 0, other)
+	Is(j.T, "Save", j.View.Save(number, n), api.OK)
+	pointers := map[int]int{}
+	for range d.Below(3) {
+		pointers[d.Below(api.Fan)] = One(d, other, j.Block(), j.View.Layout().Blocks)
+	}
+	Is(j.T, "Put", j.View.Put(other, Indirect(pointers)), api.OK)
+	data, last := j.entries(entry)
+	Is(j.T, "Put", j.View.Put(entries, data), api.OK)
+	return last
+}
+
+// entries are the bytes of a block of some, which now and then are the same ones, or broken; and the last one's name.
+func (j *Junk[V]) entries(draw func() api.Entry) (data []byte, last string) {
+	j.T.Helper()
+	d := j.Dice
+	for range api.Size / api.EntryBytes {
+		var entry api.Entry
+		if d.Below(3) == 0 {
+			entry = draw()
+			last = entry.Name
+		}
+		record, e := codec.EncodeEntry(entry)
+		Is(j.T, "EncodeEntry", e, api.OK)
+		data = append(data, record...)
+	}
+	if d.Below(10) == 0 {
+		data[d.Below(api.Size)]++
+	}
+	return data, last
 }

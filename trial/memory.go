@@ -44,6 +44,17 @@ func (m *Memory[V, K, S]) Abort() {
 	m.View = m.On(Begun(m.T, m.s))
 }
 
+// Let says whether a call was let through; where there was no room for it the transaction is aborted.
+func (m *Memory[V, K, S]) Let(what string, e api.Errno) bool {
+	m.T.Helper()
+	if e == api.ErrNoSpace || e == api.ErrBudget || e == api.ErrNoNodes {
+		m.Abort()
+		return false
+	}
+	Is(m.T, what, e, api.OK)
+	return true
+}
+
 // Cut takes the power away behind a Sync, which lets go what is not committed.
 func (m *Memory[V, K, S]) Cut() {
 	m.T.Helper()
