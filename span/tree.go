@@ -2,6 +2,7 @@ package span
 
 import (
 	"vellum/api"
+	"vellum/fan"
 	"vellum/halt"
 )
 
@@ -38,7 +39,7 @@ func (t *tree) through(do func(pointer)) {
 
 // visit hands a pointer to do, and then those to which it leads; but none that leads to other indexes alone.
 func (t *tree) visit(p pointer, do func(pointer)) {
-	if p.first >= t.to || p.first+reach(p.level) <= t.from {
+	if p.first >= t.to || p.first+fan.Reach(p.level) <= t.from {
 		return
 	}
 	halt.If(*p.block != 0 && !t.isData(*p.block), api.ErrCorrupt)
@@ -50,27 +51,18 @@ func (t *tree) visit(p pointer, do func(pointer)) {
 
 // descend visits the pointers in an indirect block. If they are changed then, the block is put, or, as it is there just while it holds a pointer, freed.
 func (t *tree) descend(p pointer, do func(pointer)) {
-	was := readRow(halt.Got(t.Get(*p.block)))
+	was := fan.Read(halt.Got(t.Get(*p.block)))
 	now := was
 	for i := range now {
-		t.visit(pointer{block: &now[i], first: p.first + i*reach(p.level-1), level: p.level - 1}, do)
+		t.visit(pointer{block: &now[i], first: p.first + i*fan.Reach(p.level-1), level: p.level - 1}, do)
 	}
 	switch now {
 	case was:
-	case row{}:
+	case fan.Row{}:
 		t.drop(p)
 	default:
-		halt.On(t.Put(*p.block, now.bytes()))
+		halt.On(t.Put(*p.block, now.Bytes()))
 	}
-}
-
-// reach is how many indexes a pointer of that level leads to.
-func reach(level int) int {
-	indexes := 1
-	for range level {
-		indexes *= api.Fan
-	}
-	return indexes
 }
 
 // data goes through the pointers that name data blocks.

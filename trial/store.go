@@ -96,3 +96,14 @@ func PutMany(t T, v View, from, count int) {
 		Is(t, "Put", v.Put(from+i, Fill(byte(i+1))), api.OK)
 	}
 }
+
+// Laid is a disk with a store of that form whose blocks hold these bytes from the beginning, so that nothing of them has come by a transaction.
+func Laid(t T, form api.Super, blocks [][]byte) (*disk.Disk, *store.Store) {
+	t.Helper()
+	d := Formatted(t, form)
+	for b, data := range blocks {
+		Is(t, "Write", d.Write(3+form.Log+b, data), api.OK)
+	}
+	Is(t, "Flush", d.Flush(), api.OK)
+	return d, Opened(t, d)
+}
