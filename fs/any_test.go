@@ -9,6 +9,7 @@ import (
 	"vellum/api"
 	"vellum/disk"
 	"vellum/fs"
+	"vellum/site"
 	"vellum/trial"
 )
 
@@ -45,11 +46,11 @@ func TestP1303Orphans(t *testing.T) {
 			if c.orphans > 3 || c.size == 0 {
 				break
 			}
-			for at := 0; p.f.Do(by(2+k, write("", at, "y"))).Err == api.OK && at < 8000000-65536; at += 65536 + 512 {
+			for at := 0; p.f.Do(by(2+k, site.Write("", at, "y"))).Err == api.OK && at < 8000000-65536; at += 65536 + 512 {
 			}
 		}
 		is(t, "Sync", p.f.Sync(), api.OK)
-		d := loaded(t, p.d.Image())
+		d := site.Loaded(t, p.d.Image())
 		f, e := mountsIn(t, d)
 		is(t, "Mount", e, api.OK)
 		q := &pair{t, d, f, newModel(p.m.blocks, p.m.numbers)}
@@ -113,7 +114,7 @@ func TestP1303Any(t *testing.T) {
 				for range 1 + dice.Below(3) {
 					vandal(dice, image, trial.One(dice, images...), 3+form.Log)
 				}
-				disk := loaded(t, image)
+				disk := site.Loaded(t, image)
 				f, e := mountsIn(t, disk)
 				if e == api.ErrCorrupt || e == api.ErrWorn {
 					continue
@@ -153,13 +154,13 @@ func TestP1303Junk(t *testing.T) {
 	answers := map[api.Errno]int{}
 	for range 300 {
 		form := trial.One(dice, small, api.Super{Sectors: 25, Log: 18, Nodes: 4}, api.Super{Sectors: 300, Log: 18, Nodes: 1024})
-		image := made(t, form).Image()
+		image := site.Made(t, form).Image()
 		from := trial.One(dice, 0, 1, 3, 3+form.Log, 3+form.Log+2)
 		for range 1 + dice.Below(30) {
 			at := 512 * (from + dice.Below(form.Sectors-from))
 			copy(image[at:at+512], trial.One(dice, dice.Bytes(512), trial.Fill(byte(dice.Below(256))), image[:512], image[512*(5+form.Log):][:512]))
 		}
-		_, e := mountsIn(t, loaded(t, image))
+		_, e := mountsIn(t, site.Loaded(t, image))
 		answers[e]++
 	}
 	if answers[api.ErrCorrupt] < 100 || answers[api.OK] < 3 {
@@ -236,7 +237,7 @@ func TestP9Junk(t *testing.T) {
 		is(t, "Checkpoint", p.f.Checkpoint(), api.OK)
 		for range 30 {
 			image := p.d.Image()
-			vandal(dice, image, made(t, api.Super{Sectors: 100, Log: 18, Nodes: 16}).Image(), 3+18)
+			vandal(dice, image, site.Made(t, api.Super{Sectors: 100, Log: 18, Nodes: 16}).Image(), 3+18)
 			for at := 3 + 18; at < 100; at++ {
 				is(t, "Write", p.d.Write(at, image[512*at:512*at+512]), api.OK)
 			}

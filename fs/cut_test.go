@@ -8,6 +8,7 @@ import (
 	"vellum/api"
 	"vellum/disk"
 	"vellum/fs"
+	"vellum/site"
 	"vellum/trial"
 )
 
@@ -15,7 +16,7 @@ import (
 func grown(t *testing.T, form api.Super) *player {
 	t.Helper()
 	p := newPlayer(paired(t, form))
-	p.all(create("/a"), write("/a", 0, "one"), mkdir("/d"), create("/d/b"), symlink("/l", "d/b"), write("/l", 500, strings.Repeat("two", 10)))
+	p.all(site.Create("/a"), site.Write("/a", 0, "one"), site.Mkdir("/d"), site.Create("/d/b"), site.Symlink("/l", "d/b"), site.Write("/l", 500, strings.Repeat("two", 10)))
 	p.forget()
 	if !p.play(call{what: doesCheckpoint}) {
 		t.Fatal("dead without a fuse")
@@ -55,7 +56,7 @@ func cutAt(t *testing.T, begin *player, calls []call, fuse int, picks []api.Pick
 	p.d.Fuse(fuse)
 	p.row(calls)
 	p.crash(picks)
-	if !p.row(append(ops(mkdir("/anew"), write("/a", 100, "anew")), call{what: doesSync})) {
+	if !p.row(append(ops(site.Mkdir("/anew"), site.Write("/a", 100, "anew")), call{what: doesSync})) {
 		t.Fatal("dead without a fuse")
 	}
 	p.crash(nil)
@@ -64,9 +65,9 @@ func cutAt(t *testing.T, begin *player, calls []call, fuse int, picks []api.Pick
 // What is done with names, so much of it that the log of 18 sectors is filled again and again.
 func TestP1326Names(t *testing.T) {
 	t.Parallel()
-	calls := ops(create("/n"), link("/a", "/d/a"), rename("/d/b", "/n"), mkdir("/d/e"), symlink("/d/e/s", "../a"), unlink("/l"))
+	calls := ops(site.Create("/n"), site.Link("/a", "/d/a"), site.Rename("/d/b", "/n"), site.Mkdir("/d/e"), site.Symlink("/d/e/s", "../a"), site.Unlink("/l"))
 	calls = append(calls, call{what: doesSync})
-	calls = append(calls, ops(rename("/d/e", "/e"), unlink("/a"), mkdir("/d/f"), rename("/e", "/d/f"), unlink("/d/f/s"), rmdir("/d/f"))...)
+	calls = append(calls, ops(site.Rename("/d/e", "/e"), site.Unlink("/a"), site.Mkdir("/d/f"), site.Rename("/e", "/d/f"), site.Unlink("/d/f/s"), site.Rmdir("/d/f"))...)
 	everyCut(t, grown(t, small), calls)
 }
 
@@ -74,25 +75,25 @@ func TestP1326Names(t *testing.T) {
 func TestP1326Bytes(t *testing.T) {
 	t.Parallel()
 	big := strings.Repeat("0123456789", 900)
-	calls := ops(write("/a", 4000, big), truncate("/a", 600), punch("/a", 2, 400), write("/d/b", 0, "x"))
+	calls := ops(site.Write("/a", 4000, big), site.Truncate("/a", 600), site.Punch("/a", 2, 400), site.Write("/d/b", 0, "x"))
 	calls = append(calls, call{what: doesCheckpoint})
-	calls = append(calls, ops(truncate("/a", 9000), punch("/a", 0, 9000), write("/a", 70000, "far"), unlink("/a"))...)
+	calls = append(calls, ops(site.Truncate("/a", 9000), site.Punch("/a", 0, 9000), site.Write("/a", 70000, "far"), site.Unlink("/a"))...)
 	everyCut(t, grown(t, small), calls)
 }
 
 // Each piece of a Write is a step: where nothing that was written is lost, just those are there whose writes were all let through.
 func TestP1326Pieces(t *testing.T) {
 	p := newPlayer(paired(t, api.Super{Sectors: 400, Log: 200, Nodes: 4}))
-	p.all(create("/a"), write("/a", 0, "old"))
+	p.all(site.Create("/a"), site.Write("/a", 0, "old"))
 	is(t, "Sync", p.f.Sync(), api.OK)
-	op := write("/a", 1000, strings.Repeat("0123456789", 1500))
+	op := site.Write("/a", 1000, strings.Repeat("0123456789", 1500))
 	_, trees := p.m.do(op)
 	var ends []int // how many writes there are up to the end of each piece
 	dry := p.copied(t)
 	for at := 0; at < len(op.Data); {
 		end := min(len(op.Data), at+4096-(op.Off+at)%4096)
 		was := dry.d.Counts().Writes
-		dry.all(write("/a", op.Off+at, string(op.Data[at:end])))
+		dry.all(site.Write("/a", op.Off+at, string(op.Data[at:end])))
 		ends, at = append(ends, dry.d.Counts().Writes-was), end
 	}
 	if len(ends) != 4 || len(trees) != 4 {
@@ -121,8 +122,8 @@ func TestP1326Pieces(t *testing.T) {
 // Orphans: held ones, one that is released, and Mounts on the way, without a cut.
 func TestP1326Holds(t *testing.T) {
 	t.Parallel()
-	calls := []call{{what: doesHold, Op: stat("/a")}, {what: doesHold, Op: stat("/d/b")}, {Op: unlink("/a")}, {Op: unlink("/d/b")}, {what: doesSync},
-		{Op: by(2, write("", 0, "three"))}, {what: doesRelease, Op: api.Op{Node: 2}}, {Op: create("/a")}, {what: doesMount}, {Op: write("/a", 0, "four")}, {what: doesMount}}
+	calls := []call{{what: doesHold, Op: site.Stat("/a")}, {what: doesHold, Op: site.Stat("/d/b")}, {Op: site.Unlink("/a")}, {Op: site.Unlink("/d/b")}, {what: doesSync},
+		{Op: by(2, site.Write("", 0, "three"))}, {what: doesRelease, Op: api.Op{Node: 2}}, {Op: site.Create("/a")}, {what: doesMount}, {Op: site.Write("/a", 0, "four")}, {what: doesMount}}
 	everyCut(t, grown(t, small), calls)
 }
 
@@ -132,12 +133,12 @@ func TestP1302Cut(t *testing.T) {
 	p := newPlayer(paired(t, api.Super{Sectors: 80, Log: 18, Nodes: 12}))
 	for k := range 6 {
 		path := "/" + strconv.Itoa(k)
-		p.all(create(path), write(path, 5000*k, "orphan"))
+		p.all(site.Create(path), site.Write(path, 5000*k, "orphan"))
 		p.hold(path, api.OK)
 	}
-	p.all(write("/3", 70000, "x"))
+	p.all(site.Write("/3", 70000, "x"))
 	for _, k := range []string{"/5", "/0", "/3", "/1"} {
-		p.all(unlink(k))
+		p.all(site.Unlink(k))
 	}
 	is(t, "Sync", p.f.Sync(), api.OK)
 	image := p.d.Image()
@@ -146,7 +147,7 @@ func TestP1302Cut(t *testing.T) {
 	refused := 0
 	for _, picks := range trial.Picks() {
 		for fuse := 0; ; fuse++ {
-			d := loaded(t, image)
+			d := site.Loaded(t, image)
 			d.Fuse(fuse)
 			f, e := fs.Mount(d)
 			if e != api.OK {
@@ -157,7 +158,7 @@ func TestP1302Cut(t *testing.T) {
 				refused++
 			}
 			d.Crash(picks)
-			q := &pair{t, d, mounted(t, d), p.m}
+			q := &pair{t, d, site.Mounted(t, d), p.m}
 			if got := treeOf(q.f.Do); got != want {
 				t.Fatalf("P1326: a Mount cut behind %d calls with %v: the tree is then\n%q, want\n%q", fuse, picks, got, want)
 			}
@@ -203,7 +204,7 @@ func TestP1301Cut(t *testing.T) {
 	full := grown(t, small)
 	pending := func() *player {
 		p := full.copied(t)
-		p.row(append(ops(create("/m"), unlink("/a")), call{what: doesSync}, call{Op: mkdir("/o")}, call{Op: rename("/d", "/o/d")}))
+		p.row(append(ops(site.Create("/m"), site.Unlink("/a")), call{what: doesSync}, call{Op: site.Mkdir("/o")}, call{Op: site.Rename("/d", "/o/d")}))
 		return p
 	}
 	blank := func() *player {
@@ -228,12 +229,12 @@ func TestP1301Cut(t *testing.T) {
 	}
 	torn := 0
 	for _, image := range pieces {
-		if _, e := fs.Mount(loaded(t, image)); e != api.ErrCorrupt {
+		if _, e := fs.Mount(site.Loaded(t, image)); e != api.ErrCorrupt {
 			continue
 		}
 		torn++
 		for calls := 0; calls < 150; calls += 1 + calls/3 {
-			cut(func() *player { return &player{pair: &pair{t: t, d: loaded(t, image)}} }, calls, []api.Pick{trial.Tear(100 + calls)})
+			cut(func() *player { return &player{pair: &pair{t: t, d: site.Loaded(t, image)}} }, calls, []api.Pick{trial.Tear(100 + calls)})
 		}
 	}
 	if was < 10 || corrupt < 500 || fresh < 20 || torn < 2 {
@@ -281,7 +282,7 @@ func TestP1327Steps(t *testing.T) {
 	t.Parallel()
 	for _, log := range []int{18, 33, 34, 60, 85} {
 		p := paired(t, api.Super{Sectors: 1200, Log: log, Nodes: 40})
-		p.all(create("/a"))
+		p.all(site.Create("/a"))
 		dice := trial.NewDice(log)
 		for round := range 6 {
 			is(t, "Checkpoint", p.f.Checkpoint(), api.OK)

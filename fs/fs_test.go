@@ -9,6 +9,7 @@ import (
 	"vellum/disk"
 	"vellum/fs"
 	"vellum/seal"
+	"vellum/site"
 	"vellum/trial"
 	"vellum/walk"
 )
@@ -23,50 +24,50 @@ func TestExamples(t *testing.T) {
 		}
 	}
 	room(40, 3)
-	p.all(create("/a"))
+	p.all(site.Create("/a"))
 	room(39, 2)
-	if r := p.does(write("/a", 0, "hello"), api.OK); r.N != 5 {
+	if r := p.does(site.Write("/a", 0, "hello"), api.OK); r.N != 5 {
 		t.Errorf("P1315: N %d", r.N)
 	}
-	if r := p.does(stat("/a"), api.OK); r.Stat != (api.Stat{Node: 2, Kind: 1, Links: 1, Size: 5, Owned: 1}) {
+	if r := p.does(site.Stat("/a"), api.OK); r.Stat != (api.Stat{Node: 2, Kind: 1, Links: 1, Size: 5, Owned: 1}) {
 		t.Errorf("P1318: %+v", r.Stat)
 	}
-	p.all(write("/a", 6000, "x"))
-	if r := p.does(stat("/a"), api.OK); r.Stat != (api.Stat{Node: 2, Kind: 1, Links: 1, Size: 6001, Owned: 3}) {
+	p.all(site.Write("/a", 6000, "x"))
+	if r := p.does(site.Stat("/a"), api.OK); r.Stat != (api.Stat{Node: 2, Kind: 1, Links: 1, Size: 6001, Owned: 3}) {
 		t.Errorf("P1318: %+v", r.Stat)
 	}
-	if r := p.does(runs("/a"), api.OK); r.N != 2 || r.Runs[0] != (api.Run{From: 0, To: 1}) || r.Runs[1] != (api.Run{From: 11, To: 12}) {
+	if r := p.does(site.Runs("/a"), api.OK); r.N != 2 || r.Runs[0] != (api.Run{From: 0, To: 1}) || r.Runs[1] != (api.Run{From: 11, To: 12}) {
 		t.Errorf("P1322: %+v", r)
 	}
 	room(36, 2)
-	if r := p.does(read("/a", 3, 5), api.OK); string(r.Data) != "lo\x00\x00\x00" || r.N != 5 {
+	if r := p.does(site.Read("/a", 3, 5), api.OK); string(r.Data) != "lo\x00\x00\x00" || r.N != 5 {
 		t.Errorf("P1314: %q, %d", r.Data, r.N)
 	}
-	p.all(truncate("/a", 2), truncate("/a", 4))
-	if r := p.does(read("/a", 0, 100), api.OK); string(r.Data) != "he\x00\x00" {
+	p.all(site.Truncate("/a", 2), site.Truncate("/a", 4))
+	if r := p.does(site.Read("/a", 0, 100), api.OK); string(r.Data) != "he\x00\x00" {
 		t.Errorf("P1316: %q", r.Data)
 	}
-	p.all(mkdir("/d"), rename("/a", "/d/b"), symlink("/l", "d/b"))
-	if r := p.does(read("/l", 0, 2), api.OK); string(r.Data) != "he" {
+	p.all(site.Mkdir("/d"), site.Rename("/a", "/d/b"), site.Symlink("/l", "d/b"))
+	if r := p.does(site.Read("/l", 0, 2), api.OK); string(r.Data) != "he" {
 		t.Errorf("P1305: %q", r.Data)
 	}
 	room(36, 0)
-	p.does(create("/e"), api.ErrNoNodes)
+	p.does(site.Create("/e"), api.ErrNoNodes)
 	is(t, "Sync", p.f.Sync(), api.OK)
 	was := p.m.clone()
-	p.all(unlink("/l"))
+	p.all(site.Unlink("/l"))
 	p.d.Crash(nil)
-	is(t, "P5: a dead one", p.f.Do(stat("/")).Err, api.ErrDead)
+	is(t, "P5: a dead one", p.f.Do(site.Stat("/")).Err, api.ErrDead)
 	p.m = was
 	p.again()
-	p.all(unlink("/l"))
+	p.all(site.Unlink("/l"))
 	p.d.Crash([]api.Pick{trial.Keep()})
 	p.again()
-	p.answers([]answer{{lstat("/l"), api.ErrNotFound}, {rename("/d", "/d/x"), api.ErrInside}, {rmdir("/d"), api.ErrNotEmpty}, {link("/d", "/f"), api.ErrIsDir}, {unlink("/"), api.ErrPath}})
+	p.answers([]answer{{site.Lstat("/l"), api.ErrNotFound}, {site.Rename("/d", "/d/x"), api.ErrInside}, {site.Rmdir("/d"), api.ErrNotEmpty}, {site.Link("/d", "/f"), api.ErrIsDir}, {site.Unlink("/"), api.ErrPath}})
 	is(t, "Sync", p.f.Sync(), api.OK)
 	image := p.d.Image()
 	image[9] ^= 4
-	_, e := fs.Mount(loaded(t, image))
+	_, e := fs.Mount(site.Loaded(t, image))
 	is(t, "P1302: a bit of the superblock", e, api.ErrCorrupt)
 }
 
@@ -79,7 +80,7 @@ func TestP1301Refused(t *testing.T) {
 	if !bytes.Equal(p.d.Image(), image) || p.d.Counts().Pending != 0 {
 		t.Error("P1301: a Mkfs that was refused has written")
 	}
-	p.all(create("/a")) // it lives on
+	p.all(site.Create("/a")) // it lives on
 	for _, sectors := range []int{1, 24} {
 		d, _ := disk.New(sectors)
 		is(t, "P1301: a disk too small", fs.Mkfs(d, 18, 4), api.ErrGeometry)
@@ -94,7 +95,7 @@ func TestP1301Refused(t *testing.T) {
 // Mkfs makes just the writes and flushes of the calls that it is made of.
 func TestP1301(t *testing.T) {
 	for _, form := range []api.Super{{Sectors: 25, Log: 18, Nodes: 4}, {Sectors: 26, Log: 18, Nodes: 8}, small, wide, {Sectors: 2048, Log: 256, Nodes: 1024}} {
-		d := made(t, form)
+		d := site.Made(t, form)
 		twin := trial.Formatted(t, form)
 		s := trial.Opened(t, twin)
 		w := on(trial.Begun(t, s))
@@ -106,15 +107,15 @@ func TestP1301(t *testing.T) {
 		is(t, "Commit", w.Commit(), api.OK)
 		is(t, "Checkpoint", s.Checkpoint(), api.OK)
 		sameDisks(t, "P1301", d, twin)
-		p := &pair{t, d, mounted(t, d), newModel(form.Sectors-form.Log-5-form.Nodes/4, form.Nodes)}
+		p := &pair{t, d, site.Mounted(t, d), newModel(form.Sectors-form.Log-5-form.Nodes/4, form.Nodes)}
 		p.tree()
-		if r := p.does(stat("/.."), api.OK); r.Stat != (api.Stat{Node: 1, Kind: api.KDir, Links: 2}) {
+		if r := p.does(site.Stat("/.."), api.OK); r.Stat != (api.Stat{Node: 1, Kind: api.KDir, Links: 2}) {
 			t.Errorf("P1301: the root is %+v", r.Stat)
 		}
-		p.all(create("/a"))
+		p.all(site.Create("/a"))
 		is(t, "P1301: Mkfs", fs.Mkfs(d, 18, 4), api.OK)
-		is(t, "P1301: what was mounted before", p.f.Do(stat("/")).Err, api.ErrDead)
-		(&pair{t, d, mounted(t, d), newModel(form.Sectors-18-6, 4)}).tree()
+		is(t, "P1301: what was mounted before", p.f.Do(site.Stat("/")).Err, api.ErrDead)
+		(&pair{t, d, site.Mounted(t, d), newModel(form.Sectors-18-6, 4)}).tree()
 	}
 }
 
@@ -132,7 +133,7 @@ func sameDisks(t *testing.T, what string, a, b *disk.Disk) {
 
 // Each write and flush of a Mkfs may be the first that is refused; the one behind which all is done may be the last that is let through.
 func TestP1301Dead(t *testing.T) {
-	d := made(t, small)
+	d := site.Made(t, small)
 	c := d.Counts()
 	total := c.Writes + c.Flushes
 	for fuse := range total + 1 {
@@ -149,14 +150,14 @@ func TestP1301Dead(t *testing.T) {
 // A Mount answers nothing but its error where there is no file system.
 func TestP1302Refused(t *testing.T) {
 	p := paired(t, small)
-	p.all(create("/a"), write("/a", 0, "text"), symlink("/l", "a"), mkdir("/d"), create("/d/x"))
+	p.all(site.Create("/a"), site.Write("/a", 0, "text"), site.Symlink("/l", "a"), site.Mkdir("/d"), site.Create("/d/x"))
 	is(t, "Checkpoint", p.f.Checkpoint(), api.OK)
 	image := p.d.Image()
 	broken := func(what string, want api.Errno, by func(image []byte)) {
 		t.Helper()
 		image := bytes.Clone(image)
 		by(image)
-		d := loaded(t, image)
+		d := site.Loaded(t, image)
 		f, e := fs.Mount(d)
 		if e != want || f != nil {
 			t.Errorf("P1302: %s: %v, %v, want %v", what, f, e, want)
@@ -174,7 +175,7 @@ func TestP1302Refused(t *testing.T) {
 		is(t, "Renew", e, api.OK)
 		copy(image[512+512*slot:], sector)
 	})
-	d := loaded(t, image)
+	d := site.Loaded(t, image)
 	d.Fuse(0)
 	f, e := fs.Mount(d)
 	if e != api.ErrDead || f != nil {
@@ -182,7 +183,7 @@ func TestP1302Refused(t *testing.T) {
 	}
 	faulty := func(what string, phase int, by func(w *walk.Walk)) {
 		t.Helper()
-		d := loaded(t, image)
+		d := site.Loaded(t, image)
 		s := trial.Opened(t, d)
 		w := on(trial.Begun(t, s))
 		by(w)
@@ -216,14 +217,14 @@ func littered(t *testing.T, form api.Super, orphans, size int) *pair {
 	t.Helper()
 	p := paired(t, form)
 	for range orphans {
-		is(t, "create", p.f.Do(create("/o")).Err, api.OK)
+		is(t, "create", p.f.Do(site.Create("/o")).Err, api.OK)
 		if size > 0 {
-			is(t, "write", p.f.Do(write("/o", size, "x")).Err, api.OK)
-			is(t, "write", p.f.Do(write("/o", 0, strings.Repeat("y", size%5000))).Err, api.OK)
+			is(t, "write", p.f.Do(site.Write("/o", size, "x")).Err, api.OK)
+			is(t, "write", p.f.Do(site.Write("/o", 0, strings.Repeat("y", size%5000))).Err, api.OK)
 		}
 		_, e := p.f.Hold("/o")
 		is(t, "Hold", e, api.OK)
-		is(t, "unlink", p.f.Do(unlink("/o")).Err, api.OK)
+		is(t, "unlink", p.f.Do(site.Unlink("/o")).Err, api.OK)
 	}
 	is(t, "Sync", p.f.Sync(), api.OK)
 	p.m = modelOf(t, p.d.Image())
@@ -234,13 +235,13 @@ func littered(t *testing.T, form api.Super, orphans, size int) *pair {
 func TestP1302Orphans(t *testing.T) {
 	for _, orphans := range []int{0, 1, 2, 6} {
 		p := littered(t, api.Super{Sectors: 120, Log: 19, Nodes: 12}, orphans, 5200)
-		p.all(create("/z"), write("/z", 0, "stays"))
+		p.all(site.Create("/z"), site.Write("/z", 0, "stays"))
 		for _, synced := range []bool{false, true} {
 			if synced {
 				is(t, "Sync", p.f.Sync(), api.OK)
 			}
-			d, twin := loaded(t, p.d.Image()), loaded(t, p.d.Image())
-			f := mounted(t, d)
+			d, twin := site.Loaded(t, p.d.Image()), site.Loaded(t, p.d.Image())
+			f := site.Mounted(t, d)
 			s := trial.Opened(t, twin)
 			for k := range orphans {
 				w := on(trial.Begun(t, s))
@@ -261,14 +262,14 @@ func TestP1302Orphans(t *testing.T) {
 // Without a cut all steps are there, synced or not; but nothing is held.
 func TestP1302Again(t *testing.T) {
 	p := paired(t, small)
-	p.all(create("/a"), write("/a", 0, "text"), create("/b"))
+	p.all(site.Create("/a"), site.Write("/a", 0, "text"), site.Create("/b"))
 	a, b := p.hold("/a", api.OK), p.hold("/b", api.OK)
-	p.all(unlink("/b"), by(b, write("", 0, "held")))
+	p.all(site.Unlink("/b"), by(b, site.Write("", 0, "held")))
 	old := p.f
 	p.again()
-	is(t, "P1302: what was mounted before", old.Do(stat("/")).Err, api.ErrDead)
-	p.does(by(a, stat("")), api.ErrNotHeld)
-	p.does(by(b, stat("")), api.ErrNotHeld)
+	is(t, "P1302: what was mounted before", old.Do(site.Stat("/")).Err, api.ErrDead)
+	p.does(by(a, site.Stat("")), api.ErrNotHeld)
+	p.does(by(b, site.Stat("")), api.ErrNotHeld)
 	p.release(a, api.ErrNotHeld)
 	p.release(b, api.ErrNotHeld)
 	p.again()
@@ -288,9 +289,9 @@ func TestP5Dead(t *testing.T) {
 		"taken":      func(d *disk.Disk) { d.Take() },
 	} {
 		p := paired(t, small)
-		p.all(create("/a"), create("/b"), mkdir("/d"))
+		p.all(site.Create("/a"), site.Create("/b"), site.Mkdir("/d"))
 		k := p.hold("/a", api.OK)
-		p.all(unlink("/a"))
+		p.all(site.Unlink("/a"))
 		end(p.d)
 		was := p.d.Counts()
 		for kind := -1; kind <= 17; kind++ {

@@ -6,6 +6,7 @@ import (
 	"testing"
 
 	"vellum/api"
+	"vellum/site"
 	"vellum/trial"
 )
 
@@ -36,25 +37,25 @@ func TestP1323Orphans(t *testing.T) {
 	for range 3 {
 		p.hold("/a", api.OK)
 	}
-	p.all(link("/a", "/d/a"), unlink("/a"), by(2, read("", 0, 9)), unlink("/d/a"))
-	p.answers([]answer{{stat("/a"), api.ErrNotFound}, {by(2, stat("")), api.OK}, {by(2, write("", 5000, "more")), api.OK}, {by(2, truncate("", 5002)), api.OK}, {by(2, punch("", 0, 600)), api.OK}, {by(2, runs("")), api.OK}, {by(2, read("", 4999, 9)), api.OK}})
+	p.all(site.Link("/a", "/d/a"), site.Unlink("/a"), by(2, site.Read("", 0, 9)), site.Unlink("/d/a"))
+	p.answers([]answer{{site.Stat("/a"), api.ErrNotFound}, {by(2, site.Stat("")), api.OK}, {by(2, site.Write("", 5000, "more")), api.OK}, {by(2, site.Truncate("", 5002)), api.OK}, {by(2, site.Punch("", 0, 600)), api.OK}, {by(2, site.Runs("")), api.OK}, {by(2, site.Read("", 4999, 9)), api.OK}})
 	p.hold("/a", api.ErrNotFound)
-	p.all(create("/a"))
+	p.all(site.Create("/a"))
 	p.stats("/a", api.Stat{Node: 10, Kind: api.KFile, Links: 1})
 	p.release(2, api.OK)
 	p.tree()
 	p.release(2, api.OK)
-	p.all(by(2, stat("")))
+	p.all(by(2, site.Stat("")))
 	p.release(2, api.OK)
-	p.does(by(2, stat("")), api.ErrNotHeld)
+	p.does(by(2, site.Stat("")), api.ErrNotHeld)
 	p.release(2, api.ErrNotHeld)
-	p.all(mkdir("/n"))
+	p.all(site.Mkdir("/n"))
 	p.stats("/n", api.Stat{Node: 2, Kind: api.KDir, Links: 2})
 	p.tree()
 	// one that has a name when it is released stays, also behind its last name's end
 	p.hold("/d/b", api.OK)
 	p.release(4, api.OK)
-	p.all(stat("/d/b"), unlink("/d/b"))
+	p.all(site.Stat("/d/b"), site.Unlink("/d/b"))
 	p.tree()
 }
 
@@ -75,7 +76,7 @@ func TestP1323Writes(t *testing.T) {
 	is(t, "Checkpoint", p.f.Checkpoint(), api.OK)
 	writes(false, func() { p.hold("/a", api.OK) })
 	writes(false, func() { p.release(4, api.OK) })
-	writes(true, func() { p.all(unlink("/a")) })
+	writes(true, func() { p.all(site.Unlink("/a")) })
 	writes(false, func() { p.release(2, api.OK) })
 	writes(false, func() { p.release(2, api.OK) })
 	is(t, "Checkpoint", p.f.Checkpoint(), api.OK)
@@ -88,7 +89,7 @@ func TestP1323Cut(t *testing.T) {
 	for fuse := range 5 {
 		p := newPlayer(planted(t))
 		p.hold("/a", api.OK)
-		p.all(unlink("/a"))
+		p.all(site.Unlink("/a"))
 		is(t, "Checkpoint", p.f.Checkpoint(), api.OK)
 		p.forget()
 		p.d.Fuse(fuse)
@@ -98,14 +99,14 @@ func TestP1323Cut(t *testing.T) {
 		}
 		is(t, "P1323: Release", p.f.Release(2), want)
 		p.crash(nil)
-		p.does(by(2, stat("")), api.ErrNotHeld)
+		p.does(by(2, site.Stat("")), api.ErrNotHeld)
 	}
 }
 
 func TestP1324(t *testing.T) {
 	p := planted(t)
 	p.hold("/a", api.OK)
-	p.all(unlink("/a"))
+	p.all(site.Unlink("/a"))
 	for _, workers := range []int{0, 9, -1, math.MaxInt, math.MinInt} {
 		r, e := p.f.Check(workers)
 		if is(t, "P1324: Check", e, api.ErrWorkers); r.Dirs != 0 || r.Faults != nil {
@@ -127,15 +128,15 @@ func TestP1324(t *testing.T) {
 	if now := p.d.Counts(); now.Writes != was.Writes || now.Flushes != was.Flushes+1 || now.Pending != 0 {
 		t.Errorf("P1324: Sync: %+v, before %+v", now, was)
 	}
-	p.all(create("/n"), write("/n", 0, "found at home"))
+	p.all(site.Create("/n"), site.Write("/n", 0, "found at home"))
 	is(t, "P1324: Checkpoint", p.f.Checkpoint(), api.OK)
 	image := p.d.Image()
 	if clear(image[3*512 : 21*512]); !strings.Contains(string(image[21*512:]), "found at home") {
 		t.Error("P1324: behind Checkpoint not all is at home")
 	}
-	d := loaded(t, image) // without the log
+	d := site.Loaded(t, image) // without the log
 	p.m.drop()
-	(&pair{t, d, mounted(t, d), p.m}).tree()
+	(&pair{t, d, site.Mounted(t, d), p.m}).tree()
 }
 
 // Check tells the faults of what is committed: of a file system that somebody wrote to beside it.

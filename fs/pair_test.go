@@ -13,6 +13,7 @@ import (
 	"vellum/fs"
 	"vellum/node"
 	"vellum/pool"
+	"vellum/site"
 	"vellum/span"
 	"vellum/store"
 	"vellum/trial"
@@ -29,54 +30,10 @@ func is(t *testing.T, what string, got, want api.Errno) {
 	trial.Is(t, what, got, want)
 }
 
-func create(p string) api.Op           { return api.Op{Kind: api.OpCreate, Path: p} }
-func mkdir(p string) api.Op            { return api.Op{Kind: api.OpMkdir, Path: p} }
-func symlink(p, to string) api.Op      { return api.Op{Kind: api.OpSymlink, Path: p, Other: to} }
-func link(p, to string) api.Op         { return api.Op{Kind: api.OpLink, Path: p, Other: to} }
-func unlink(p string) api.Op           { return api.Op{Kind: api.OpUnlink, Path: p} }
-func rmdir(p string) api.Op            { return api.Op{Kind: api.OpRmdir, Path: p} }
-func rename(p, to string) api.Op       { return api.Op{Kind: api.OpRename, Path: p, Other: to} }
-func read(p string, off, n int) api.Op { return api.Op{Kind: api.OpRead, Path: p, Off: off, N: n} }
-func write(p string, off int, data string) api.Op {
-	return api.Op{Kind: api.OpWrite, Path: p, Off: off, Data: []byte(data)}
-}
-func truncate(p string, n int) api.Op   { return api.Op{Kind: api.OpTruncate, Path: p, N: n} }
-func punch(p string, off, n int) api.Op { return api.Op{Kind: api.OpPunch, Path: p, Off: off, N: n} }
-func stat(p string) api.Op              { return api.Op{Kind: api.OpStat, Path: p} }
-func lstat(p string) api.Op             { return api.Op{Kind: api.OpLstat, Path: p} }
-func list(p string) api.Op              { return api.Op{Kind: api.OpList, Path: p} }
-func readlink(p string) api.Op          { return api.Op{Kind: api.OpReadlink, Path: p} }
-func runs(p string) api.Op              { return api.Op{Kind: api.OpRuns, Path: p} }
-
 // by is the operation for a held node; its path is none, as nobody looks at it.
 func by(node int, op api.Op) api.Op {
 	op.Node, op.Path = node, "no path"
 	return op
-}
-
-func made(t *testing.T, form api.Super) *disk.Disk {
-	t.Helper()
-	d, e := disk.New(form.Sectors)
-	is(t, "New", e, api.OK)
-	is(t, "P1301: Mkfs", fs.Mkfs(d, form.Log, form.Nodes), api.OK)
-	return d
-}
-
-func mounted(t *testing.T, d *disk.Disk) *fs.FS {
-	t.Helper()
-	f, e := fs.Mount(d)
-	is(t, "P1302: Mount", e, api.OK)
-	if f == nil {
-		t.Fatal("P1302: Mount answers no file system")
-	}
-	return f
-}
-
-func loaded(t *testing.T, image []byte) *disk.Disk {
-	t.Helper()
-	d, e := disk.Load(image)
-	is(t, "Load", e, api.OK)
-	return d
 }
 
 func on(tx *store.Tx) *walk.Walk {
@@ -93,9 +50,9 @@ type pair struct {
 
 func paired(t *testing.T, form api.Super) *pair {
 	t.Helper()
-	d := made(t, form)
+	d := site.Made(t, form)
 	blocks := form.Sectors - 3 - form.Log - 2 - form.Nodes/4
-	return &pair{t, d, mounted(t, d), newModel(blocks, form.Nodes)}
+	return &pair{t, d, site.Mounted(t, d), newModel(blocks, form.Nodes)}
 }
 
 // same says whether two replies are the same: nil and empty lists are.
@@ -191,7 +148,7 @@ func (p *pair) room() {
 // again mounts anew, without a cut.
 func (p *pair) again() {
 	p.t.Helper()
-	p.f = mounted(p.t, p.d)
+	p.f = site.Mounted(p.t, p.d)
 	p.m.drop()
 	p.tree()
 }
@@ -236,23 +193,23 @@ func treeOf(ask func(api.Op) api.Reply) string {
 	var text strings.Builder
 	var visit func(path string)
 	visit = func(path string) {
-		r := ask(lstat(path))
+		r := ask(site.Lstat(path))
 		fmt.Fprintf(&text, "%q %v %v", path, r.Err, r.Stat)
 		switch r.Stat.Kind {
 		case api.KDir:
-			entries := ask(list(path)).Entries
-			fmt.Fprintf(&text, " in %d: %v\n", ask(stat(path+"..")).Stat.Node, entries)
+			entries := ask(site.List(path)).Entries
+			fmt.Fprintf(&text, " in %d: %v\n", ask(site.Stat(path+"..")).Stat.Node, entries)
 			for _, e := range entries {
 				visit(path + e.Name + "/")
 			}
 		case api.KLink:
-			fmt.Fprintf(&text, " %q\n", ask(readlink(path)).Text)
+			fmt.Fprintf(&text, " %q\n", ask(site.Readlink(path)).Text)
 		default:
-			rows := ask(runs(path)).Runs
+			rows := ask(site.Runs(path)).Runs
 			fmt.Fprintf(&text, " %v ", rows)
 			for _, row := range rows {
 				for at := row.From * 512; at < row.To*512; at += api.MaxIO {
-					text.Write(ask(read(path, at, min(api.MaxIO, row.To*512-at))).Data)
+					text.Write(ask(site.Read(path, at, min(api.MaxIO, row.To*512-at))).Data)
 				}
 			}
 			text.WriteByte('\n')
@@ -265,7 +222,7 @@ func treeOf(ask func(api.Op) api.Reply) string {
 // modelOf is the tree that lies in an image, told by the layers below.
 func modelOf(t *testing.T, image []byte) *model {
 	t.Helper()
-	s := trial.Opened(t, loaded(t, image))
+	s := trial.Opened(t, site.Loaded(t, image))
 	w := on(trial.Begun(t, s))
 	m := newModel(w.Layout().Blocks-w.Layout().Data, w.Layout().Nodes)
 	clear(m.things)

@@ -6,6 +6,7 @@ import (
 
 	"vellum/api"
 	"vellum/fs"
+	"vellum/site"
 	"vellum/trial"
 )
 
@@ -45,10 +46,10 @@ func newPlayer(p *pair) *player { return &player{pair: p, states: []*model{p.m}}
 // copied is a player on a disk of its own that holds just what is durable on the other one.
 func (p *player) copied(t *testing.T) *player {
 	t.Helper()
-	d := loaded(t, p.d.Image())
+	d := site.Loaded(t, p.d.Image())
 	m := p.m.clone()
 	m.drop()
-	return newPlayer(&pair{t, d, mounted(t, d), m})
+	return newPlayer(&pair{t, d, site.Mounted(t, d), m})
 }
 
 // alive says whether a call was let through. It is refused just if the disk is burnt.
@@ -163,7 +164,7 @@ func (p *player) forget() { p.states, p.sure = []*model{p.m}, 0 }
 func (p *player) crash(picks []api.Pick) {
 	p.t.Helper()
 	p.d.Crash(picks)
-	p.settle(mounted(p.t, p.d))
+	p.settle(site.Mounted(p.t, p.d))
 }
 
 // settle goes on from the tree that a Mount shows behind a cut.

@@ -5,6 +5,7 @@ import (
 	"testing"
 
 	"vellum/api"
+	"vellum/site"
 	"vellum/trial"
 )
 
@@ -29,7 +30,7 @@ func TestP1402CutCreate(t *testing.T) {
 	first := durable(t)
 	for _, mode := range []int{mRead + mCreate, mRead + mCreate + mFresh, mWrite + mCreate + mFresh + mEmpty} {
 		dry := first.copied()
-		total := writesOf(dry, func() { dry.all(create("/d/new")) })
+		total := writesOf(dry, func() { dry.all(site.Create("/d/new")) })
 		for fuse := range total + 2 {
 			b := first.copied()
 			b.d.Fuse(fuse)
@@ -51,7 +52,7 @@ func TestP1402CutCreate(t *testing.T) {
 func TestP1402CutEmpty(t *testing.T) {
 	first := durable(t)
 	dry := first.copied()
-	total := writesOf(dry, func() { dry.all(truncate("/a", 0)) })
+	total := writesOf(dry, func() { dry.all(site.Truncate("/a", 0)) })
 	if total < 2 {
 		t.Fatalf("%d writes are few", total)
 	}
@@ -111,7 +112,7 @@ func TestP1407Cut(t *testing.T) {
 	ready := func() *bench {
 		b := first.copied()
 		b.opens("/a", mRead, 1, api.OK)
-		b.all(unlink("/a"))
+		b.all(site.Unlink("/a"))
 		trial.Is(t, "Checkpoint", b.f.Checkpoint(), api.OK)
 		return b
 	}
@@ -141,14 +142,14 @@ func TestP1407Cut(t *testing.T) {
 
 // Without a cut nothing waits for the disk: a desk makes no flush as long as the log has room.
 func TestNoFlush(t *testing.T) {
-	b := onDisk(t, made(t, api.Super{Sectors: 500, Log: 256, Nodes: 8}))
+	b := onDisk(t, site.Made(t, api.Super{Sectors: 500, Log: 256, Nodes: 8}))
 	was := b.d.Counts().Flushes
 	b.opens("/a", mRead+mWrite+mCreate, 1, api.OK)
 	b.writes(1, strings.Repeat("x", 9000), 9000, api.OK)
 	b.opens("/a", mWrite+mAppend+mEmpty, 2, api.OK)
 	b.writes(2, "y", 1, api.OK)
 	b.seeks(1, 0, 2, 1, api.OK)
-	b.all(unlink("/a"))
+	b.all(site.Unlink("/a"))
 	b.closes(1, api.OK)
 	b.closes(2, api.OK)
 	if now := b.d.Counts().Flushes; now != was {

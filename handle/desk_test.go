@@ -7,6 +7,7 @@ import (
 	"vellum/disk"
 	"vellum/fs"
 	"vellum/handle"
+	"vellum/site"
 	"vellum/trial"
 )
 
@@ -19,42 +20,6 @@ const (
 	mEmpty  = 32
 )
 
-func create(p string) api.Op      { return api.Op{Kind: api.OpCreate, Path: p} }
-func mkdir(p string) api.Op       { return api.Op{Kind: api.OpMkdir, Path: p} }
-func symlink(p, to string) api.Op { return api.Op{Kind: api.OpSymlink, Path: p, Other: to} }
-func link(p, to string) api.Op    { return api.Op{Kind: api.OpLink, Path: p, Other: to} }
-func unlink(p string) api.Op      { return api.Op{Kind: api.OpUnlink, Path: p} }
-func rename(p, to string) api.Op  { return api.Op{Kind: api.OpRename, Path: p, Other: to} }
-func truncate(p string, n int) api.Op {
-	return api.Op{Kind: api.OpTruncate, Path: p, N: n}
-}
-func write(p string, off int, data string) api.Op {
-	return api.Op{Kind: api.OpWrite, Path: p, Off: off, Data: []byte(data)}
-}
-
-// made is a disk with an empty file system.
-func made(t *testing.T, form api.Super) *disk.Disk {
-	t.Helper()
-	d, e := disk.New(form.Sectors)
-	trial.Is(t, "New", e, api.OK)
-	trial.Is(t, "Mkfs", fs.Mkfs(d, form.Log, form.Nodes), api.OK)
-	return d
-}
-
-func mounted(t *testing.T, d *disk.Disk) *fs.FS {
-	t.Helper()
-	f, e := fs.Mount(d)
-	trial.Is(t, "Mount", e, api.OK)
-	return f
-}
-
-func loaded(t *testing.T, image []byte) *disk.Disk {
-	t.Helper()
-	d, e := disk.Load(image)
-	trial.Is(t, "Load", e, api.OK)
-	return d
-}
-
 // bench is a disk, the file system on it, and a desk over that.
 type bench struct {
 	t *testing.T
@@ -65,22 +30,22 @@ type bench struct {
 
 func onDisk(t *testing.T, d *disk.Disk) *bench {
 	t.Helper()
-	f := mounted(t, d)
+	f := site.Mounted(t, d)
 	return &bench{t, d, f, handle.New(f)}
 }
 
 // planted has the files /a ("hello") and /d/b, the directories /d and /e, and links: /l leads to /a, /up to /d, /gone and /far to what is not there, /self to itself. It has 24 nodes, of which 10 are taken.
 func planted(t *testing.T) *bench {
 	t.Helper()
-	b := onDisk(t, made(t, api.Super{Sectors: 100, Log: 18, Nodes: 24}))
-	b.all(create("/a"), write("/a", 0, "hello"), mkdir("/d"), create("/d/b"), mkdir("/e"), symlink("/l", "a"), symlink("/up", "d"), symlink("/gone", "/d/none"), symlink("/far", "none/x"), symlink("/self", "self"))
+	b := onDisk(t, site.Made(t, api.Super{Sectors: 100, Log: 18, Nodes: 24}))
+	b.all(site.Create("/a"), site.Write("/a", 0, "hello"), site.Mkdir("/d"), site.Create("/d/b"), site.Mkdir("/e"), site.Symlink("/l", "a"), site.Symlink("/up", "d"), site.Symlink("/gone", "/d/none"), site.Symlink("/far", "none/x"), site.Symlink("/self", "self"))
 	return b
 }
 
 // copied is a bench on a disk of its own that holds what is durable on this one.
 func (b *bench) copied() *bench {
 	b.t.Helper()
-	return onDisk(b.t, loaded(b.t, b.d.Image()))
+	return onDisk(b.t, site.Loaded(b.t, b.d.Image()))
 }
 
 // beside is one more desk over the same file system.
@@ -202,8 +167,8 @@ func (b *bench) left(blocks, nodes int) func() {
 
 // The chapter's examples.
 func TestExamples(t *testing.T) {
-	b := onDisk(t, made(t, api.Super{Sectors: 100, Log: 18, Nodes: 24}))
-	b.all(create("/a"), write("/a", 0, "hello"))
+	b := onDisk(t, site.Made(t, api.Super{Sectors: 100, Log: 18, Nodes: 24}))
+	b.all(site.Create("/a"), site.Write("/a", 0, "hello"))
 	b.opens("/a", mRead, 1, api.OK)
 	b.reads(1, 3, "hel", api.OK)
 	b.reads(1, 9, "lo", api.OK)
@@ -225,7 +190,7 @@ func TestExamples(t *testing.T) {
 	b.opens("a", 64, 0, api.ErrPath)
 	b.opens("/", mRead, 0, api.ErrIsDir)
 	freed := b.left(1, 1)
-	b.all(unlink("/a"))
+	b.all(site.Unlink("/a"))
 	b.stats(1, api.Stat{Node: 2, Kind: api.KFile, Size: 7, Owned: 1}, api.OK)
 	b.writes(2, "?", 1, api.OK)
 	b.reads(1, 9, "?", api.OK)
@@ -236,7 +201,7 @@ func TestExamples(t *testing.T) {
 	b.seeks(3, 8459265, 0, 0, api.ErrBig)
 	b.seeks(3, 8459264, 0, 8459264, api.OK)
 	b.writes(3, "x", 0, api.ErrMode)
-	b.all(write("/b", 0, "to go"))
+	b.all(site.Write("/b", 0, "to go"))
 	b.opens("/b", mWrite+mEmpty, 1, api.OK)
 	b.sized(1, 0)
 	b.closes(9, api.ErrHandle)

@@ -11,6 +11,7 @@ import (
 	"vellum/disk"
 	"vellum/fs"
 	"vellum/handle"
+	"vellum/site"
 	"vellum/trial"
 )
 
@@ -31,7 +32,7 @@ func newTwins(t *testing.T, form api.Super) *twins {
 		w.seen[what] = map[api.Errno]int{}
 	}
 	for i := range w.disks {
-		w.disks[i] = made(t, form)
+		w.disks[i] = site.Made(t, form)
 	}
 	w.mount()
 	return w
@@ -41,7 +42,7 @@ func (w *twins) mount() {
 	w.t.Helper()
 	w.desks, w.clerks = nil, nil
 	for i, d := range w.disks {
-		w.fs[i] = mounted(w.t, d)
+		w.fs[i] = site.Mounted(w.t, d)
 	}
 	for range 3 {
 		w.desks = append(w.desks, handle.New(w.fs[0]))
@@ -148,19 +149,19 @@ func (d *drawer) bytes() []byte {
 func (d *drawer) op() api.Op {
 	switch d.Below(12) {
 	case 0, 1, 2:
-		return unlink(d.path())
+		return site.Unlink(d.path())
 	case 3:
-		return create(d.path())
+		return site.Create(d.path())
 	case 4, 5:
-		return rename(d.path(), d.path())
+		return site.Rename(d.path(), d.path())
 	case 6, 7:
-		return link(d.path(), d.path())
+		return site.Link(d.path(), d.path())
 	case 8:
-		return truncate(d.path(), d.number())
+		return site.Truncate(d.path(), d.number())
 	case 9:
-		return trial.One(d.Dice, symlink("/l", "a"), symlink("/m", "d/none"), symlink("/up", "d"), symlink("/self", "self"))
+		return trial.One(d.Dice, site.Symlink("/l", "a"), site.Symlink("/m", "d/none"), site.Symlink("/up", "d"), site.Symlink("/self", "self"))
 	case 10:
-		return mkdir("/d")
+		return site.Mkdir("/d")
 	}
 	return api.Op{Kind: api.OpWrite, Path: d.path(), Off: d.Below(3000), Data: d.Bytes(d.Below(700))}
 }

@@ -5,6 +5,7 @@ import (
 	"testing"
 
 	"vellum/api"
+	"vellum/site"
 	"vellum/trial"
 )
 
@@ -31,13 +32,13 @@ func TestP1407(t *testing.T) {
 func TestP1407Orphan(t *testing.T) {
 	b := planted(t)
 	k := b.beside()
-	b.all(write("/a", 6000, "x"), link("/a", "/d/a"))
+	b.all(site.Write("/a", 6000, "x"), site.Link("/a", "/d/a"))
 	b.opens("/a", mRead, 1, api.OK)
 	b.opens("/l", mRead+mWrite, 2, api.OK)
 	k.opens("/d/a", mWrite+mAppend, 1, api.OK)
 	node, e := b.f.Hold("/a")
 	trial.Is(t, "Hold", e, api.OK)
-	b.all(unlink("/d/a"), unlink("/a"))
+	b.all(site.Unlink("/d/a"), site.Unlink("/a"))
 	same, freed := b.left(0, 0), b.left(3, 1)
 	b.closes(2, api.OK)
 	k.closes(1, api.OK)
@@ -59,7 +60,7 @@ func TestP1407Any(t *testing.T) {
 		for h, mode := range []int{mRead, mWrite, mWrite + mAppend} {
 			b.opens("/a", mode, h+1, api.OK)
 		}
-		b.all(unlink("/a"))
+		b.all(site.Unlink("/a"))
 		same, freed := b.left(0, 0), b.left(1, 1)
 		for h := 1; h <= 3; h++ {
 			if h != last {
@@ -89,7 +90,7 @@ func TestP1407Release(t *testing.T) {
 	}
 	writes(false, 3)
 	writes(false, 1)
-	b.all(unlink("/a"))
+	b.all(site.Unlink("/a"))
 	writes(false, 2)
 	writes(true, 4)
 	b.opens("/d/b", mRead, 1, api.OK)
@@ -111,13 +112,13 @@ func TestP1408Names(t *testing.T) {
 	b := planted(t)
 	b.opens("/a", mRead+mWrite, 1, api.OK)
 	b.reads(1, 1, "h", api.OK)
-	b.all(rename("/a", "/z"), create("/a"), write("/a", 0, "other"))
+	b.all(site.Rename("/a", "/z"), site.Create("/a"), site.Write("/a", 0, "other"))
 	b.reads(1, 1, "e", api.OK)
-	b.all(link("/z", "/d/z"), unlink("/z"), mkdir("/z"), rename("/d/z", "/z/z"))
+	b.all(site.Link("/z", "/d/z"), site.Unlink("/z"), site.Mkdir("/z"), site.Rename("/d/z", "/z/z"))
 	b.reads(1, 1, "l", api.OK)
 	b.writes(1, "L", 1, api.OK)
 	b.holds("/z/z", "helLo")
-	b.all(rename("/a", "/z/z")) // its last name leads to another file from here on
+	b.all(site.Rename("/a", "/z/z")) // its last name leads to another file from here on
 	b.holds("/z/z", "other")
 	b.reads(1, 1, "o", api.OK)
 	b.writes(1, "!", 1, api.OK)
@@ -136,10 +137,10 @@ func TestP1408Names(t *testing.T) {
 func TestP1408Number(t *testing.T) {
 	b := planted(t)
 	b.opens("/a", mRead, 1, api.OK)
-	b.all(unlink("/a"))
+	b.all(site.Unlink("/a"))
 	for i := 0; ; i++ {
 		path := "/d/" + strconv.Itoa(i)
-		r := b.f.Do(create(path))
+		r := b.f.Do(site.Create(path))
 		if r.Err == api.ErrNoNodes {
 			break
 		}
@@ -147,9 +148,9 @@ func TestP1408Number(t *testing.T) {
 		if s := b.f.Do(api.Op{Kind: api.OpStat, Path: path}).Stat; s.Node == 2 {
 			t.Fatalf("P1408: %s has the number of an open file", path)
 		}
-		b.f.Do(write(path, 0, string(make([]byte, 3000))))
+		b.f.Do(site.Write(path, 0, string(make([]byte, 3000))))
 	}
-	for at := 0; b.f.Do(write("/d/b", at, "x")).Err == api.OK; at += 512 {
+	for at := 0; b.f.Do(site.Write("/d/b", at, "x")).Err == api.OK; at += 512 {
 	}
 	b.room(0, 0)
 	b.reads(1, 9, "hello", api.OK)
@@ -171,11 +172,11 @@ func TestP1408Shared(t *testing.T) {
 	b.holds("/l", "Hello there")
 	k.seeks(1, 0, 0, 0, api.OK)
 	k.reads(1, 5, "Hello", api.OK)
-	b.all(write("/a", 6, "T"))
+	b.all(site.Write("/a", 6, "T"))
 	k.reads(1, 9, " There", api.OK)
 	b.stands(1, 1)
 	b.stands(2, 11)
-	b.all(unlink("/a"))
+	b.all(site.Unlink("/a"))
 	k.writes(1, ".", 1, api.OK)
 	b.reads(2, 9, ".", api.OK)
 	k.closes(1, api.OK)
@@ -189,7 +190,7 @@ func ends() map[string]func(b *bench) {
 		"a cut that keeps all":     func(b *bench) { b.d.Crash([]api.Pick{trial.Keep()}) },
 		"a burnt disk":             func(b *bench) { b.d.Fuse(0) },
 		"a burnt disk, then a cut": func(b *bench) { b.d.Fuse(0); b.k.Stat(1); b.d.Crash(nil) },
-		"a new mount":              func(b *bench) { mounted(b.t, b.d) },
+		"a new mount":              func(b *bench) { site.Mounted(b.t, b.d) },
 	}
 }
 
@@ -244,13 +245,13 @@ func TestP1408Gone(t *testing.T) {
 		b.opens("/a", mRead+mWrite, 1, api.OK)
 		b.opens("/d/b", mRead+mWrite, 2, api.OK)
 		b.writes(1, "J", 1, api.OK)
-		b.all(unlink("/a"))
+		b.all(site.Unlink("/a"))
 		trial.Is(t, "Sync", b.f.Sync(), api.OK)
 		end(b)
 		if b.d.Burnt() {
 			b.d.Crash(nil)
 		}
-		b.f = mounted(t, b.d)
+		b.f = site.Mounted(t, b.d)
 		b = b.beside()
 		for h := range 18 {
 			for _, a := range answersOf(b.k, h) {

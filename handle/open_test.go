@@ -7,6 +7,7 @@ import (
 	"testing"
 
 	"vellum/api"
+	"vellum/site"
 	"vellum/trial"
 )
 
@@ -38,7 +39,7 @@ func TestP1402Modes(t *testing.T) {
 		b.opens(path, mode, 1, api.OK)
 		b.closes(1, api.OK)
 		if mode&mFresh != 0 {
-			b.all(unlink("/new"))
+			b.all(site.Unlink("/new"))
 		}
 	}
 }
@@ -211,9 +212,9 @@ func TestP1402Steps(t *testing.T) {
 
 // A file that can't be made for want of room is not there.
 func TestP1402Room(t *testing.T) {
-	b := onDisk(t, made(t, api.Super{Sectors: 25, Log: 18, Nodes: 4})) // one data block
+	b := onDisk(t, site.Made(t, api.Super{Sectors: 25, Log: 18, Nodes: 4})) // one data block
 	b.opens("/a", mRead+mCreate+mFresh, 1, api.OK)
-	b.all(mkdir("/d"))
+	b.all(site.Mkdir("/d"))
 	b.room(0, 1)
 	b.opens("/d/x", mRead+mCreate, 0, api.ErrNoSpace)
 	b.opens("/d/x", mRead+mCreate+mFresh, 0, api.ErrNoSpace)
@@ -227,7 +228,7 @@ func TestP1402Room(t *testing.T) {
 // MEmpty empties the file for all, also where a link leads to it and others have it open; what it refuses empties nothing.
 func TestP1402Empty(t *testing.T) {
 	b := planted(t)
-	b.all(write("/a", 6000, "far"))
+	b.all(site.Write("/a", 6000, "far"))
 	b.opens("/a", mRead, 1, api.OK)
 	b.seeks(1, 3, 0, 3, api.OK)
 	freed := b.left(3, 0)
@@ -236,7 +237,7 @@ func TestP1402Empty(t *testing.T) {
 	b.stats(1, api.Stat{Node: 2, Kind: api.KFile, Links: 1}, api.OK)
 	b.reads(1, 9, "", api.OK)
 	b.stands(1, 3)
-	b.all(write("/a", 0, "again"))
+	b.all(site.Write("/a", 0, "again"))
 	b.opens("/a", mRead+mEmpty, 0, api.ErrMode)
 	b.opens("/a", mWrite+mEmpty+mCreate+mFresh, 0, api.ErrExists)
 	b.opens("/a", mWrite+mEmpty+mFresh, 0, api.ErrMode)

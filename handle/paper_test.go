@@ -4,6 +4,7 @@ import (
 	"testing"
 
 	"vellum/api"
+	"vellum/site"
 	"vellum/trial"
 )
 
@@ -33,7 +34,7 @@ type office struct {
 
 func newOffice(t *testing.T, seed int) *office {
 	o := &office{Dice: trial.NewDice(seed), t: t, names: map[string]*paper{}}
-	o.sides[0] = onDisk(t, made(t, api.Super{Sectors: 2048, Log: 60, Nodes: 64}))
+	o.sides[0] = onDisk(t, site.Made(t, api.Super{Sectors: 2048, Log: 60, Nodes: 64}))
 	o.again()
 	return o
 }
@@ -211,16 +212,16 @@ func (o *office) beside() {
 	b, path, other := o.sides[0], o.path(), o.path()
 	p, q := o.names[path], o.names[other]
 	if p == nil {
-		trial.Is(o.t, "Unlink", b.f.Do(unlink(path)).Err, api.ErrNotFound)
+		trial.Is(o.t, "Unlink", b.f.Do(site.Unlink(path)).Err, api.ErrNotFound)
 		return
 	}
 	switch o.Below(6) {
 	case 0:
-		b.all(unlink(path))
+		b.all(site.Unlink(path))
 		delete(o.names, path)
 		p.links--
 	case 1:
-		if b.all(rename(path, other)); p != q {
+		if b.all(site.Rename(path, other)); p != q {
 			delete(o.names, path)
 			o.names[other] = p
 			if q != nil {
@@ -229,17 +230,17 @@ func (o *office) beside() {
 		}
 	case 2:
 		if q == nil {
-			b.all(link(path, other))
+			b.all(site.Link(path, other))
 			o.names[other] = p
 			p.links++
 		}
 	case 3:
 		size := o.Below(12000)
-		b.all(truncate(path, size))
+		b.all(site.Truncate(path, size))
 		p.resize(size)
 	case 4:
 		data := o.Bytes(o.Below(700))
-		b.all(write(path, 100, string(data)))
+		b.all(site.Write(path, 100, string(data)))
 		p.write(100, data)
 	default:
 		b.holds(path, string(p.text))

@@ -8,14 +8,15 @@ import (
 	"testing"
 
 	"vellum/api"
+	"vellum/site"
 	"vellum/trial"
 )
 
 func TestP1403(t *testing.T) {
 	b := planted(t)
 	text := strings.Repeat("0123456789abcdef", 4096) + "tail" // four bytes more than one Read tells
-	d := onDisk(t, made(t, api.Super{Sectors: 300, Log: 60, Nodes: 8}))
-	d.all(create("/f"), write("/f", 0, text[:65536]), write("/f", 65536, "tail"))
+	d := onDisk(t, site.Made(t, api.Super{Sectors: 300, Log: 60, Nodes: 8}))
+	d.all(site.Create("/f"), site.Write("/f", 0, text[:65536]), site.Write("/f", 65536, "tail"))
 	d.opens("/f", mRead, 1, api.OK)
 	d.reads(1, 65536, text[:65536], api.OK)
 	d.stands(1, 65536)
@@ -42,12 +43,12 @@ func TestP1403(t *testing.T) {
 	b.seeks(1, 7, 0, 7, api.OK)
 	b.reads(1, 65536, "", api.OK)
 	b.stands(1, 7)
-	b.all(truncate("/a", 9))
+	b.all(site.Truncate("/a", 9))
 	b.reads(1, 65536, "\x00\x00", api.OK)
 	b.seeks(1, api.MaxFile, 0, api.MaxFile, api.OK)
 	b.reads(1, 65536, "", api.OK)
 	b.stands(1, api.MaxFile)
-	b.all(truncate("/a", api.MaxFile))
+	b.all(site.Truncate("/a", api.MaxFile))
 	b.seeks(1, api.MaxFile-2, 0, api.MaxFile-2, api.OK)
 	b.reads(1, 3, "\x00\x00", api.OK)
 	b.stands(1, api.MaxFile)
@@ -82,7 +83,7 @@ func TestP1404(t *testing.T) {
 	b.writes(1, "z", 0, api.ErrBig)
 	b.writes(1, "", 0, api.OK)
 	b.stands(1, api.MaxFile)
-	d := onDisk(t, made(t, api.Super{Sectors: 300, Log: 60, Nodes: 8}))
+	d := onDisk(t, site.Made(t, api.Super{Sectors: 300, Log: 60, Nodes: 8}))
 	text := strings.Repeat("0123456789abcdef", 4096)
 	d.opens("/f", mWrite+mCreate, 1, api.OK)
 	d.seeks(1, 3, 0, 3, api.OK)
@@ -104,7 +105,7 @@ func TestP1404Append(t *testing.T) {
 	b.writes(1, "23", 2, api.OK)
 	b.stands(1, 8)
 	b.stands(2, 6)
-	b.all(write("/a", 10, "4"))
+	b.all(site.Write("/a", 10, "4"))
 	b.writes(2, "5", 1, api.OK)
 	b.stands(2, 12)
 	b.holds("/a", "hello123\x00\x0045")
@@ -115,7 +116,7 @@ func TestP1404Append(t *testing.T) {
 	b.seeks(2, 999, 0, 999, api.OK)
 	b.writes(2, "6", 1, api.OK)
 	b.stands(2, 13)
-	b.all(truncate("/a", 3))
+	b.all(site.Truncate("/a", 3))
 	b.writes(2, "7", 1, api.OK)
 	b.stands(2, 4)
 	b.holds("/a", "hel7")
@@ -124,7 +125,7 @@ func TestP1404Append(t *testing.T) {
 	b.seeks(2, 1, 0, 1, api.OK)
 	b.writes(2, strings.Repeat("x", 65537), 0, api.ErrLong)
 	b.stands(2, 1)
-	b.all(truncate("/a", api.MaxFile-1))
+	b.all(site.Truncate("/a", api.MaxFile-1))
 	b.writes(2, "89", 0, api.ErrBig)
 	b.stands(2, 1)
 	b.writes(2, "8", 1, api.OK)
@@ -139,9 +140,9 @@ func TestP1404Append(t *testing.T) {
 // Where room ends the pieces ahead of it are written, and the place lies behind them; with none of them it is where the Write began.
 func TestP1404Room(t *testing.T) {
 	for _, mode := range []int{mWrite + mCreate, mWrite + mRead + mCreate, mWrite + mAppend + mCreate, mWrite + mRead + mAppend + mCreate} {
-		b := onDisk(t, made(t, api.Super{Sectors: 28, Log: 18, Nodes: 4})) // four data blocks; the root takes one
+		b := onDisk(t, site.Made(t, api.Super{Sectors: 28, Log: 18, Nodes: 4})) // four data blocks; the root takes one
 		b.opens("/a", mode, 1, api.OK)
-		b.all(truncate("/a", 7168))
+		b.all(site.Truncate("/a", 7168))
 		b.seeks(1, 7168, 0, 7168, api.OK)
 		b.writes(1, strings.Repeat("y", 1536), 1024, api.ErrNoSpace) // two blocks and the single one lie ahead of 8192
 		b.stands(1, 8192)
@@ -189,7 +190,7 @@ func TestP1405(t *testing.T) {
 	for _, mode := range []int{mRead, mWrite, mRead + mWrite, mWrite + mAppend, mRead + mWrite + mAppend} {
 		for _, size := range []int{0, 5, 600, api.MaxFile} {
 			b := planted(t)
-			b.all(truncate("/a", size))
+			b.all(site.Truncate("/a", size))
 			b.opens("/a", mode, 1, api.OK)
 			was := b.d.Counts()
 			for _, place := range []int{0, 5, 601, api.MaxFile - 5, api.MaxFile} {
@@ -233,13 +234,13 @@ func TestP1405Size(t *testing.T) {
 	b := planted(t)
 	b.opens("/a", mRead, 1, api.OK)
 	b.seeks(1, 0, 2, 5, api.OK)
-	b.all(write("/a", 9, "x"))
+	b.all(site.Write("/a", 9, "x"))
 	b.seeks(1, -1, 2, 9, api.OK)
 	b.reads(1, 9, "x", api.OK)
-	b.all(truncate("/a", 2))
+	b.all(site.Truncate("/a", 2))
 	b.seeks(1, 1, 2, 3, api.OK)
 	b.seeks(1, -3, 2, 0, api.ErrArg)
-	b.all(unlink("/a"))
+	b.all(site.Unlink("/a"))
 	b.seeks(1, -2, 2, 0, api.OK)
 }
 
@@ -255,13 +256,13 @@ func TestP1406(t *testing.T) {
 		}
 	}
 	all(api.Stat{Node: 2, Kind: api.KFile, Links: 1, Size: 5, Owned: 1})
-	b.all(write("/l", 6000, "x"), link("/a", "/d/a"))
+	b.all(site.Write("/l", 6000, "x"), site.Link("/a", "/d/a"))
 	all(api.Stat{Node: 2, Kind: api.KFile, Links: 2, Size: 6001, Owned: 3})
-	b.all(unlink("/a"))
+	b.all(site.Unlink("/a"))
 	all(api.Stat{Node: 2, Kind: api.KFile, Links: 1, Size: 6001, Owned: 3})
-	b.all(unlink("/d/a"))
+	b.all(site.Unlink("/d/a"))
 	all(api.Stat{Node: 2, Kind: api.KFile, Links: 0, Size: 6001, Owned: 3})
-	b.all(create("/a"), write("/a", 0, "another"))
+	b.all(site.Create("/a"), site.Write("/a", 0, "another"))
 	all(api.Stat{Node: 2, Kind: api.KFile, Links: 0, Size: 6001, Owned: 3})
 	b.stands(1, 0)
 	b.stats(6, api.Stat{}, api.ErrHandle)

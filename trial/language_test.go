@@ -59,7 +59,7 @@ func TestRule1Imports(t *testing.T) {
 			}
 		}
 	}
-	for _, name := range []string{"halt", "trial"} {
+	for _, name := range []string{"halt", "site", "trial"} {
 		if !slices.Contains(packages, name) {
 			t.Errorf("package %s was not looked at", name)
 		}

@@ -1,0 +1,41 @@
+package dump
+
+import (
+	"slices"
+
+	"vellum/api"
+)
+
+// operations are what puts an item into a file system.
+func operations(item api.Item) []api.Op {
+	switch item.Kind {
+	case api.KDir:
+		return []api.Op{{Kind: api.OpMkdir, Path: item.Path}}
+	case api.KLink:
+		return []api.Op{{Kind: api.OpSymlink, Path: item.Path, Other: item.Target}}
+	case api.KName:
+		return []api.Op{{Kind: api.OpLink, Path: item.Target, Other: item.Path}}
+	}
+	create := []api.Op{{Kind: api.OpCreate, Path: item.Path}}
+	if item.Size == 0 {
+		return create
+	}
+	// The size comes ahead of the bytes: a hole at the end is written by nobody.
+	return append(append(create, api.Op{Kind: api.OpTruncate, Path: item.Path, N: item.Size}), writes(item)...)
+}
+
+// writes are what fills the runs of a file.
+func writes(file api.Item) []api.Op {
+	var ops []api.Op
+	data := file.Data
+	for _, run := range file.Runs {
+		at, end := run.From*api.Size, run.To*api.Size
+		ahead := data[:min(end, file.Size)-at]
+		data = data[end-at:]
+		for piece := range slices.Chunk(ahead, api.MaxIO) {
+			ops = append(ops, api.Op{Kind: api.OpWrite, Path: file.Path, Off: at, Data: piece})
+			at += len(piece)
+		}
+	}
+	return ops
+}
