@@ -5,6 +5,7 @@ import (
 
 	"vellum/api"
 	"vellum/fs"
+	"vellum/rows"
 )
 
 // name is the first name of a file.
@@ -69,21 +70,8 @@ func (t *tree) file(path string) api.Item {
 	}
 	defer t.fs.Release(node)
 	item.Size = t.do(api.Op{Kind: api.OpStat, Node: node}).Stat.Size
-	item.Runs = t.do(api.Op{Kind: api.OpRuns, Node: node}).Runs
-	for _, run := range item.Runs {
-		item.Data = append(item.Data, t.content(node, run)...)
-	}
+	item.Runs, item.Data = rows.Read(api.Op{Node: node}, t.do)
 	return item
-}
-
-// content are the bytes of a run; those behind the size, which no read tells, are zeros.
-func (t *tree) content(node int, run api.Run) []byte {
-	data := make([]byte, (run.To-run.From)*api.Size)
-	for at := 0; at < len(data); at += api.MaxIO {
-		read := api.Op{Kind: api.OpRead, Node: node, Off: run.From*api.Size + at, N: min(api.MaxIO, len(data)-at)}
-		copy(data[at:], t.do(read).Data)
-	}
-	return data
 }
 
 // do keeps why it was refused, the first time.
