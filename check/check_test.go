@@ -10,9 +10,7 @@ import (
 
 	"vellum/api"
 	"vellum/check"
-	"vellum/codec"
 	"vellum/disk"
-	"vellum/fan"
 	"vellum/store"
 	"vellum/trial"
 )
@@ -31,110 +29,32 @@ var is = trial.Is
 
 // plate is the blocks of an image, as they are to be laid on a disk.
 type plate struct {
-	api.Layout
-	t      *testing.T
-	form   api.Super
-	blocks [][]byte
+	*trial.Plate
+	t *testing.T
 }
 
-// zeros is a plate on which nothing stands.
 func zeros(t *testing.T, form api.Super) *plate {
 	t.Helper()
-	l, e := codec.Plan(form)
-	is(t, "Plan", e, api.OK)
-	p := &plate{Layout: l, t: t, form: form}
-	for range l.Blocks {
-		p.blocks = append(p.blocks, make([]byte, api.Size))
-	}
-	return p
+	return &plate{trial.Zeros(t, form), t}
 }
 
-// rooted is a plate with a root without entries.
 func rooted(t *testing.T, form api.Super) *plate {
 	t.Helper()
-	p := zeros(t, form)
-	for b := range p.Data {
-		p.taken(b)
-	}
-	p.born(1, api.Node{Kind: api.KDir, Links: 2, Parent: 1})
-	return p
+	return &plate{trial.Rooted(t, form), t}
+}
+
+func sample(t *testing.T) *plate {
+	t.Helper()
+	return &plate{trial.Sample(t), t}
 }
 
 // again is another plate with the same bytes.
-func (p *plate) again() *plate {
-	copied := *p
-	copied.blocks = nil
-	for _, data := range p.blocks {
-		copied.blocks = append(copied.blocks, slices.Clone(data))
-	}
-	return &copied
-}
-
-// turn turns a bit of a bitmap.
-func (p *plate) turn(bitmap, bit int) { p.blocks[bitmap][bit/8] ^= 1 << (bit % 8) }
-
-// taken sets the bits of free blocks.
-func (p *plate) taken(blocks ...int) {
-	for _, b := range blocks {
-		p.turn(0, b)
-	}
-}
-
-// slot is the bytes of a node's slot.
-func (p *plate) slot(number int) []byte {
-	return p.blocks[2+(number-1)/4][(number-1)%4*128:][:128]
-}
-
-// told is the node in a slot.
-func (p *plate) told(number int) api.Node {
-	p.t.Helper()
-	n, e := codec.DecodeNode(p.slot(number))
-	is(p.t, "DecodeNode", e, api.OK)
-	return n
-}
-
-// lay lays a node into its slot.
-func (p *plate) lay(number int, n api.Node) {
-	p.t.Helper()
-	record, e := codec.EncodeNode(n)
-	is(p.t, "EncodeNode", e, api.OK)
-	copy(p.slot(number), record)
-}
-
-// born lays a node, and sets its bit.
-func (p *plate) born(number int, n api.Node) {
-	p.t.Helper()
-	p.lay(number, n)
-	p.turn(1, number-1)
-}
-
-// change lays a node anew.
-func (p *plate) change(number int, how func(n *api.Node)) {
-	p.t.Helper()
-	n := p.told(number)
-	how(&n)
-	p.lay(number, n)
-}
-
-// entry lays one into a slot of a block.
-func (p *plate) entry(block, slot int, entry api.Entry) {
-	p.t.Helper()
-	record, e := codec.EncodeEntry(entry)
-	is(p.t, "EncodeEntry", e, api.OK)
-	copy(p.blocks[block][64*slot:], record)
-}
-
-// point lays a pointer into an indirect block.
-func (p *plate) point(block, place, pointer int) {
-	row := fan.Read(p.blocks[block])
-	row[place] = pointer
-	p.blocks[block] = row.Bytes()
-}
+func (p *plate) again() *plate { return &plate{p.Again(), p.t} }
 
 // begun is a transaction on a disk with the plate.
 func (p *plate) begun() (*disk.Disk, *store.Store, *store.Tx) {
 	p.t.Helper()
-	d, s := trial.Laid(p.t, p.form, p.blocks)
+	d, s := trial.Laid(p.t, p.Form, p.Held)
 	return d, s, trial.Begun(p.t, s)
 }
 
@@ -178,23 +98,23 @@ func faulty(phase int, faults ...api.Fault) api.Report {
 func second(t *testing.T, n api.Node) *plate {
 	t.Helper()
 	p := rooted(t, tiny)
-	p.born(2, n)
-	p.taken(3)
+	p.Born(2, n)
+	p.Taken(3)
 	return p
 }
 
 func TestP1201Examples(t *testing.T) {
 	p := rooted(t, tiny)
-	if p.blocks[0][0] != 7 || p.blocks[1][0] != 1 {
-		t.Fatalf("the plate begins with %d and %d", p.blocks[0][0], p.blocks[1][0])
+	if p.Held[0][0] != 7 || p.Held[1][0] != 1 {
+		t.Fatalf("the plate begins with %d and %d", p.Held[0][0], p.Held[1][0])
 	}
 	p.runs("example 1", api.Report{Dirs: 1})
 	zeros(t, tiny).runs("example 2", faulty(1, api.Fault{Kind: api.FRoot, Node: 1}))
 	p = rooted(t, tiny)
-	p.blocks[0][0] = 0
+	p.Held[0][0] = 0
 	p.runs("example 3", faulty(3, api.Fault{Kind: api.FBlockBit, Block: 0}, api.Fault{Kind: api.FBlockBit, Block: 1}, api.Fault{Kind: api.FBlockBit, Block: 2}))
 	p = rooted(t, tiny)
-	p.turn(1, 4095)
+	p.Turn(1, 4095)
 	p.runs("example 4", faulty(3, api.Fault{Kind: api.FNodeBit, Node: 4096, Other: 1}))
 
 	file := api.Node{Kind: api.KFile, Links: 1, Size: 10, Owned: 1, Direct: [10]int{3}}
@@ -211,7 +131,7 @@ func TestP1201Examples(t *testing.T) {
 	second(t, file).runs("example 7, out of range", faulty(2, api.Fault{Kind: api.FPointer, Node: 2, Index: 1, Block: 43}))
 
 	p = second(t, api.Node{Kind: api.KDir, Links: 2, Parent: 2, Size: 512, Owned: 1, Direct: [10]int{3}})
-	p.entry(3, 0, api.Entry{Node: 2, Kind: api.KDir, Name: "x"})
+	p.Entry(3, 0, api.Entry{Node: 2, Kind: api.KDir, Name: "x"})
 	p.runs("example 8", faulty(5, api.Fault{Kind: api.FLinks, Node: 2, Other: 3}, api.Fault{Kind: api.FLoop, Node: 2}))
 }
 
@@ -280,11 +200,11 @@ func TestP1202PutsNothing(t *testing.T) {
 func TestP1201SeesPuts(t *testing.T) {
 	p := sample(t)
 	d, s, tx := p.begun()
-	broken := slices.Clone(p.blocks[2])
+	broken := slices.Clone(p.Held[2])
 	broken[0]++
 	is(t, "Put", tx.Put(2, broken), api.OK)
 	p.asks(d, tx, 3, "broken", faulty(1, api.Fault{Kind: api.FNode, Node: 1}))
-	is(t, "Put", tx.Put(2, p.blocks[2]), api.OK)
+	is(t, "Put", tx.Put(2, p.Held[2]), api.OK)
 	p.asks(d, tx, 3, "mended", sampleReport)
 	is(t, "Put", tx.Put(2, broken), api.OK)
 	is(t, "Abort", tx.Abort(), api.OK)
@@ -295,7 +215,7 @@ func TestP1201SeesPuts(t *testing.T) {
 	tx = trial.Begun(t, s)
 	p.asks(d, tx, 3, "committed", faulty(1, api.Fault{Kind: api.FNode, Node: 1}))
 	for b, data := range trial.Blocks(t, tx) {
-		if b != 2 && !bytes.Equal(data, p.blocks[b]) {
+		if b != 2 && !bytes.Equal(data, p.Held[b]) {
 			t.Errorf("P1202: block %d is another", b)
 		}
 	}
@@ -304,7 +224,7 @@ func TestP1201SeesPuts(t *testing.T) {
 // The faults are new memory, their spare room too.
 func TestP2Faults(t *testing.T) {
 	p := rooted(t, tiny)
-	p.blocks[0] = trial.Fill(255)
+	p.Held[0] = trial.Fill(255)
 	_, _, tx := p.begun()
 	want, _ := check.Run(tx, 4)
 	kept := slices.Clone(want.Faults)

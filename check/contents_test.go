@@ -5,23 +5,24 @@ import (
 	"testing"
 
 	"vellum/api"
+	"vellum/trial"
 )
 
 // stretched lets the directory 2 of the sample have so many indexes, with blocks at these from block 20 on, its own block aside; each has an entry of the file 6, which is made to have as many links.
 func stretched(indexes int, held ...int) func(p *plate) {
 	return func(p *plate) {
-		n := p.told(2)
+		n := p.Told(2)
 		n.Size = 512 * indexes
 		next := 20
 		fresh := func() int {
 			next++
 			n.Owned++
-			p.taken(next - 1)
+			p.Taken(next - 1)
 			return next - 1
 		}
 		for i, index := range held {
 			block := fresh()
-			p.entry(block, i%8, api.Entry{Node: 6, Kind: api.KFile, Name: "file" + string(rune('a'+i))})
+			p.Entry(block, i%8, api.Entry{Node: 6, Kind: api.KFile, Name: "file" + string(rune('a'+i))})
 			if index < 10 {
 				n.Direct[index] = block
 				continue
@@ -29,10 +30,10 @@ func stretched(indexes int, held ...int) func(p *plate) {
 			if n.Single == 0 {
 				n.Single = fresh()
 			}
-			p.point(n.Single, index-10, block)
+			p.Point(n.Single, index-10, block)
 		}
-		p.lay(2, n)
-		p.change(6, func(n *api.Node) { n.Links = len(held) })
+		p.Lay(2, n)
+		p.Change(6, func(n *api.Node) { n.Links = len(held) })
 	}
 }
 
@@ -51,14 +52,6 @@ func broken(number int, slots ...int) []api.Fault { return at(api.FEntry, number
 
 func named(number int, slots ...int) []api.Fault { return at(api.FName, number, slots...) }
 
-func span(from, to int) []int {
-	var list []int
-	for i := from; i < to; i++ {
-		list = append(list, i)
-	}
-	return list
-}
-
 func TestP1201Hole(t *testing.T) {
 	breaks(t, 4, []change{
 		{"behind the block", stretched(2), holes(2, 1)},
@@ -66,24 +59,24 @@ func TestP1201Hole(t *testing.T) {
 		{"ahead of the block", together(stretched(2, 1), node(2, func(n *api.Node) { n.Direct[0], n.Owned = 0, 1 }), bits(5)), holes(2, 0)},
 		{"many", stretched(13, 3, 10, 12), holes(2, 1, 2, 4, 5, 6, 7, 8, 9, 11)},
 		{"a directory of holes alone", node(5, func(n *api.Node) { n.Size = 1024 }), holes(5, 0, 1)},
-		{"a directory of all indexes", node(5, func(n *api.Node) { n.Size = api.MaxFile }), holes(5, span(0, api.MaxIndex)...)},
+		{"a directory of all indexes", node(5, func(n *api.Node) { n.Size = api.MaxFile }), holes(5, trial.Span(0, api.MaxIndex)...)},
 		{"in two directories", together(stretched(2), node(5, func(n *api.Node) { n.Size = 512 })), append(holes(2, 1), holes(5, 0)...)},
 	})
-	keeps(t, "a directory without one", stretched(14, span(1, 14)...), api.Report{Files: 2, Dirs: 3, Links: 1, Used: 9 + 14})
+	keeps(t, "a directory without one", stretched(14, trial.Span(1, 14)...), api.Report{Files: 2, Dirs: 3, Links: 1, Used: 9 + 14})
 	keeps(t, "a hole in a file", node(6, func(n *api.Node) { n.Size = 513 }), sampleReport)
 }
 
 // An entry's slot counts through the directory.
 func TestP1201Entry(t *testing.T) {
-	set := func(block, place int) func(p *plate) { return func(p *plate) { p.blocks[block][place]++ } }
+	set := func(block, place int) func(p *plate) { return func(p *plate) { p.Held[block][place]++ } }
 	breaks(t, 4, []change{
 		{"an empty slot", set(4, 64*7+20), broken(1, 7)},
 		{"the last byte of a block", set(5, 511), broken(2, 7)},
 		{"the first byte of a block", set(5, 0), broken(2, 0)},
-		{"all slots", func(p *plate) { copy(p.blocks[4], slices.Repeat([]byte{9}, 512)) }, broken(1, span(0, 8)...)},
+		{"all slots", func(p *plate) { copy(p.Held[4], slices.Repeat([]byte{9}, 512)) }, broken(1, trial.Span(0, 8)...)},
 		{"in the second block", together(stretched(3, 1, 2), set(20, 511)), broken(2, 15)},
 		{"in the third block", together(stretched(3, 1, 2), set(21, 64)), broken(2, 17)},
-		{"in the single block", together(stretched(11, span(1, 11)...), set(29, 500)), broken(2, 87)},
+		{"in the single block", together(stretched(11, trial.Span(1, 11)...), set(29, 500)), broken(2, 87)},
 		{"in two blocks", together(stretched(3, 1, 2), set(20, 500), set(21, 511)), broken(2, 15, 23)},
 	})
 }
@@ -127,16 +120,16 @@ func TestP1201Target(t *testing.T) {
 }
 
 func TestP1201Trail(t *testing.T) {
-	empty := func(block int) func(p *plate) { return func(p *plate) { clear(p.blocks[block]) } }
+	empty := func(block int) func(p *plate) { return func(p *plate) { clear(p.Held[block]) } }
 	trail := func(number int) []api.Fault { return []api.Fault{{Kind: api.FTrail, Node: number}} }
 	breaks(t, 4, []change{
 		{"the only block", empty(5), trail(2)},
 		{"the root's", empty(4), trail(1)},
 		{"both", together(empty(5), empty(4)), append(trail(1), trail(2)...)},
 		{"the last block", together(stretched(3, 1, 2), empty(21)), trail(2)},
-		{"in the single block", together(stretched(11, span(1, 11)...), empty(29)), trail(2)},
+		{"in the single block", together(stretched(11, trial.Span(1, 11)...), empty(29)), trail(2)},
 		{"behind a hole", together(stretched(3, 2), empty(20)), append(holes(2, 1), trail(2)...)},
-		{"a broken slot is not empty", together(empty(5), func(p *plate) { p.blocks[5][511] = 1 }), []api.Fault{{Kind: api.FEntry, Node: 2, Index: 7}}},
+		{"a broken slot is not empty", together(empty(5), func(p *plate) { p.Held[5][511] = 1 }), []api.Fault{{Kind: api.FEntry, Node: 2, Index: 7}}},
 		{"a hole at the end", together(stretched(3, 1), empty(20)), holes(2, 2)},
 	})
 	keeps(t, "a block without an entry ahead of the last", together(stretched(3, 1, 2), empty(20), node(6, func(n *api.Node) { n.Links = 1 })), api.Report{Files: 2, Dirs: 3, Links: 1, Used: 11})
@@ -144,7 +137,7 @@ func TestP1201Trail(t *testing.T) {
 }
 
 func TestP1201Text(t *testing.T) {
-	set := func(place int) func(p *plate) { return func(p *plate) { p.blocks[12][place] = 0 } }
+	set := func(place int) func(p *plate) { return func(p *plate) { p.Held[12][place] = 0 } }
 	text := []api.Fault{{Kind: api.FText, Node: 4}}
 	breaks(t, 4, []change{
 		{"the first byte", set(0), text},
@@ -153,18 +146,18 @@ func TestP1201Text(t *testing.T) {
 		{"a hole", together(node(4, func(n *api.Node) { n.Owned, n.Direct[0] = 0, 0 }), bits(12)), text},
 	})
 	keeps(t, "a zero behind the text", set(3), sampleReport)
-	keeps(t, "any other bytes", func(p *plate) { copy(p.blocks[12], "\xff\x01/") }, sampleReport)
-	keeps(t, "a zero in a file", func(p *plate) { clear(p.blocks[6]) }, sampleReport)
+	keeps(t, "any other bytes", func(p *plate) { copy(p.Held[12], "\xff\x01/") }, sampleReport)
+	keeps(t, "a zero in a file", func(p *plate) { clear(p.Held[6]) }, sampleReport)
 }
 
 func TestP1201AllOfContents(t *testing.T) {
 	breaks(t, 4, []change{{"one of each", together(
 		stretched(3, 2),
-		func(p *plate) { clear(p.blocks[20]) },
-		func(p *plate) { p.blocks[12][1] = 0 },
+		func(p *plate) { clear(p.Held[20]) },
+		func(p *plate) { p.Held[12][1] = 0 },
 		entry(4, 5, 8, api.KFile, "x"),
 		entry(4, 4, 6, api.KFile, "f"),
-		func(p *plate) { p.blocks[5][511] = 1 },
+		func(p *plate) { p.Held[5][511] = 1 },
 		node(3, func(n *api.Node) { n.Links = 9 }), // of the last phase
 	), []api.Fault{
 		{Kind: api.FEntry, Node: 2, Index: 7},

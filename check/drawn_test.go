@@ -3,7 +3,6 @@ package check_test
 import (
 	"slices"
 	"strconv"
-	"strings"
 	"testing"
 
 	"vellum/api"
@@ -12,177 +11,11 @@ import (
 	"vellum/trial"
 )
 
-// builder lays a drawn tree on a plate, its blocks, nodes and slots in any order: most such trees come of no calls of the layers below, though nothing is wrong with them.
-type builder struct {
-	*plate
-	dice    *trial.Dice
-	free    []int // blocks
-	entries map[int][]api.Entry
-	report  api.Report
-}
-
 // built is a drawn plate without a fault, and what is to be told of it.
 func built(t *testing.T, dice *trial.Dice, form api.Super) (*plate, api.Report) {
 	t.Helper()
-	b := &builder{plate: rooted(t, form), dice: dice, entries: map[int][]api.Entry{}, report: api.Report{Dirs: 1}}
-	for block := b.Data; block < b.Blocks; block++ {
-		b.free = append(b.free, block)
-	}
-	shuffle(dice, b.free)
-	numbers := span(2, b.Nodes+1)
-	shuffle(dice, numbers)
-	dirs := []int{1}
-	for _, k := range numbers[:dice.Below(len(numbers)+1)] {
-		switch dice.Below(3) {
-		case 0:
-			in := trial.One(dice, dirs...)
-			b.born(k, api.Node{Kind: api.KDir, Links: 2, Parent: in})
-			b.change(in, func(n *api.Node) { n.Links++ })
-			b.name(in, k, api.KDir)
-			dirs = append(dirs, k)
-			b.report.Dirs++
-		case 1:
-			b.file(k, dirs)
-		default:
-			b.link(k, trial.One(dice, dirs...))
-		}
-	}
-	for _, k := range dirs {
-		b.directory(k)
-	}
-	return b.plate, b.report
-}
-
-func shuffle(dice *trial.Dice, list []int) {
-	for i := range list {
-		k := i + dice.Below(len(list)-i)
-		list[i], list[k] = list[k], list[i]
-	}
-}
-
-// name lets a directory have one more name.
-func (b *builder) name(in, number, kind int) {
-	text := "n" + strconv.Itoa(len(b.entries[in]))
-	text += string(b.dice.Bytes(b.dice.Below(55 - len(text))))
-	text = strings.NewReplacer("/", "x", "\x00", "y").Replace(text)
-	b.entries[in] = append(b.entries[in], api.Entry{Node: number, Kind: kind, Name: text})
-}
-
-// take gives out a block that is free.
-func (b *builder) take() int {
-	block := b.free[0]
-	b.free = b.free[1:]
-	b.taken(block)
-	b.report.Used++
-	return block
-}
-
-// content lets a node hold blocks at these indexes, and tells them.
-func (b *builder) content(k int, indexes []int) []int {
-	var blocks []int
-	b.change(k, func(n *api.Node) {
-		used := b.report.Used
-		for _, index := range indexes {
-			block := b.take()
-			blocks = append(blocks, block)
-			switch {
-			case index < 10:
-				n.Direct[index] = block
-			case index < 138:
-				b.behind(&n.Single, index-10, block)
-			default:
-				b.behind(&n.Double, (index-138)/128, 0)
-				leaf := (&plain{plate: b.plate}).pointer(n.Double, (index-138)/128)
-				b.behind(&leaf, (index-138)%128, block)
-				b.point(n.Double, (index-138)/128, leaf)
-			}
-		}
-		n.Owned = b.report.Used - used
-	})
-	return blocks
-}
-
-// behind lays a pointer into an indirect block, which is taken if it is not there; 0 changes none.
-func (b *builder) behind(indirect *int, place, block int) {
-	if *indirect == 0 {
-		*indirect = b.take()
-	}
-	if block != 0 {
-		b.point(*indirect, place, block)
-	}
-}
-
-// file makes one with some names, and with blocks here and there.
-func (b *builder) file(k int, dirs []int) {
-	d := b.dice
-	b.born(k, api.Node{Kind: api.KFile})
-	names := trial.One(d, 0, 1, 1, 1, 2, 3)
-	for range names {
-		b.name(trial.One(d, dirs...), k, api.KFile)
-	}
-	var indexes []int
-	if len(b.free) > b.Nodes+12 { // the directories need some, too
-		for range d.Below(5) {
-			indexes = append(indexes, trial.One(d, 0, 0, 1, 2, 9, 10, 11, 137, 138, 139, 265, 266, 266+127, 16521, d.Below(api.MaxIndex)))
-		}
-	}
-	slices.Sort(indexes)
-	indexes = slices.Compact(indexes)
-	blocks := b.content(k, indexes)
-	last := -1
-	for i, index := range indexes {
-		b.blocks[blocks[i]] = d.Bytes(512)
-		last = index
-	}
-	b.change(k, func(n *api.Node) {
-		n.Links = names
-		switch size := 512*(last+1) - d.Below(512); {
-		case last >= 0 && d.Below(3) > 0:
-			n.Size = size
-			clear(b.blocks[blocks[len(blocks)-1]][512-(512*(last+1)-size):])
-		default:
-			n.Size = 512*(last+1) + d.Below(api.MaxFile+1-512*(last+1))
-		}
-	})
-	if names == 0 {
-		b.report.Orphans++
-	} else {
-		b.report.Files++
-	}
-}
-
-// link makes one with a text of any bytes.
-func (b *builder) link(k, in int) {
-	size := trial.One(b.dice, 1, 255, 1+b.dice.Below(255))
-	b.born(k, api.Node{Kind: api.KLink, Links: 1, Size: size})
-	b.name(in, k, api.KLink)
-	block := b.content(k, []int{0})[0]
-	for i := range size {
-		b.blocks[block][i] = trial.One(b.dice, '/', '.', 'n', byte(1+b.dice.Below(255)))
-	}
-	b.report.Links++
-}
-
-// directory lays its entries into any slots, of which one must be in the last block.
-func (b *builder) directory(k int) {
-	entries := b.entries[k]
-	if len(entries) == 0 {
-		return
-	}
-	count := (len(entries)+7)/8 + b.dice.Below(2)
-	if len(b.free) < b.Nodes {
-		count = (len(entries) + 7) / 8
-	}
-	slots := span(0, 8*count)
-	shuffle(b.dice, slots)
-	if slices.Max(slots[:len(entries)]) < 8*(count-1) {
-		slots[0] = 8*count - 1
-	}
-	blocks := b.content(k, span(0, count))
-	for i, x := range entries {
-		b.entry(blocks[slots[i]/8], slots[i]%8, x)
-	}
-	b.change(k, func(n *api.Node) { n.Size = 512 * count })
+	p, report := trial.Built(t, dice, form)
+	return &plate{p, t}, report
 }
 
 // vandal does drawn things to a plate.
@@ -195,7 +28,7 @@ type vandal struct {
 func (v *vandal) some(kinds ...int) int {
 	list := []int{1}
 	for k := 1; k <= v.Nodes; k++ {
-		if n, e := codec.DecodeNode(v.slot(k)); e == api.OK && slices.Contains(kinds, n.Kind) {
+		if n, e := codec.DecodeNode(v.Slot(k)); e == api.OK && slices.Contains(kinds, n.Kind) {
 			list = append(list, k)
 		}
 	}
@@ -204,13 +37,13 @@ func (v *vandal) some(kinds ...int) int {
 
 // edit changes a node, if its slot is whole, and its fields fit then.
 func (v *vandal) edit(k int, how func(n *api.Node)) {
-	n, e := codec.DecodeNode(v.slot(k))
+	n, e := codec.DecodeNode(v.Slot(k))
 	if e != api.OK {
 		return
 	}
 	how(&n)
 	if record, e := codec.EncodeNode(n); e == api.OK {
-		copy(v.slot(k), record)
+		copy(v.Slot(k), record)
 	}
 }
 
@@ -279,7 +112,7 @@ func (v *vandal) breakTable() {
 	d := v.dice
 	switch d.Below(6) {
 	case 0:
-		v.slot(1 + d.Below(v.Nodes))[d.Below(128)] ^= 1 << d.Below(8)
+		v.Slot(1 + d.Below(v.Nodes))[d.Below(128)] ^= 1 << d.Below(8)
 	case 1:
 		v.edit(v.some(api.KLink), func(n *api.Node) { n.Size = trial.One(d, 0, 256, 512) })
 	case 2:
@@ -289,7 +122,7 @@ func (v *vandal) breakTable() {
 	case 4:
 		v.edit(1, func(n *api.Node) { *n = trial.One(d, api.Node{}, api.Node{Kind: api.KFile}, api.Node{Kind: api.KLink}) })
 	default:
-		copy(v.slot(1+d.Below(v.Nodes)), d.Bytes(128))
+		copy(v.Slot(1+d.Below(v.Nodes)), d.Bytes(128))
 	}
 }
 
@@ -305,9 +138,9 @@ func (v *vandal) breakPointers() {
 	case 3:
 		v.edit(k, func(n *api.Node) { n.Double = v.anyPointer() })
 	case 4:
-		v.point(v.indirect(), d.Below(128), trial.One(d, v.anyPointer(), v.anyPointer(), 1<<32-1, d.Below(1<<31)))
+		v.Point(v.indirect(), d.Below(128), trial.One(d, v.anyPointer(), v.anyPointer(), 1<<32-1, d.Below(1<<31)))
 	case 5:
-		clear(v.blocks[v.indirect()])
+		clear(v.Held[v.indirect()])
 	case 6:
 		v.edit(k, func(n *api.Node) { n.Owned += trial.One(d, 1, -1, 5) })
 	case 7:
@@ -315,14 +148,14 @@ func (v *vandal) breakPointers() {
 			n.Size = trial.One(d, 0, n.Size-1, n.Size-512, d.Below(api.MaxFile), d.Below(n.Size+1))
 		})
 	default:
-		v.blocks[v.Data+d.Below(v.Blocks-v.Data)] = d.Bytes(512)
+		v.Held[v.Data+d.Below(v.Blocks-v.Data)] = d.Bytes(512)
 	}
 }
 
 // breakBits turns some bits.
 func (v *vandal) breakBits() {
 	for range 1 + v.dice.Below(3) {
-		v.turn(v.dice.Below(2), trial.One(v.dice, v.dice.Below(4096), v.dice.Below(v.Blocks), v.dice.Below(v.Nodes)))
+		v.Turn(v.dice.Below(2), trial.One(v.dice, v.dice.Below(4096), v.dice.Below(v.Blocks), v.dice.Below(v.Nodes)))
 	}
 }
 
@@ -332,18 +165,18 @@ func (v *vandal) breakContents() {
 	block, slot := v.dirBlock(), d.Below(8)
 	switch d.Below(9) {
 	case 0:
-		v.blocks[block][64*slot+d.Below(64)] ^= 1 << d.Below(8)
+		v.Held[block][64*slot+d.Below(64)] ^= 1 << d.Below(8)
 	case 1:
-		copy(v.blocks[block][64*slot:][:64], v.blocks[v.dirBlock()][64*d.Below(8):])
+		copy(v.Held[block][64*slot:][:64], v.Held[v.dirBlock()][64*d.Below(8):])
 		for from := range 8 {
-			if record := v.blocks[block][64*from:][:64]; from != slot && !zero(record) {
-				copy(v.blocks[block][64*slot:], record)
+			if record := v.Held[block][64*from:][:64]; from != slot && !zero(record) {
+				copy(v.Held[block][64*slot:], record)
 			}
 		}
 	case 2:
-		v.entry(block, slot, api.Entry{Node: 1 + d.Below(v.Nodes+2), Kind: 1 + d.Below(3), Name: trial.One(d, "a", "b", "c")})
+		v.Entry(block, slot, api.Entry{Node: 1 + d.Below(v.Nodes+2), Kind: 1 + d.Below(3), Name: trial.One(d, "a", "b", "c")})
 	case 3:
-		clear(v.blocks[block])
+		clear(v.Held[block])
 	case 4:
 		v.edit(v.some(api.KDir), func(n *api.Node) { n.Size += 512 * trial.One(d, 1, 2, 12) })
 	case 5:
@@ -367,11 +200,11 @@ func (v *vandal) breakTree() {
 	case 1:
 		v.edit(v.some(api.KDir), func(n *api.Node) { n.Parent = trial.One(d, 1, v.some(api.KDir), 1+d.Below(v.Nodes)) })
 	case 2:
-		clear(v.blocks[block][64*slot:][:64])
+		clear(v.Held[block][64*slot:][:64])
 	default:
 		kind := 1 + d.Below(3)
 		if k := v.some(kind); k > 1 || kind == api.KDir {
-			v.entry(block, slot, api.Entry{Node: k, Kind: kind, Name: "v" + strconv.Itoa(d.Below(1000))})
+			v.Entry(block, slot, api.Entry{Node: k, Kind: kind, Name: "v" + strconv.Itoa(d.Below(1000))})
 		}
 	}
 }
@@ -385,15 +218,15 @@ func (v *vandal) mend(bits bool) {
 	if !bits {
 		return
 	}
-	clear(v.blocks[0])
-	clear(v.blocks[1])
+	clear(v.Held[0])
+	clear(v.Held[1])
 	for b := range v.Blocks {
 		if _, owned := m.owner[b]; owned || b < v.Data {
-			v.turn(0, b)
+			v.Turn(0, b)
 		}
 	}
 	for k := range m.nodes {
-		v.turn(1, k-1)
+		v.Turn(1, k-1)
 	}
 }
 
@@ -451,16 +284,16 @@ func TestP1201Junk(t *testing.T) {
 		for b := from; b < p.Blocks; b++ {
 			switch dice.Below(3) {
 			case 0:
-				p.blocks[b] = dice.Bytes(512)
+				p.Held[b] = dice.Bytes(512)
 			case 1:
 				for range 1 + dice.Below(128) {
-					p.point(b, dice.Below(128), dice.Below(p.Blocks+2))
+					p.Point(b, dice.Below(128), dice.Below(p.Blocks+2))
 				}
 			}
 		}
 		if from > 0 {
 			for k := 1; k <= p.Nodes; k++ {
-				p.lay(k, p.junk(dice, k))
+				p.Lay(k, p.junk(dice, k))
 			}
 		}
 		d, _, tx := p.begun()
@@ -492,21 +325,21 @@ func TestP1201Reads(t *testing.T) {
 	single := first + dirBlocks
 	for k := 2; k < 2+count; k++ {
 		block, slot := p.Data+k-2, k-2
-		p.born(k, api.Node{Kind: api.KLink, Links: 1, Size: 1, Owned: 1, Direct: [10]int{block}})
-		p.blocks[block][0] = 'x'
-		p.entry(first+slot/8, slot%8, api.Entry{Node: k, Kind: api.KLink, Name: strconv.Itoa(k)})
+		p.Born(k, api.Node{Kind: api.KLink, Links: 1, Size: 1, Owned: 1, Direct: [10]int{block}})
+		p.Held[block][0] = 'x'
+		p.Entry(first+slot/8, slot%8, api.Entry{Node: k, Kind: api.KLink, Name: strconv.Itoa(k)})
 	}
-	p.change(1, func(n *api.Node) {
+	p.Change(1, func(n *api.Node) {
 		n.Size, n.Owned, n.Single = 512*dirBlocks, dirBlocks+1, single
 		for i := range dirBlocks {
 			if i < 10 {
 				n.Direct[i] = first + i
 			} else {
-				p.point(single, i-10, first+i)
+				p.Point(single, i-10, first+i)
 			}
 		}
 	})
-	p.taken(span(p.Data, p.Blocks)...)
+	p.Taken(trial.Span(p.Data, p.Blocks)...)
 	p.runs("many links", api.Report{Dirs: 1, Links: count, Used: count + dirBlocks + 1})
 }
 
@@ -519,10 +352,10 @@ func TestP1201Thicket(t *testing.T) {
 		for i := range row {
 			row[i] = dice.Below(p.Blocks)
 		}
-		p.blocks[b] = row.Bytes()
+		p.Held[b] = row.Bytes()
 	}
 	for k := 1; k <= p.Nodes; k++ {
-		p.lay(k, p.junk(dice, k))
+		p.Lay(k, p.junk(dice, k))
 	}
 	p.runs("a thicket", plainly(p))
 }

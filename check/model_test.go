@@ -64,12 +64,12 @@ func zero(data []byte) bool {
 
 func (m *plain) table() {
 	for k := 1; k <= m.Nodes; k++ {
-		n, e := codec.DecodeNode(m.slot(k))
+		n, e := codec.DecodeNode(m.Slot(k))
 		if e != api.OK {
 			m.tell(api.FNode, k, 0, 0, 0)
 			continue
 		}
-		if !zero(m.slot(k)) {
+		if !zero(m.Slot(k)) {
 			m.nodes[k] = n
 		}
 		if k == 1 && (n.Kind != api.KDir || n.Parent != 1) {
@@ -97,7 +97,7 @@ func (m *plain) met(k, index, pointer, depth int) bool {
 	m.owner[pointer] = k
 	m.count[k]++
 	if depth > 0 {
-		if zero(m.blocks[pointer]) {
+		if zero(m.Held[pointer]) {
 			m.tell(api.FBare, k, index, pointer, depth)
 		}
 		return true
@@ -111,7 +111,7 @@ func (m *plain) met(k, index, pointer, depth int) bool {
 
 // pointer is the one at a place of an indirect block.
 func (m *plain) pointer(block, place int) int {
-	b := m.blocks[block][4*place:]
+	b := m.Held[block][4*place:]
 	return int(b[0]) + int(b[1])<<8 + int(b[2])<<16 + int(b[3])<<24
 }
 
@@ -141,7 +141,7 @@ func (m *plain) pointers() {
 		if m.count[k] != n.Owned {
 			m.tell(api.FOwned, k, 0, 0, m.count[k])
 		}
-		if block, there := m.data[[2]int{k, n.Size / 512}]; there && n.Size%512 > 0 && !zero(m.blocks[block][n.Size%512:]) {
+		if block, there := m.data[[2]int{k, n.Size / 512}]; there && n.Size%512 > 0 && !zero(m.Held[block][n.Size%512:]) {
 			m.tell(api.FTail, k, n.Size/512, block, 0)
 		}
 	}
@@ -150,11 +150,11 @@ func (m *plain) pointers() {
 func (m *plain) bitmaps() {
 	for bit := range 4096 {
 		_, owned := m.owner[bit]
-		if now := m.blocks[0][bit/8] >> (bit % 8) & 1; (now == 1) != (owned || bit < m.Data) {
+		if now := m.Held[0][bit/8] >> (bit % 8) & 1; (now == 1) != (owned || bit < m.Data) {
 			m.tell(api.FBlockBit, 0, 0, bit, int(now))
 		}
 		_, there := m.nodes[bit+1]
-		if now := m.blocks[1][bit/8] >> (bit % 8) & 1; (now == 1) != there {
+		if now := m.Held[1][bit/8] >> (bit % 8) & 1; (now == 1) != there {
 			m.tell(api.FNodeBit, bit+1, 0, 0, int(now))
 		}
 	}
@@ -167,7 +167,7 @@ func (m *plain) contents() {
 		}
 		if n.Kind == api.KLink {
 			block, there := m.data[[2]int{k, 0}]
-			if !there || slices.Contains(m.blocks[block][:n.Size], 0) {
+			if !there || slices.Contains(m.Held[block][:n.Size], 0) {
 				m.tell(api.FText, k, 0, 0, 0)
 			}
 		}
@@ -181,11 +181,11 @@ func (m *plain) directory(k int, n api.Node) {
 			m.tell(api.FHole, k, i, 0, 0)
 			continue
 		}
-		if 512*(i+1) == n.Size && zero(m.blocks[block]) {
+		if 512*(i+1) == n.Size && zero(m.Held[block]) {
 			m.tell(api.FTrail, k, 0, 0, 0)
 		}
 		for s := range 8 {
-			m.dirSlot(k, 8*i+s, m.blocks[block][64*s:64*s+64])
+			m.dirSlot(k, 8*i+s, m.Held[block][64*s:64*s+64])
 		}
 	}
 }

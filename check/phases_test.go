@@ -7,40 +7,7 @@ import (
 	"vellum/api"
 )
 
-// sample is a plate on which all kinds of things stand: Blocks 43, Data 4.
-//
-//	1 the root: block 4: "d" 2 in slot 0, "f" 3 in slot 1, "l" 4 in slot 2
-//	2 a directory: block 5: "g" 3 in slot 0, "e" 5 in slot 3
-//	3 a file of two names: index 0 in block 6; the single block 7: index 10 in block 8; the double block 9, its leaf 1 in block 10: index 266, in which it ends, in block 11
-//	4 a link: block 12: "d/g"
-//	5 a directory without entries
-//	6 an orphan
-func sample(t *testing.T) *plate {
-	t.Helper()
-	p := rooted(t, small)
-	p.lay(1, api.Node{Kind: api.KDir, Links: 3, Parent: 1, Size: 512, Owned: 1, Direct: [10]int{4}})
-	p.born(2, api.Node{Kind: api.KDir, Links: 3, Parent: 1, Size: 512, Owned: 1, Direct: [10]int{5}})
-	p.born(3, api.Node{Kind: api.KFile, Links: 2, Size: 512*266 + 100, Owned: 6, Direct: [10]int{6}, Single: 7, Double: 9})
-	p.born(4, api.Node{Kind: api.KLink, Links: 1, Size: 3, Owned: 1, Direct: [10]int{12}})
-	p.born(5, api.Node{Kind: api.KDir, Links: 2, Parent: 2})
-	p.born(6, api.Node{Kind: api.KFile})
-	p.taken(4, 5, 6, 7, 8, 9, 10, 11, 12)
-	p.entry(4, 0, api.Entry{Node: 2, Kind: api.KDir, Name: "d"})
-	p.entry(4, 1, api.Entry{Node: 3, Kind: api.KFile, Name: "f"})
-	p.entry(4, 2, api.Entry{Node: 4, Kind: api.KLink, Name: "l"})
-	p.entry(5, 0, api.Entry{Node: 3, Kind: api.KFile, Name: "g"})
-	p.entry(5, 3, api.Entry{Node: 5, Kind: api.KDir, Name: "e"})
-	p.point(7, 0, 8)
-	p.point(9, 1, 10)
-	p.point(10, 0, 11)
-	for _, b := range []int{6, 8} {
-		copy(p.blocks[b], slices.Repeat([]byte{'x'}, 512))
-	}
-	copy(p.blocks[11], slices.Repeat([]byte{'y'}, 100))
-	copy(p.blocks[12], "d/g")
-	return p
-}
-
+// sampleReport is what is told of the sample.
 var sampleReport = api.Report{Files: 1, Dirs: 3, Links: 1, Orphans: 1, Used: 9}
 
 // change is a thing that is done to the sample, and the faults that come of it.
@@ -70,26 +37,26 @@ func keeps(t *testing.T, what string, do func(p *plate), want api.Report) {
 
 // node changes one.
 func node(number int, how func(n *api.Node)) func(p *plate) {
-	return func(p *plate) { p.change(number, how) }
+	return func(p *plate) { p.Change(number, how) }
 }
 
 // point lays a pointer into an indirect block.
 func point(block, place, pointer int) func(p *plate) {
-	return func(p *plate) { p.point(block, place, pointer) }
+	return func(p *plate) { p.Point(block, place, pointer) }
 }
 
 // entry lays one into a slot of a block.
 func entry(block, slot, number, kind int, name string) func(p *plate) {
-	return func(p *plate) { p.entry(block, slot, api.Entry{Node: number, Kind: kind, Name: name}) }
+	return func(p *plate) { p.Entry(block, slot, api.Entry{Node: number, Kind: kind, Name: name}) }
 }
 
 // gone empties a slot of a directory's block.
 func gone(block, slot int) func(p *plate) {
-	return func(p *plate) { clear(p.blocks[block][64*slot:][:64]) }
+	return func(p *plate) { clear(p.Held[block][64*slot:][:64]) }
 }
 
 // bits turns bits of the block bitmap.
-func bits(blocks ...int) func(p *plate) { return func(p *plate) { p.taken(blocks...) } }
+func bits(blocks ...int) func(p *plate) { return func(p *plate) { p.Taken(blocks...) } }
 
 // together does one thing behind the other.
 func together(list ...func(p *plate)) func(p *plate) {
@@ -110,14 +77,14 @@ func TestP1201Table(t *testing.T) {
 		return node(number, func(n *api.Node) { n.Parent = parent })
 	}
 	breaks(t, 1, []change{
-		{"a broken slot", func(p *plate) { p.slot(3)[30]++ }, []api.Fault{{Kind: api.FNode, Node: 3}}},
-		{"a broken slot without a node", func(p *plate) { p.slot(8)[127] = 1 }, []api.Fault{{Kind: api.FNode, Node: 8}}},
-		{"a broken root", func(p *plate) { p.slot(1)[0] = api.KFile }, []api.Fault{{Kind: api.FNode, Node: 1}}},
-		{"many broken slots", func(p *plate) { p.slot(8)[0], p.slot(7)[1], p.slot(2)[5] = 1, 1, 1 }, []api.Fault{{Kind: api.FNode, Node: 2}, {Kind: api.FNode, Node: 7}, {Kind: api.FNode, Node: 8}}},
-		{"no root", func(p *plate) { clear(p.slot(1)) }, []api.Fault{{Kind: api.FRoot, Node: 1}}},
-		{"a file as the root", func(p *plate) { p.lay(1, api.Node{Kind: api.KFile, Links: 1}) }, []api.Fault{{Kind: api.FRoot, Node: 1}}},
-		{"a link as the root", func(p *plate) { p.lay(1, api.Node{Kind: api.KLink, Links: 1, Size: 3}) }, []api.Fault{{Kind: api.FRoot, Node: 1}}},
-		{"a link without a text as the root", func(p *plate) { p.lay(1, api.Node{Kind: api.KLink, Links: 1}) }, []api.Fault{{Kind: api.FRoot, Node: 1}, {Kind: api.FShape, Node: 1}}},
+		{"a broken slot", func(p *plate) { p.Slot(3)[30]++ }, []api.Fault{{Kind: api.FNode, Node: 3}}},
+		{"a broken slot without a node", func(p *plate) { p.Slot(8)[127] = 1 }, []api.Fault{{Kind: api.FNode, Node: 8}}},
+		{"a broken root", func(p *plate) { p.Slot(1)[0] = api.KFile }, []api.Fault{{Kind: api.FNode, Node: 1}}},
+		{"many broken slots", func(p *plate) { p.Slot(8)[0], p.Slot(7)[1], p.Slot(2)[5] = 1, 1, 1 }, []api.Fault{{Kind: api.FNode, Node: 2}, {Kind: api.FNode, Node: 7}, {Kind: api.FNode, Node: 8}}},
+		{"no root", func(p *plate) { clear(p.Slot(1)) }, []api.Fault{{Kind: api.FRoot, Node: 1}}},
+		{"a file as the root", func(p *plate) { p.Lay(1, api.Node{Kind: api.KFile, Links: 1}) }, []api.Fault{{Kind: api.FRoot, Node: 1}}},
+		{"a link as the root", func(p *plate) { p.Lay(1, api.Node{Kind: api.KLink, Links: 1, Size: 3}) }, []api.Fault{{Kind: api.FRoot, Node: 1}}},
+		{"a link without a text as the root", func(p *plate) { p.Lay(1, api.Node{Kind: api.KLink, Links: 1}) }, []api.Fault{{Kind: api.FRoot, Node: 1}, {Kind: api.FShape, Node: 1}}},
 		{"the root in another directory", parent(1, 2), []api.Fault{{Kind: api.FRoot, Node: 1}}},
 		{"the root in none", together(parent(1, 1024), size(1, 511)), []api.Fault{{Kind: api.FRoot, Node: 1}, {Kind: api.FShape, Node: 1, Other: 511}}},
 		{"a directory of a byte more", size(2, 513), []api.Fault{{Kind: api.FShape, Node: 2, Other: 513}}},
@@ -125,11 +92,11 @@ func TestP1201Table(t *testing.T) {
 		{"a link without a text", size(4, 0), []api.Fault{{Kind: api.FShape, Node: 4}}},
 		{"a link of a byte too many", size(4, 256), []api.Fault{{Kind: api.FShape, Node: 4, Other: 256}}},
 		{"a link of a block", size(4, 512), []api.Fault{{Kind: api.FShape, Node: 4, Other: 512}}},
-		{"all of it", together(parent(1, 2), size(4, 300), size(2, api.MaxFile-1), func(p *plate) { p.slot(6)[0] = 4 }), []api.Fault{{Kind: api.FNode, Node: 6}, {Kind: api.FRoot, Node: 1}, {Kind: api.FShape, Node: 2, Other: api.MaxFile - 1}, {Kind: api.FShape, Node: 4, Other: 300}}},
-		{"what is wrong behind it too", together(size(4, 256), node(3, func(n *api.Node) { n.Single = 2000 }), func(p *plate) { clear(p.blocks[0]); clear(p.blocks[4]) }), []api.Fault{{Kind: api.FShape, Node: 4, Other: 256}}},
+		{"all of it", together(parent(1, 2), size(4, 300), size(2, api.MaxFile-1), func(p *plate) { p.Slot(6)[0] = 4 }), []api.Fault{{Kind: api.FNode, Node: 6}, {Kind: api.FRoot, Node: 1}, {Kind: api.FShape, Node: 2, Other: api.MaxFile - 1}, {Kind: api.FShape, Node: 4, Other: 300}}},
+		{"what is wrong behind it too", together(size(4, 256), node(3, func(n *api.Node) { n.Single = 2000 }), func(p *plate) { clear(p.Held[0]); clear(p.Held[4]) }), []api.Fault{{Kind: api.FShape, Node: 4, Other: 256}}},
 	})
-	keeps(t, "the longest link", together(size(4, 255), func(p *plate) { copy(p.blocks[12], slices.Repeat([]byte{'/'}, 255)) }), sampleReport)
-	keeps(t, "the shortest link", together(size(4, 1), func(p *plate) { clear(p.blocks[12][1:]) }), sampleReport)
+	keeps(t, "the longest link", together(size(4, 255), func(p *plate) { copy(p.Held[12], slices.Repeat([]byte{'/'}, 255)) }), sampleReport)
+	keeps(t, "the shortest link", together(size(4, 1), func(p *plate) { clear(p.Held[12][1:]) }), sampleReport)
 	for _, s := range []int{0, 1, 511, 512, 513, api.MaxFile - 1, api.MaxFile} {
 		keeps(t, "a file of holes", size(6, s), sampleReport)
 	}
@@ -233,7 +200,7 @@ func TestP1201Beyond(t *testing.T) {
 		return api.Fault{Kind: api.FBeyond, Node: 3, Index: index, Block: block}
 	}
 	size := func(size int) func(p *plate) { return node(3, func(n *api.Node) { n.Size = size }) }
-	clean := func(p *plate) { clear(p.blocks[6]); clear(p.blocks[8]); clear(p.blocks[11]) }
+	clean := func(p *plate) { clear(p.Held[6]); clear(p.Held[8]); clear(p.Held[11]) }
 	for _, c := range []struct {
 		size   int
 		faults []api.Fault
@@ -274,7 +241,7 @@ func TestP1201Tail(t *testing.T) {
 	tail := func(number, index, block int) []api.Fault {
 		return []api.Fault{{Kind: api.FTail, Node: number, Index: index, Block: block}}
 	}
-	set := func(block, place int) func(p *plate) { return func(p *plate) { p.blocks[block][place] = 1 } }
+	set := func(block, place int) func(p *plate) { return func(p *plate) { p.Held[block][place] = 1 } }
 	for _, place := range []int{100, 101, 300, 511} {
 		breaks(t, 2, []change{{"in a leaf", set(11, place), tail(3, 266, 11)}})
 	}
@@ -300,8 +267,8 @@ func TestP1201Tail(t *testing.T) {
 func TestP1201AllOfPointers(t *testing.T) {
 	breaks(t, 2, []change{{"one of each", together(
 		node(6, func(n *api.Node) { n.Size, n.Owned, n.Direct, n.Single = 3, 9, [10]int{20, 43, 6, 21}, 22 }),
-		func(p *plate) { p.blocks[20][3] = 1 },
-		func(p *plate) { clear(p.blocks[0]); clear(p.blocks[4]) }, // of later phases
+		func(p *plate) { p.Held[20][3] = 1 },
+		func(p *plate) { clear(p.Held[0]); clear(p.Held[4]) }, // of later phases
 	), []api.Fault{
 		{Kind: api.FPointer, Node: 6, Index: 1, Block: 43},
 		{Kind: api.FTwice, Node: 6, Index: 2, Block: 6},
@@ -318,9 +285,9 @@ func TestP1201Bits(t *testing.T) {
 	d, _, tx := p.begun()
 	for bitmap := range 2 {
 		for bit := range 4096 {
-			p.turn(bitmap, bit)
-			is(t, "Put", tx.Put(bitmap, p.blocks[bitmap]), api.OK)
-			now := int(p.blocks[bitmap][bit/8] >> (bit % 8) & 1)
+			p.Turn(bitmap, bit)
+			is(t, "Put", tx.Put(bitmap, p.Held[bitmap]), api.OK)
+			now := int(p.Held[bitmap][bit/8] >> (bit % 8) & 1)
 			fault := api.Fault{Kind: api.FBlockBit, Block: bit, Other: now}
 			if bitmap == 1 {
 				fault = api.Fault{Kind: api.FNodeBit, Node: bit + 1, Other: now}
@@ -329,9 +296,9 @@ func TestP1201Bits(t *testing.T) {
 				t.Fatalf("bit %d of bitmap %d is %d in the sample", bit, bitmap, 1-now)
 			}
 			p.asks(d, tx, 1+bit%8, "a bit", faulty(3, fault))
-			p.turn(bitmap, bit)
+			p.Turn(bitmap, bit)
 		}
-		is(t, "Put", tx.Put(bitmap, p.blocks[bitmap]), api.OK)
+		is(t, "Put", tx.Put(bitmap, p.Held[bitmap]), api.OK)
 	}
 	p.asks(d, tx, 8, "all bits right", sampleReport)
 }
@@ -340,14 +307,14 @@ func TestP1201AllBits(t *testing.T) {
 	p := sample(t)
 	var faults []api.Fault
 	for b := range 4096 {
-		faults = append(faults, api.Fault{Kind: api.FBlockBit, Block: b, Other: int(^p.blocks[0][b/8]>>(b%8)) & 1})
+		faults = append(faults, api.Fault{Kind: api.FBlockBit, Block: b, Other: int(^p.Held[0][b/8]>>(b%8)) & 1})
 	}
 	for k := range 4096 {
-		faults = append(faults, api.Fault{Kind: api.FNodeBit, Node: k + 1, Other: int(^p.blocks[1][k/8]>>(k%8)) & 1})
+		faults = append(faults, api.Fault{Kind: api.FNodeBit, Node: k + 1, Other: int(^p.Held[1][k/8]>>(k%8)) & 1})
 	}
 	for i := range 512 {
-		p.blocks[0][i], p.blocks[1][i] = ^p.blocks[0][i], ^p.blocks[1][i]
+		p.Held[0][i], p.Held[1][i] = ^p.Held[0][i], ^p.Held[1][i]
 	}
-	clear(p.blocks[4]) // of a later phase
+	clear(p.Held[4]) // of a later phase
 	p.runs("all bits turned", faulty(3, faults...))
 }

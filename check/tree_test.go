@@ -18,7 +18,7 @@ func parent(number, parent int) func(p *plate) {
 }
 
 // born makes a node without a name.
-func born(number int, n api.Node) func(p *plate) { return func(p *plate) { p.born(number, n) } }
+func born(number int, n api.Node) func(p *plate) { return func(p *plate) { p.Born(number, n) } }
 
 func linked(number, n int) api.Fault { return api.Fault{Kind: api.FLinks, Node: number, Other: n} }
 
@@ -36,9 +36,9 @@ var (
 
 // pointing makes node 7 a link to "abc" without a name.
 func pointing(p *plate) {
-	p.born(7, pointed)
-	p.taken(20)
-	copy(p.blocks[20], "abc")
+	p.Born(7, pointed)
+	p.Taken(20)
+	copy(p.Held[20], "abc")
 }
 
 func TestP1201Links(t *testing.T) {
@@ -109,7 +109,7 @@ func TestP1201Lost(t *testing.T) {
 func TestP1201Loop(t *testing.T) {
 	ring := together( // 2 in 5, and 5 in 2
 		gone(4, 0), links(1, 2),
-		func(p *plate) { p.taken(20) },
+		func(p *plate) { p.Taken(20) },
 		node(5, func(n *api.Node) { n.Links, n.Size, n.Owned, n.Direct[0] = 3, 512, 1, 20 }),
 		entry(20, 0, 2, api.KDir, "d"),
 	)
@@ -134,16 +134,16 @@ func TestP1201DeepAndWide(t *testing.T) {
 	p := rooted(t, large)
 	deepest := 700
 	for k := 2; k <= deepest; k++ { // each in the one before
-		p.born(k, api.Node{Kind: api.KDir, Links: 2, Parent: k - 1})
+		p.Born(k, api.Node{Kind: api.KDir, Links: 2, Parent: k - 1})
 		block := p.Data + k
-		p.taken(block)
-		p.change(k-1, func(n *api.Node) { n.Links, n.Size, n.Owned, n.Direct[0] = 3, 512, 1, block })
-		p.entry(block, k%8, api.Entry{Node: k, Kind: api.KDir, Name: strconv.Itoa(k)})
+		p.Taken(block)
+		p.Change(k-1, func(n *api.Node) { n.Links, n.Size, n.Owned, n.Direct[0] = 3, 512, 1, block })
+		p.Entry(block, k%8, api.Entry{Node: k, Kind: api.KDir, Name: strconv.Itoa(k)})
 	}
 	p.runs("a long way down", api.Report{Dirs: deepest, Used: deepest - 1})
 	cut := p.again()
-	clear(cut.blocks[p.Data+300])
-	cut.entry(p.Data+300, 0, api.Entry{Node: 299, Kind: api.KDir, Name: "x"})
+	clear(cut.Held[p.Data+300])
+	cut.Entry(p.Data+300, 0, api.Entry{Node: 299, Kind: api.KDir, Name: "x"})
 	want := faulty(5, hung(299, 2), lost(300))
 	for k := 301; k <= deepest; k++ {
 		want.Faults = append(want.Faults, looped(k))
@@ -155,15 +155,15 @@ func TestP1201DeepAndWide(t *testing.T) {
 func TestP1201Many(t *testing.T) {
 	p := rooted(t, wide)
 	const blocks = 10
-	p.change(1, func(n *api.Node) {
+	p.Change(1, func(n *api.Node) {
 		n.Size, n.Owned = 512*blocks, blocks
 		for i := range n.Direct {
 			n.Direct[i] = p.Data + i
-			p.taken(p.Data + i)
+			p.Taken(p.Data + i)
 		}
 	})
-	p.born(2, api.Node{Kind: api.KFile, Links: 64})
-	p.born(3, api.Node{Kind: api.KDir, Links: 2, Parent: 1})
+	p.Born(2, api.Node{Kind: api.KFile, Links: 64})
+	p.Born(3, api.Node{Kind: api.KDir, Links: 2, Parent: 1})
 	counts := map[int]int{}
 	for slot := range 8 * blocks {
 		number, kind := 2, api.KFile
@@ -171,7 +171,7 @@ func TestP1201Many(t *testing.T) {
 			number, kind = 3, api.KDir
 		}
 		counts[number]++
-		p.entry(p.Data+slot/8, slot%8, api.Entry{Node: number, Kind: kind, Name: strconv.Itoa(slot)})
+		p.Entry(p.Data+slot/8, slot%8, api.Entry{Node: number, Kind: kind, Name: strconv.Itoa(slot)})
 	}
 	p.runs("more than 64 names", faulty(5, linked(1, 2+counts[3]), linked(2, counts[2]), hung(3, counts[3])))
 }

@@ -3,7 +3,6 @@ package dump_test
 import (
 	"bytes"
 	"math"
-	"strings"
 	"testing"
 
 	"vellum/api"
@@ -11,51 +10,10 @@ import (
 	"vellum/trial"
 )
 
-// planter draws operations by which trees grow and wither.
-type planter struct {
-	*trial.Dice
-}
-
-func (d planter) path() string {
-	path := ""
-	for range 1 + d.Below(3) {
-		path += "/" + trial.One(d.Dice, "a", "b", "a.b", "a!", "c", string(rune('a'+d.Below(26))))
-	}
-	return path
-}
-
-func (d planter) place() int {
-	return trial.One(d.Dice, 0, d.Below(600), d.Below(6000), 512*d.Below(20), 512*138+d.Below(1200), 512*d.Below(300), d.Below(api.MaxFile-5000))
-}
-
-func (d planter) op() api.Op {
-	switch d.Below(20) {
-	case 0, 1:
-		return site.Create(d.path())
-	case 2, 3:
-		return site.Mkdir(d.path())
-	case 4, 5:
-		return site.Symlink(d.path(), trial.One(d.Dice, "a", "/b", "..", "a.b/c", "/none/x", strings.Repeat("t", 255)))
-	case 6, 7:
-		return site.Link(d.path(), d.path())
-	case 8:
-		return site.Unlink(d.path())
-	case 9:
-		return site.Rmdir(d.path())
-	case 10, 11:
-		return site.Rename(d.path(), d.path())
-	case 12:
-		return site.Truncate(d.path(), d.place())
-	case 13:
-		return site.Punch(d.path(), d.place(), d.place())
-	}
-	return api.Op{Kind: api.OpWrite, Path: d.path(), Off: d.place(), Data: d.Bytes(trial.One(d.Dice, 1, d.Below(600), d.Below(5000)))}
-}
-
 // grown does drawn operations; it is no matter which of them are refused.
-func (g *ground) grown(d planter, ops int) *ground {
+func (g *ground) grown(d site.Planter, ops int) *ground {
 	for range ops {
-		g.f.Do(d.op())
+		g.f.Do(d.Op())
 	}
 	return g
 }
@@ -87,7 +45,7 @@ func TestP1505Drawn(t *testing.T) {
 	t.Parallel()
 	full, items, fewer := 0, 0, 0
 	for seed, form := range []api.Super{{Sectors: 30, Log: 18, Nodes: 8}, {Sectors: 64, Log: 18, Nodes: 16}, {Sectors: 120, Log: 40, Nodes: 40}, {Sectors: 400, Log: 18, Nodes: 60}} {
-		d := planter{trial.NewDice(1505 + seed)}
+		d := site.Planter{Dice: trial.NewDice(1505 + seed)}
 		for range 12 {
 			g := fresh(t, form)
 			for range 6 {
@@ -158,7 +116,7 @@ func TestP1505Lists(t *testing.T) {
 func TestP1507Drawn(t *testing.T) {
 	t.Parallel()
 	d := lister{trial.NewDice(1507)}
-	p := planter{d.Dice}
+	p := site.Planter{Dice: d.Dice}
 	answers := map[api.Errno]int{}
 	for _, form := range []api.Super{{Sectors: 28, Log: 18, Nodes: 4}, {Sectors: 33, Log: 18, Nodes: 16}, {Sectors: 64, Log: 18, Nodes: 16}, {Sectors: 200, Log: 60, Nodes: 24}} {
 		for range 100 {

@@ -3,9 +3,7 @@ package dump_test
 import (
 	"bytes"
 	"cmp"
-	"fmt"
 	"slices"
-	"strings"
 	"testing"
 
 	"vellum/api"
@@ -51,19 +49,10 @@ func (g *ground) saves(want []api.Item) []byte {
 		g.t.Fatalf("P1503: Save: %v", e)
 	}
 	items, is := itemsOf(archive)
-	if !is || !same(items, want) {
-		g.t.Fatalf("P1503: Save tells %.2000s, want %.2000s (an archive: %v)", short(items), short(want), is)
+	if !is || !site.Same(items, want) {
+		g.t.Fatalf("P1503: Save tells %.2000s, want %.2000s (an archive: %v)", site.Short(items), site.Short(want), is)
 	}
 	return archive
-}
-
-// short is of items what a page can take.
-func short(items []api.Item) string {
-	var text strings.Builder
-	for _, x := range items {
-		fmt.Fprintf(&text, "{%d %q %q %d %v %d bytes, sum %x} ", x.Kind, x.Path, x.Target, x.Size, x.Runs, len(x.Data), crc(x.Data))
-	}
-	return text.String()
 }
 
 // unsaved asks that Save is refused.
@@ -110,7 +99,7 @@ func (g *ground) told() []api.Item {
 			items = append(items, item)
 		}
 	}
-	slices.SortFunc(items, func(a, b api.Item) int { return order(a.Path, b.Path) })
+	slices.SortFunc(items, func(a, b api.Item) int { return site.Order(a.Path, b.Path) })
 	first := map[int]string{}
 	for i, item := range items {
 		node := nodes[item.Path]

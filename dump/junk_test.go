@@ -48,7 +48,7 @@ func TestP9Loops(t *testing.T) {
 // Any bytes below a file system that is mounted: Save ends, and tells an archive or nothing.
 func TestP9Junk(t *testing.T) {
 	t.Parallel()
-	d := planter{trial.NewDice(15092)}
+	d := site.Planter{Dice: trial.NewDice(15092)}
 	answers := map[api.Errno]int{}
 	for range 150 {
 		g := fresh(t, api.Super{Sectors: 64, Log: 18, Nodes: 16}).grown(d, 60)

@@ -9,6 +9,7 @@ import (
 
 	"vellum/api"
 	"vellum/dump"
+	"vellum/site"
 	"vellum/trial"
 )
 
@@ -16,7 +17,7 @@ import (
 func lists(t *testing.T, archive []byte, want []api.Item) {
 	t.Helper()
 	items, e := dump.List(archive)
-	if e != api.OK || !same(items, want) {
+	if e != api.OK || !site.Same(items, want) {
 		t.Fatalf("P1502: List of %d bytes: %d items, %v, want %d", len(archive), len(items), e, len(want))
 	}
 	if again, e := dump.Pack(items); e != api.OK || !bytes.Equal(again, archive) {
@@ -231,7 +232,7 @@ func TestP2List(t *testing.T) {
 	for i := range archive {
 		archive[i] = 0xEE
 	}
-	if !same(items, want) {
+	if !site.Same(items, want) {
 		t.Error("P2: what List tells hangs on its argument's memory")
 	}
 	copy(archive, was)
@@ -239,7 +240,7 @@ func TestP2List(t *testing.T) {
 		_ = append(items[i].Data, 7, 7, 7)
 		_ = append(items[i].Runs, run(7, 7))
 	}
-	if !same(items, want) || !bytes.Equal(archive, was) {
+	if !site.Same(items, want) || !bytes.Equal(archive, was) {
 		t.Error("P2: what is appended to one list is seen in another")
 	}
 	for i := range items {

@@ -26,42 +26,11 @@ func byWords(f *fs.FS, archive []byte) (int, api.Errno) {
 		return 0, api.ErrArchive
 	}
 	for i, item := range items {
-		if e := putByWords(f, item); e != api.OK {
+		if e := site.Put(f, item); e != api.OK {
 			return i, e
 		}
 	}
 	return len(items), api.OK
-}
-
-func putByWords(f *fs.FS, x api.Item) api.Errno {
-	switch x.Kind {
-	case 2:
-		return f.Do(site.Mkdir(x.Path)).Err
-	case 3:
-		return f.Do(site.Symlink(x.Path, x.Target)).Err
-	case 4:
-		return f.Do(site.Link(x.Target, x.Path)).Err
-	}
-	if e := f.Do(site.Create(x.Path)).Err; e != api.OK {
-		return e
-	}
-	if x.Size > 0 {
-		if e := f.Do(site.Truncate(x.Path, x.Size)).Err; e != api.OK {
-			return e
-		}
-	}
-	at := 0 // of Data
-	for _, r := range x.Runs {
-		end := min(512*r.To, x.Size)
-		for off := 512 * r.From; off < end; off += 65536 {
-			from := at + off - 512*r.From
-			if e := f.Do(site.Write(x.Path, off, string(x.Data[from:from+min(65536, end-off)]))).Err; e != api.OK {
-				return e
-			}
-		}
-		at += 512 * (r.To - r.From)
-	}
-	return api.OK
 }
 
 // asTwin loads an archive here, and by the words at a copy of this ground: the answers must be the same, and the disks must have been asked the same and hold the same, behind a power cut too. Before it a fuse is set, if it is not below 0. It tells what was answered.

@@ -10,6 +10,7 @@ import (
 
 	"vellum/api"
 	"vellum/dump"
+	"vellum/site"
 	"vellum/trial"
 )
 
@@ -336,7 +337,7 @@ func TestP2Pack(t *testing.T) {
 	items := append(sample(), fileItem("/d", 2000, 2048, run(0, 4)))
 	was := append(sample(), fileItem("/d", 2000, 2048, run(0, 4)))
 	first, _ := dump.Pack(items)
-	if !same(items, was) {
+	if !site.Same(items, was) {
 		t.Error("P2: Pack has changed its items")
 	}
 	want := bytes.Clone(first)
@@ -344,7 +345,7 @@ func TestP2Pack(t *testing.T) {
 		first[i] ^= 0xFF
 	}
 	_ = append(first, "behind"...)
-	if !same(items, was) {
+	if !site.Same(items, was) {
 		t.Error("P2: what Pack has answered is its items' memory")
 	}
 	if again, e := dump.Pack(items); e != api.OK || !bytes.Equal(again, want) {
@@ -367,7 +368,7 @@ func (d lister) paths() []string {
 	for range d.Below(14) {
 		list = append(list, trial.One(d.Dice, list...)+"/"+d.name())
 	}
-	slices.SortFunc(list, order)
+	slices.SortFunc(list, site.Order)
 	list = list[1:]
 	if d.Below(10) > 0 {
 		list = slices.Compact(list)

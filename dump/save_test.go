@@ -223,7 +223,7 @@ func crowded(t *testing.T, n int) *ground {
 	t.Helper()
 	g := fresh(t, api.Super{Sectors: 900, Log: 200, Nodes: 120})
 	for _, item := range crowd(n) {
-		trial.Is(t, item.Path, putByWords(g.f, item), api.OK)
+		trial.Is(t, item.Path, site.Put(g.f, item), api.OK)
 	}
 	return g
 }
@@ -315,7 +315,7 @@ func wide(n int) []api.Item {
 		items = append(items, linkItem(fmt.Sprintf("/%02d", 10+i), strings.Repeat("t", most-8)))
 		left -= most
 	}
-	slices.SortFunc(items, func(a, b api.Item) int { return order(a.Path, b.Path) })
+	slices.SortFunc(items, func(a, b api.Item) int { return site.Order(a.Path, b.Path) })
 	return items
 }
 

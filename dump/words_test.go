@@ -8,14 +8,10 @@ import (
 	"strings"
 
 	"vellum/api"
+	"vellum/site"
 )
 
 // The chapter's words about items and archives, one by one, over whole lists.
-
-// order is the order of paths: a slash counts less than any byte of a name.
-func order(a, b string) int {
-	return strings.Compare(strings.ReplaceAll(a, "/", "\x00"), strings.ReplaceAll(b, "/", "\x00"))
-}
 
 // broken is the first of the nine rules that a list breaks; 0, if it is right.
 func broken(items []api.Item) int {
@@ -46,7 +42,7 @@ func rule2(at int, item api.Item, items []api.Item) bool {
 }
 
 func rule3(at int, item api.Item, items []api.Item) bool {
-	return at == 0 || order(items[at-1].Path, item.Path) < 0
+	return at == 0 || site.Order(items[at-1].Path, item.Path) < 0
 }
 
 func rule4(at int, item api.Item, items []api.Item) bool {
@@ -197,11 +193,4 @@ func itemsOf(archive []byte) ([]api.Item, bool) {
 	}
 	count := c.number(4)
 	return items, !c.bad && len(c.left) == 0 && count == uint64(len(items)) && broken(items) == 0
-}
-
-// same says whether two lists of items are the same; a nil list is an empty one.
-func same(a, b []api.Item) bool {
-	return slices.EqualFunc(a, b, func(x, y api.Item) bool {
-		return x.Kind == y.Kind && x.Path == y.Path && x.Target == y.Target && x.Size == y.Size && slices.Equal(x.Runs, y.Runs) && bytes.Equal(x.Data, y.Data)
-	})
 }

@@ -1,11 +1,14 @@
 package store
 
-import "vellum/api"
+import (
+	"vellum/api"
+	"vellum/redo"
+)
 
 // Tx is a transaction of a store.
 type Tx struct {
 	store  *Store
-	puts   changes
+	puts   redo.Changes
 	spoilt api.Errno // OK, or why its calls are refused till it is aborted
 	ended  bool
 }
@@ -65,7 +68,7 @@ func (t *Tx) Put(block int, data []byte) api.Errno {
 	if len(data) != api.Size {
 		return api.ErrLength
 	}
-	c := content(data)
+	c := redo.Content(data)
 	was, e := t.sees(block)
 	if e != api.OK {
 		return e
@@ -91,7 +94,7 @@ func (t *Tx) refusal(block int) api.Errno {
 	return api.OK
 }
 
-func (t *Tx) sees(block int) (content, api.Errno) {
+func (t *Tx) sees(block int) (redo.Content, api.Errno) {
 	if c, put := t.puts[block]; put {
 		return c, api.OK
 	}
@@ -117,8 +120,8 @@ func (t *Tx) Commit() api.Errno {
 }
 
 // changed leaves out what was put and then put back.
-func (t *Tx) changed() (changes, api.Errno) {
-	changed := changes{}
+func (t *Tx) changed() (redo.Changes, api.Errno) {
+	changed := redo.Changes{}
 	for block, c := range t.puts {
 		was, e := t.store.committed(block)
 		if e != api.OK {

@@ -1,4 +1,5 @@
-package dump
+// Package put: how an item comes into a file system: dump and salvage share it.
+package put
 
 import (
 	"slices"
@@ -6,8 +7,8 @@ import (
 	"vellum/api"
 )
 
-// operations are what puts an item into a file system.
-func operations(item api.Item) []api.Op {
+// Operations are what puts an item into a file system, one after the other.
+func Operations(item api.Item) []api.Op {
 	switch item.Kind {
 	case api.KDir:
 		return []api.Op{{Kind: api.OpMkdir, Path: item.Path}}
