@@ -13,7 +13,7 @@ import (
 // grown does drawn operations; it is no matter which of them are refused.
 func (g *ground) grown(d site.Planter, ops int) *ground {
 	for range ops {
-		g.f.Do(d.Op())
+		g.F.Do(d.Op())
 	}
 	return g
 }
@@ -26,16 +26,16 @@ func roomy(form api.Super, log, nodes, blocks int) api.Super {
 
 // restored asks that the archive of a file system, loaded into a new one, makes the same tree, with no block more; it tells how many.
 func (g *ground) restored(form api.Super, items []api.Item, archive []byte, used int) int {
-	g.t.Helper()
-	r := fresh(g.t, form)
+	g.T.Helper()
+	r := fresh(g.T, form)
 	r.loads(archive, len(items), api.OK)
 	if again := r.saves(items); !bytes.Equal(again, archive) {
-		g.t.Fatalf("P1505: %+v: another archive", form)
+		g.T.Fatalf("P1505: %+v: another archive", form)
 	}
 	r.asTold()
-	report := r.whole()
+	report := r.Whole()
 	if report.Used > used {
-		g.t.Fatalf("P1505: %+v: %d blocks are in use, and were %d", form, report.Used, used)
+		g.T.Fatalf("P1505: %+v: %d blocks are in use, and were %d", form, report.Used, used)
 	}
 	return report.Used
 }
@@ -52,11 +52,11 @@ func TestP1505Drawn(t *testing.T) {
 				g.grown(d, 30)
 				list := g.told()
 				var archive []byte
-				g.unchanged("Save", func() { archive = g.saves(list) })
-				if free, _, _ := g.f.Space(); free == 0 {
+				g.Unchanged("Save", func() { archive = g.saves(list) })
+				if free, _, _ := g.F.Space(); free == 0 {
 					full++
 				}
-				used := g.whole().Used
+				used := g.Whole().Used
 				items += len(list)
 				if g.restored(form, list, archive, used) < used {
 					fewer++
@@ -64,9 +64,9 @@ func TestP1505Drawn(t *testing.T) {
 				g.restored(roomy(form, 18, 0, 0), list, archive, used)
 				g.restored(roomy(form, 18+d.Below(40), 4*d.Below(5), d.Below(20)), list, archive, used)
 				if d.Below(4) == 0 {
-					g.f.Sync()
-					g.d.Crash(nil)
-					g = onDisk(t, g.d)
+					g.F.Sync()
+					g.D.Crash(nil)
+					g = onDisk(t, g.D)
 					g.saves(list)
 				}
 			}
@@ -82,13 +82,13 @@ func TestP1505Slots(t *testing.T) {
 	form := api.Super{Sectors: 60, Log: 18, Nodes: 40}
 	g := fresh(t, form)
 	for i := range 26 {
-		g.all(site.Create("/" + string(rune('z'-i))))
+		g.All(site.Create("/" + string(rune('z'-i))))
 	}
 	for i := range 22 {
-		g.all(site.Unlink("/" + string(rune('z'-i))))
+		g.All(site.Unlink("/" + string(rune('z'-i))))
 	}
-	g.all(site.Write("/a", 0, "last of all"))
-	if used := g.whole().Used; used != 5 {
+	g.All(site.Write("/a", 0, "last of all"))
+	if used := g.Whole().Used; used != 5 {
 		t.Fatalf("%d blocks are in use", used)
 	}
 	if used := g.restored(form, g.told(), g.asTold(), 5); used != 2 {
@@ -99,31 +99,31 @@ func TestP1505Slots(t *testing.T) {
 // Drawn right lists that fit are put in and told again, item for item.
 func TestP1505Lists(t *testing.T) {
 	t.Parallel()
-	d := lister{trial.NewDice(15051)}
+	d := site.Lister{Dice: trial.NewDice(15051)}
 	for range 150 {
-		items := d.items()
+		items := d.Items()
 		if broken(items) != 0 {
 			continue
 		}
 		g := fresh(t, api.Super{Sectors: 500, Log: 60, Nodes: 20})
 		g.loads(bytesOf(items), len(items), api.OK)
 		g.saves(items)
-		g.whole()
+		g.Whole()
 	}
 }
 
 // Any list of bytes, as an archive, at any file system: it is refused and nothing is changed, or it is put in as far as it goes; and all is whole.
 func TestP1507Drawn(t *testing.T) {
 	t.Parallel()
-	d := lister{trial.NewDice(1507)}
+	d := site.Lister{Dice: trial.NewDice(1507)}
 	p := site.Planter{Dice: d.Dice}
 	answers := map[api.Errno]int{}
 	for _, form := range []api.Super{{Sectors: 28, Log: 18, Nodes: 4}, {Sectors: 33, Log: 18, Nodes: 16}, {Sectors: 64, Log: 18, Nodes: 16}, {Sectors: 200, Log: 60, Nodes: 24}} {
 		for range 100 {
 			g := fresh(t, form).grown(p, d.Below(30)).synced()
-			items := d.items()
+			items := d.Items()
 			for range d.Below(2) {
-				items = d.spoil(items)
+				items = d.Spoil(items)
 			}
 			archive := bytesOf(items)
 			if d.Below(6) == 0 {
@@ -139,7 +139,7 @@ func TestP1507Drawn(t *testing.T) {
 				t.Errorf("P1507: no archive: %d, %v", n, e)
 			}
 			if e == api.ErrArchive {
-				g.unchanged("Load of no archive", func() { g.loads(archive, 0, api.ErrArchive) })
+				g.Unchanged("Load of no archive", func() { g.loads(archive, 0, api.ErrArchive) })
 			}
 		}
 	}

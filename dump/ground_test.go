@@ -1,88 +1,74 @@
 package dump_test
 
 import (
-	"bytes"
 	"cmp"
 	"slices"
-	"testing"
 
 	"vellum/api"
 	"vellum/disk"
 	"vellum/dump"
-	"vellum/fs"
 	"vellum/site"
+	"vellum/trial"
 )
 
-// ground is a disk, and the file system on it.
+// ground is a file system that is saved and loaded.
 type ground struct {
-	t *testing.T
-	d *disk.Disk
-	f *fs.FS
+	*site.Ground
 }
 
-func onDisk(t *testing.T, d *disk.Disk) *ground {
+func onDisk(t trial.T, d *disk.Disk) *ground {
 	t.Helper()
-	return &ground{t, d, site.Mounted(t, d)}
+	return &ground{site.OnDisk(t, d)}
 }
 
-func fresh(t *testing.T, form api.Super) *ground {
+func fresh(t trial.T, form api.Super) *ground {
 	t.Helper()
-	return onDisk(t, site.Made(t, form))
+	return &ground{site.Fresh(t, form)}
 }
 
-// copied is a ground on a disk of its own that holds what is durable on this one.
 func (g *ground) copied() *ground {
-	g.t.Helper()
-	return onDisk(g.t, site.Loaded(g.t, g.d.Image()))
+	g.T.Helper()
+	return &ground{g.Copied()}
 }
 
-func (g *ground) all(ops ...api.Op) {
-	g.t.Helper()
-	site.All(g.t, g.f, ops...)
+func (g *ground) synced() *ground {
+	g.T.Helper()
+	g.Synced()
+	return g
 }
 
 // saves asks that Save tells just these items; it tells the archive.
 func (g *ground) saves(want []api.Item) []byte {
-	g.t.Helper()
-	archive, e := dump.Save(g.f)
+	g.T.Helper()
+	archive, e := dump.Save(g.F)
 	if e != api.OK {
-		g.t.Fatalf("P1503: Save: %v", e)
+		g.T.Fatalf("P1503: Save: %v", e)
 	}
 	items, is := itemsOf(archive)
 	if !is || !site.Same(items, want) {
-		g.t.Fatalf("P1503: Save tells %.2000s, want %.2000s (an archive: %v)", site.Short(items), site.Short(want), is)
+		g.T.Fatalf("P1503: Save tells %.2000s, want %.2000s (an archive: %v)", site.Short(items), site.Short(want), is)
 	}
 	return archive
 }
 
 // unsaved asks that Save is refused.
 func (g *ground) unsaved(want api.Errno) {
-	g.t.Helper()
-	if archive, e := dump.Save(g.f); e != want || len(archive) != 0 {
-		g.t.Fatalf("P1503: Save: %d bytes, %v, want %v", len(archive), e, want)
+	g.T.Helper()
+	if archive, e := dump.Save(g.F); e != want || len(archive) != 0 {
+		g.T.Fatalf("P1503: Save: %d bytes, %v, want %v", len(archive), e, want)
 	}
 }
 
 func (g *ground) loads(archive []byte, want int, e api.Errno) {
-	g.t.Helper()
-	if n, err := dump.Load(g.f, archive); n != want || err != e {
-		g.t.Fatalf("P1504: Load: %d, %v, want %d, %v", n, err, want, e)
+	g.T.Helper()
+	if n, err := dump.Load(g.F, archive); n != want || err != e {
+		g.T.Fatalf("P1504: Load: %d, %v, want %d, %v", n, err, want, e)
 	}
-}
-
-// whole asks that a check tells no fault.
-func (g *ground) whole() api.Report {
-	g.t.Helper()
-	report, e := g.f.Check(2)
-	if e != api.OK || report.Phase != 0 {
-		g.t.Fatalf("P1507: Check: %+v, %v", report, e)
-	}
-	return report
 }
 
 // told are the items of a file system, found otherwise than Save does: level by level, the files by their paths and block by block, and sorted at the end.
 func (g *ground) told() []api.Item {
-	g.t.Helper()
+	g.T.Helper()
 	var items []api.Item
 	nodes := map[string]int{}
 	for dirs := []string{""}; len(dirs) > 0; dirs = dirs[1:] {
@@ -113,12 +99,12 @@ func (g *ground) told() []api.Item {
 }
 
 func (g *ground) does(op api.Op) api.Reply {
-	g.t.Helper()
-	return site.Does(g.t, g.f, op, api.OK)
+	g.T.Helper()
+	return site.Does(g.T, g.F, op, api.OK)
 }
 
 func (g *ground) file(path string) api.Item {
-	g.t.Helper()
+	g.T.Helper()
 	item := api.Item{Kind: api.KFile, Path: path, Size: g.does(site.Stat(path)).Stat.Size, Runs: g.does(site.Runs(path)).Runs}
 	for _, r := range item.Runs {
 		for i := r.From; i < r.To; i++ {
@@ -131,35 +117,6 @@ func (g *ground) file(path string) api.Item {
 
 // asTold asks that Save tells what is there.
 func (g *ground) asTold() []byte {
-	g.t.Helper()
+	g.T.Helper()
 	return g.saves(g.told())
-}
-
-// unchanged asks, behind what is done, that no disk was written and none was flushed, that as much is free as was, and that the same nodes are held.
-func (g *ground) unchanged(what string, do func()) {
-	g.t.Helper()
-	was, image, held := g.d.Counts(), g.d.Image(), g.held()
-	blocks, nodes, dead := g.f.Space()
-	do()
-	now := g.d.Counts()
-	if now.Writes != was.Writes || now.Flushes != was.Flushes || now.Pending != was.Pending || now.Refused != was.Refused || !bytes.Equal(g.d.Image(), image) {
-		g.t.Fatalf("P1508: %s: the disk was %+v and is %+v", what, was, now)
-	}
-	if b, n, e := g.f.Space(); b != blocks || n != nodes || e != dead {
-		g.t.Fatalf("P1508: %s: Space is %d, %d, %v, and was %d, %d, %v", what, b, n, e, blocks, nodes, dead)
-	}
-	if now := g.held(); !slices.Equal(now, held) {
-		g.t.Fatalf("P1508: %s: the nodes %v are held, and %v were", what, now, held)
-	}
-}
-
-// held are the nodes that are held.
-func (g *ground) held() []int {
-	var list []int
-	for node := 1; node <= 120; node++ {
-		if g.f.Do(api.Op{Kind: api.OpStat, Node: node}).Err == api.OK {
-			list = append(list, node)
-		}
-	}
-	return list
 }

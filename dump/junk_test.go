@@ -14,8 +14,8 @@ import (
 
 // lays writes a home block beside the file system.
 func (g *ground) lays(home, block int, data []byte) {
-	g.t.Helper()
-	trial.Is(g.t, "Write", g.d.Write(home+block, data), api.OK)
+	g.T.Helper()
+	trial.Is(g.T, "Write", g.D.Write(home+block, data), api.OK)
 }
 
 // slots is a directory's block with these entries.
@@ -32,15 +32,15 @@ func slots(entries ...api.Entry) []byte {
 func TestP9Loops(t *testing.T) {
 	for count, digits := range map[int]string{1: "%d", 2: "%020d", 8: "%054d"} {
 		g := fresh(t, api.Super{Sectors: 64, Log: 18, Nodes: 8})
-		g.all(site.Mkdir("/d"), site.Create("/d/f"))
-		trial.Is(t, "Checkpoint", g.f.Checkpoint(), api.OK)
+		g.All(site.Mkdir("/d"), site.Create("/d/f"))
+		trial.Is(t, "Checkpoint", g.F.Checkpoint(), api.OK)
 		var entries []api.Entry
 		for i := range count {
 			entries = append(entries, api.Entry{Node: 2, Kind: api.KDir, Name: fmt.Sprintf(digits, i)})
 		}
 		g.lays(21, 5, slots(entries...)) // behind the root's block, which is 4
 		name := "/" + entries[0].Name
-		site.Does(t, g.f, site.List("/d"+name+name), api.OK)
+		site.Does(t, g.F, site.List("/d"+name+name), api.OK)
 		g.unsaved(api.ErrLong)
 	}
 }
@@ -52,8 +52,8 @@ func TestP9Junk(t *testing.T) {
 	answers := map[api.Errno]int{}
 	for range 150 {
 		g := fresh(t, api.Super{Sectors: 64, Log: 18, Nodes: 16}).grown(d, 60)
-		trial.Is(t, "Checkpoint", g.f.Checkpoint(), api.OK)
-		image := g.d.Image()
+		trial.Is(t, "Checkpoint", g.F.Checkpoint(), api.OK)
+		image := g.D.Image()
 		for range 1 + d.Below(4) {
 			block := 2 + d.Below(38)
 			data := bytes.Clone(image[512*(21+d.Below(43)):][:512])
@@ -68,7 +68,7 @@ func TestP9Junk(t *testing.T) {
 			}
 			g.lays(21, block, data)
 		}
-		archive, e := dump.Save(g.f)
+		archive, e := dump.Save(g.F)
 		answers[e]++
 		if _, is := itemsOf(archive); is != (e == api.OK) || e != api.OK && len(archive) != 0 {
 			t.Fatalf("P4: Save over junk: %d bytes, %v", len(archive), e)

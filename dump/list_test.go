@@ -4,7 +4,6 @@ import (
 	"bytes"
 	"encoding/binary"
 	"fmt"
-	"slices"
 	"testing"
 
 	"vellum/api"
@@ -168,38 +167,15 @@ func TestP1502GreatNumbers(t *testing.T) {
 	refuses(t, "runs of all the world", resummed(append(runs, make([]byte, 9+512)...)))
 }
 
-// edited does something to the bytes of an archive.
-func edited(d *trial.Dice, b []byte) []byte {
-	b = bytes.Clone(b)
-	at := d.Below(len(b) - 3)
-	switch d.Below(7) {
-	case 0:
-		return slices.Delete(b, at, at+1+d.Below(3))
-	case 1:
-		return slices.Insert(b, at, d.Bytes(1+d.Below(9))...)
-	case 2:
-		b[at] = byte(d.Below(6))
-	case 3:
-		b[at]++
-	case 4:
-		b[at]--
-	case 5:
-		copy(b[at:], b[d.Below(len(b)):])
-	case 6:
-		copy(b[at:], d.Bytes(1+d.Below(4)))
-	}
-	return b
-}
-
 // Drawn archives to which drawn things were done, and whose sum is right.
 func TestP1502Drawn(t *testing.T) {
 	t.Parallel()
-	d := lister{trial.NewDice(1502)}
+	d := site.Lister{Dice: trial.NewDice(1502)}
 	taken, refused := 0, 0
 	for range 6000 {
-		items := d.items()
+		items := d.Items()
 		for range d.Below(2) {
-			items = d.spoil(items)
+			items = d.Spoil(items)
 		}
 		b := bytesOf(items)
 		for range d.Below(3) {

@@ -35,38 +35,31 @@ func byWords(f *fs.FS, archive []byte) (int, api.Errno) {
 
 // asTwin loads an archive here, and by the words at a copy of this ground: the answers must be the same, and the disks must have been asked the same and hold the same, behind a power cut too. Before it a fuse is set, if it is not below 0. It tells what was answered.
 func (g *ground) asTwin(what string, archive []byte, fuse int) (int, api.Errno) {
-	g.t.Helper()
+	g.T.Helper()
 	a, b := g.copied(), g.copied()
 	if fuse >= 0 {
-		a.d.Fuse(fuse)
-		b.d.Fuse(fuse)
+		a.D.Fuse(fuse)
+		b.D.Fuse(fuse)
 	}
-	n, e := dump.Load(a.f, archive)
-	if m, want := byWords(b.f, archive); n != m || e != want {
-		g.t.Fatalf("P1504: Load of %s: %d, %v, want %d, %v", what, n, e, m, want)
+	n, e := dump.Load(a.F, archive)
+	if m, want := byWords(b.F, archive); n != m || e != want {
+		g.T.Fatalf("P1504: Load of %s: %d, %v, want %d, %v", what, n, e, m, want)
 	}
-	if x, y := a.d.Counts(), b.d.Counts(); x != y {
-		g.t.Fatalf("P1504: Load of %s: the disk was asked %+v, want %+v", what, x, y)
+	if x, y := a.D.Counts(), b.D.Counts(); x != y {
+		g.T.Fatalf("P1504: Load of %s: the disk was asked %+v, want %+v", what, x, y)
 	}
-	if !a.d.Burnt() {
-		a.whole()
+	if !a.D.Burnt() {
+		a.Whole()
 		a.asTold()
 	}
 	picks := []api.Pick{trial.Keep(), trial.Lose(), trial.Tear(99)}
-	a.d.Crash(picks)
-	b.d.Crash(picks)
-	if !bytes.Equal(a.d.Image(), b.d.Image()) {
-		g.t.Fatalf("P1504: Load of %s: the disks are unlike", what)
+	a.D.Crash(picks)
+	b.D.Crash(picks)
+	if !bytes.Equal(a.D.Image(), b.D.Image()) {
+		g.T.Fatalf("P1504: Load of %s: the disks are unlike", what)
 	}
-	onDisk(g.t, a.d).whole()
+	onDisk(g.T, a.D).Whole()
 	return n, e
-}
-
-// synced makes all durable, so that copies hold it.
-func (g *ground) synced() *ground {
-	g.t.Helper()
-	trial.Is(g.t, "Sync", g.f.Sync(), api.OK)
-	return g
 }
 
 func TestP1504Examples(t *testing.T) {
@@ -75,15 +68,15 @@ func TestP1504Examples(t *testing.T) {
 	g.loads(archive, 4, api.OK)
 	g.saves(three())
 	g = fresh(t, middle)
-	g.all(site.Mkdir("/d"))
+	g.All(site.Mkdir("/d"))
 	g.loads(archive, 1, api.ErrExists)
 	g.saves(three()[:2])
 	g.loads(archive, 0, api.ErrExists)
 	full := fresh(t, api.Super{Sectors: 28, Log: 18, Nodes: 8})
-	full.all(site.Create("/f"), site.Write("/f", 0, strings.Repeat("x", 2*512)), site.Unlink("/f"), site.Create("/g"))
-	node, _ := full.f.Hold("/g")
-	full.all(site.Unlink("/g"), api.Op{Kind: api.OpWrite, Node: node, Data: bytes.Repeat([]byte("x"), 3*512)})
-	if blocks, _, _ := full.f.Space(); blocks != 0 {
+	full.All(site.Create("/f"), site.Write("/f", 0, strings.Repeat("x", 2*512)), site.Unlink("/f"), site.Create("/g"))
+	node, _ := full.F.Hold("/g")
+	full.All(site.Unlink("/g"), api.Op{Kind: api.OpWrite, Node: node, Data: bytes.Repeat([]byte("x"), 3*512)})
+	if blocks, _, _ := full.F.Space(); blocks != 0 {
 		t.Fatalf("%d blocks are free", blocks)
 	}
 	full.loads(archive, 0, api.ErrNoSpace)
@@ -111,7 +104,7 @@ func TestP1504Twins(t *testing.T) {
 // What is no archive is refused with 0, and nothing is done.
 func TestP1504NoArchive(t *testing.T) {
 	g := fresh(t, middle)
-	g.all(site.Create("/a"))
+	g.All(site.Create("/a"))
 	right := bytesOf([]api.Item{dirItem("/x"), dirItem("/y")})
 	wrong := bytes.Clone(right)
 	wrong[len(wrong)-1]++
@@ -122,7 +115,7 @@ func TestP1504NoArchive(t *testing.T) {
 		{nil, api.ErrArchive}, {wrong, api.ErrArchive}, {right[1:], api.ErrArchive}, {right[:len(right)-1], api.ErrArchive}, {make([]byte, 1<<22), api.ErrArchive}, {make([]byte, 1<<22+1), api.ErrLong}, {bytesOf(filled(1<<22 + 1)), api.ErrLong},
 		{bytesOf([]api.Item{dirItem("/x"), dirItem("/y"), dirItem("/y")}), api.ErrArchive}, {bytesOf(many(4097)), api.ErrArchive},
 	} {
-		g.unchanged("Load of what is no archive", func() { g.loads(c.archive, 0, c.e) })
+		g.Unchanged("Load of what is no archive", func() { g.loads(c.archive, 0, c.e) })
 	}
 	g.saves([]api.Item{fileItem("/a", 0, 0)})
 	g.loads(right, 2, api.OK)
@@ -137,18 +130,18 @@ func TestP1504Exists(t *testing.T) {
 		}
 		for _, there := range []api.Op{site.Create(item.Path), site.Mkdir(item.Path), site.Symlink(item.Path, "none")} {
 			g := fresh(t, middle)
-			g.all(there)
+			g.All(there)
 			g.synced()
 			if n, e := g.asTwin("what is there", bytesOf(items), -1); n != i || e != api.ErrExists {
 				t.Errorf("P1504: %s is there: %d, %v, want %d", item.Path, n, e, i)
 			}
 			g.loads(bytesOf(items), i, api.ErrExists)
-			g.whole()
+			g.Whole()
 			for _, done := range items[:i] {
-				site.Does(t, g.f, site.Lstat(done.Path), api.OK)
+				site.Does(t, g.F, site.Lstat(done.Path), api.OK)
 			}
 			for _, left := range items[i+1:] {
-				if g.f.Do(site.Lstat(left.Path)).Err == api.OK {
+				if g.F.Do(site.Lstat(left.Path)).Err == api.OK {
 					t.Errorf("P1504: %s is there, though %s was refused", left.Path, item.Path)
 				}
 			}
@@ -203,9 +196,9 @@ func TestP1504Cut(t *testing.T) {
 	items := append(sample(), fileItem("/d", 9000, 512*18, run(0, 18)))
 	archive := bytesOf(items)
 	dry := g.copied()
-	was := dry.d.Counts()
+	was := dry.D.Counts()
 	dry.loads(archive, len(items), api.OK)
-	now := dry.d.Counts()
+	now := dry.D.Counts()
 	total := now.Writes + now.Flushes - was.Writes - was.Flushes
 	if total < 30 {
 		t.Fatalf("%d writes are few", total)
@@ -226,13 +219,13 @@ func TestP1504Cut(t *testing.T) {
 // Nothing is synced: where the log has room nothing is flushed, and a cut may lose it all.
 func TestP1504NoSync(t *testing.T) {
 	g := fresh(t, api.Super{Sectors: 500, Log: 256, Nodes: 24})
-	was := g.d.Counts().Flushes
+	was := g.D.Counts().Flushes
 	g.loads(bytesOf(sample()), 7, api.OK)
-	if now := g.d.Counts(); now.Flushes != was || now.Pending == 0 {
+	if now := g.D.Counts(); now.Flushes != was || now.Pending == 0 {
 		t.Errorf("P1504: %+v, and there were %d flushes", now, was)
 	}
-	g.d.Crash(nil)
-	onDisk(t, g.d).saves(nil)
+	g.D.Crash(nil)
+	onDisk(t, g.D).saves(nil)
 }
 
 // The archive is neither changed nor kept.

@@ -14,29 +14,13 @@ import (
 	"vellum/trial"
 )
 
-func dirItem(path string) api.Item { return api.Item{Kind: api.KDir, Path: path} }
-func linkItem(path, to string) api.Item {
-	return api.Item{Kind: api.KLink, Path: path, Target: to}
-}
-func nameItem(path, first string) api.Item {
-	return api.Item{Kind: api.KName, Path: path, Target: first}
-}
-func run(from, to int) api.Run { return api.Run{From: from, To: to} }
+// These are short for what the tests of the packages over the file system share.
+var (
+	dirItem, linkItem, nameItem, fileItem, run = site.DirItem, site.LinkItem, site.NameItem, site.FileItem, site.Run
 
-// fileItem has so many bytes of Data, each of them 1 as far as it lies ahead of the size.
-func fileItem(path string, size, data int, runs ...api.Run) api.Item {
-	item := api.Item{Kind: api.KFile, Path: path, Size: size, Runs: runs, Data: make([]byte, data)}
-	at := 0
-	for _, r := range runs {
-		for i := r.From * 512; i < r.To*512 && at < data; i++ {
-			if i < size {
-				item.Data[at] = 1
-			}
-			at++
-		}
-	}
-	return item
-}
+	three, many, filled, broken = site.Three, site.Many, site.Filled, site.Broken
+	resummed, edited            = site.Resummed, site.Edited
+)
 
 // sample is a right list with items of all kinds.
 func sample() []api.Item {
@@ -91,13 +75,6 @@ func TestP1501Examples(t *testing.T) {
 	if e != api.OK || len(b) != 578 || !bytes.Equal(b[574:], []byte{0xCC, 0xB9, 0x0C, 0x69}) {
 		t.Errorf("P1501: example 3: %d bytes, %v", len(b), e)
 	}
-}
-
-// three are the items of example 3.
-func three() []api.Item {
-	hi := fileItem("/a", 2, 512, run(0, 1))
-	copy(hi.Data, "hi")
-	return []api.Item{hi, dirItem("/d"), nameItem("/d/b", "/a"), linkItem("/l", "a")}
 }
 
 // deepest are directories one in the other, the last of which has a path of so many bytes.
@@ -264,36 +241,6 @@ func TestP1501Wrong(t *testing.T) {
 	}
 }
 
-// many is a right list of so many items.
-func many(n int) []api.Item {
-	var items []api.Item
-	for i := range n {
-		items = append(items, dirItem(fmt.Sprintf("/%04d", i)))
-	}
-	return items
-}
-
-// filled is a right list whose archive has so many bytes: the most of them in files of 64 blocks.
-func filled(n int) []api.Item {
-	var items []api.Item
-	n -= 17
-	for i := 0; n > 1200; i++ {
-		blocks := min(64, (n-600)/512)
-		item := fileItem(fmt.Sprintf("/f%04d", i), 512*blocks, 512*blocks, run(0, blocks))
-		items = append(items, item)
-		n -= 1 + 2 + 6 + 8 + 4 + 8 + 512*blocks
-	}
-	for i := 0; n > 0; i++ {
-		most := min(n, 1+2+3+2+255)
-		if n-most > 0 && n-most < 20 {
-			most -= 20
-		}
-		items = append(items, linkItem(fmt.Sprintf("/l%d", i), strings.Repeat("t", most-1-2-3-2)))
-		n -= most
-	}
-	return items
-}
-
 // The order of errors, and the edges of how many and how long.
 func TestP1501Order(t *testing.T) {
 	asks := func(what string, items []api.Item, want api.Errno) {
@@ -353,136 +300,15 @@ func TestP2Pack(t *testing.T) {
 	}
 }
 
-// lister draws lists of items: right ones most often.
-type lister struct {
-	*trial.Dice
-}
-
-func (d lister) name() string {
-	return trial.One(d.Dice, "a", "b", "a.b", "a!", "ab", "B", "\xff", "\x01", "...", strings.Repeat("n", 54))
-}
-
-// paths are drawn paths in their order, each twice seldom, with most of their directories.
-func (d lister) paths() []string {
-	list := []string{""}
-	for range d.Below(14) {
-		list = append(list, trial.One(d.Dice, list...)+"/"+d.name())
-	}
-	slices.SortFunc(list, site.Order)
-	list = list[1:]
-	if d.Below(10) > 0 {
-		list = slices.Compact(list)
-	}
-	return list
-}
-
-func (d lister) runs(size int) []api.Run {
-	var list []api.Run
-	for at := d.Below(3); at*512 < size && len(list) < 6; {
-		end := min(at+1+d.Below(4), (size+511)/512)
-		list = append(list, run(at, end))
-		at = end + 1 + d.Below(3)
-	}
-	return list
-}
-
-func (d lister) file(path string) api.Item {
-	size := trial.One(d.Dice, 0, 1, 511, 512, 513, d.Below(3000), d.Below(9000), api.MaxFile)
-	runs := d.runs(size)
-	blocks := 0
-	for _, r := range runs {
-		blocks += r.To - r.From
-	}
-	item := fileItem(path, size, 512*blocks, runs...)
-	for i, x := range item.Data {
-		item.Data[i] = x * byte(d.Below(256))
-	}
-	return item
-}
-
-func (d lister) items() []api.Item {
-	var items []api.Item
-	var files []string
-	paths := d.paths()
-	for i, p := range paths {
-		above := i+1 < len(paths) && strings.HasPrefix(paths[i+1], p+"/")
-		kind := 1 + d.Below(4)
-		switch {
-		case above && d.Below(30) > 0 || kind == 2:
-			items = append(items, dirItem(p))
-		case kind == 4 && len(files) > 0:
-			items = append(items, nameItem(p, trial.One(d.Dice, files...)))
-		case kind == 3:
-			items = append(items, linkItem(p, trial.One(d.Dice, "x", "/", "..", strings.Repeat("t", 255))))
-		default:
-			items = append(items, d.file(p))
-			files = append(files, p)
-		}
-	}
-	return items
-}
-
-// spoil does one thing to a list that may break a rule, or not.
-func (d lister) spoil(items []api.Item) []api.Item {
-	if len(items) == 0 {
-		return items
-	}
-	i, j := d.Below(len(items)), d.Below(len(items))
-	x := &items[i]
-	switch d.Below(14) {
-	case 0:
-		items[i], items[j] = items[j], items[i]
-	case 1:
-		return slices.Delete(items, i, i+1)
-	case 2:
-		x.Path = trial.One(d.Dice, items[j].Path, x.Path+"/", x.Path+"/a", "/"+x.Path, x.Path[1:], x.Path+"\x00", x.Path+"x", "/"+strings.Repeat("x/", 511), x.Path+"/..")
-	case 3:
-		x.Kind = trial.One(d.Dice, 0, 1, 2, 3, 4, 5, 257, -1)
-	case 4:
-		x.Size += trial.One(d.Dice, -1, 1, 512, -512, api.MaxFile, math.MaxInt)
-	case 5:
-		x.Target = trial.One(d.Dice, "", "x", items[j].Path, strings.Repeat("x", 256), x.Target+"\x00")
-	case 6:
-		x.Runs = append(x.Runs, run(trial.One(d.Dice, 0, 1, 4, 9), trial.One(d.Dice, 1, 2, 5, 10)))
-	case 7:
-		x.Data = append(x.Data, make([]byte, trial.One(d.Dice, 1, 512))...)
-	case 8:
-		x.Data = x.Data[:max(0, len(x.Data)-trial.One(d.Dice, 1, 512))]
-	case 9:
-		if len(x.Data) > 0 {
-			x.Data[len(x.Data)-1-d.Below(min(600, len(x.Data)))]++
-		}
-	case 10:
-		if len(x.Runs) > 0 {
-			r := &x.Runs[d.Below(len(x.Runs))]
-			r.From += d.Below(3) - 1
-			r.To += d.Below(3) - 1
-		}
-	case 11:
-		if len(x.Runs) > 1 {
-			x.Runs[0], x.Runs[1] = x.Runs[1], x.Runs[0]
-		}
-	case 12:
-		if len(x.Runs) > 0 {
-			last := len(x.Runs) - 1
-			x.Data = x.Data[:min(len(x.Data), max(0, len(x.Data)-512*(x.Runs[last].To-x.Runs[last].From)))]
-			x.Runs = x.Runs[:last]
-		}
-	case 13:
-		return append(items, items[j])
-	}
-	return items
-}
-
 // Drawn lists, right ones and such to which one thing or two were done, are packed or refused as the chapter's words say; and listed again.
 func TestP1501Drawn(t *testing.T) {
 	t.Parallel()
-	d := lister{trial.NewDice(1501)}
+	d := site.Lister{Dice: trial.NewDice(1501)}
 	rules := map[int]int{}
 	for range 12000 {
-		items := d.items()
+		items := d.Items()
 		for range d.Below(3) {
-			items = d.spoil(items)
+			items = d.Spoil(items)
 		}
 		rule := packs(t, "a drawn list", items)
 		rules[rule]++

@@ -22,7 +22,7 @@ func TestP1503Examples(t *testing.T) {
 	if b := g.saves(nil); !bytes.Equal(b, bytesOf(nil)) || len(b) != 17 {
 		t.Errorf("P1503: an empty one: %v", b)
 	}
-	g.all(site.Create("/a"), site.Write("/a", 0, "hi"), site.Mkdir("/d"), site.Link("/a", "/d/b"), site.Symlink("/l", "a"))
+	g.All(site.Create("/a"), site.Write("/a", 0, "hi"), site.Mkdir("/d"), site.Link("/a", "/d/b"), site.Symlink("/l", "a"))
 	if b := g.saves(three()); !bytes.Equal(b, bytesOf(three())) || len(b) != 578 {
 		t.Errorf("P1503: example 3: %d bytes", len(b))
 	}
@@ -40,7 +40,7 @@ func TestP1503Order(t *testing.T) {
 		left := slices.Clone(want)
 		for len(left) > 0 {
 			i := d.Below(len(left))
-			if g.f.Do(site.Mkdir(left[i])).Err == api.OK {
+			if g.F.Do(site.Mkdir(left[i])).Err == api.OK {
 				left = slices.Delete(left, i, i+1)
 			}
 		}
@@ -55,7 +55,7 @@ func TestP1503Order(t *testing.T) {
 // A file is at the first of its names in the order of paths, whichever was made first; at all others it is a name of that one.
 func TestP1503Names(t *testing.T) {
 	g := fresh(t, middle)
-	g.all(site.Create("/z"), site.Write("/z", 0, "z"), site.Mkdir("/a"), site.Mkdir("/m"))
+	g.All(site.Create("/z"), site.Write("/z", 0, "z"), site.Mkdir("/a"), site.Mkdir("/m"))
 	file := func(path string) api.Item {
 		item := fileItem(path, 1, 512, run(0, 1))
 		item.Data[0] = 'z'
@@ -63,17 +63,17 @@ func TestP1503Names(t *testing.T) {
 	}
 	a, m := dirItem("/a"), dirItem("/m")
 	g.saves([]api.Item{a, m, file("/z")})
-	g.all(site.Link("/z", "/m/x"))
+	g.All(site.Link("/z", "/m/x"))
 	g.saves([]api.Item{a, m, file("/m/x"), nameItem("/z", "/m/x")})
-	g.all(site.Link("/z", "/a.b"))
+	g.All(site.Link("/z", "/a.b"))
 	g.saves([]api.Item{a, file("/a.b"), m, nameItem("/m/x", "/a.b"), nameItem("/z", "/a.b")})
-	g.all(site.Link("/z", "/a/z"))
+	g.All(site.Link("/z", "/a/z"))
 	g.saves([]api.Item{a, file("/a/z"), nameItem("/a.b", "/a/z"), m, nameItem("/m/x", "/a/z"), nameItem("/z", "/a/z")})
-	g.all(site.Rename("/a", "/n"))
+	g.All(site.Rename("/a", "/n"))
 	g.saves([]api.Item{file("/a.b"), m, nameItem("/m/x", "/a.b"), dirItem("/n"), nameItem("/n/z", "/a.b"), nameItem("/z", "/a.b")})
-	g.all(site.Unlink("/a.b"), site.Create("/y"), site.Link("/y", "/q"))
+	g.All(site.Unlink("/a.b"), site.Create("/y"), site.Link("/y", "/q"))
 	g.saves([]api.Item{m, file("/m/x"), dirItem("/n"), nameItem("/n/z", "/m/x"), fileItem("/q", 0, 0), nameItem("/y", "/q"), nameItem("/z", "/m/x")})
-	g.all(site.Unlink("/m/x"), site.Unlink("/z"), site.Unlink("/q"))
+	g.All(site.Unlink("/m/x"), site.Unlink("/z"), site.Unlink("/q"))
 	g.saves([]api.Item{m, dirItem("/n"), file("/n/z"), fileItem("/y", 0, 0)})
 }
 
@@ -84,7 +84,7 @@ func TestP1503Links(t *testing.T) {
 	for x := 1; x < 256; x++ {
 		text = append(text, byte(x))
 	}
-	g.all(site.Mkdir("/d"), site.Create("/d/f"), site.Symlink("/a", "d"), site.Symlink("/b", "/d/f"), site.Symlink("/c", "/none"), site.Symlink("/e", "e"), site.Symlink("/d/up", ".."), site.Symlink("/g", string(text)), site.Symlink("/h", "/"))
+	g.All(site.Mkdir("/d"), site.Create("/d/f"), site.Symlink("/a", "d"), site.Symlink("/b", "/d/f"), site.Symlink("/c", "/none"), site.Symlink("/e", "e"), site.Symlink("/d/up", ".."), site.Symlink("/g", string(text)), site.Symlink("/h", "/"))
 	g.saves([]api.Item{linkItem("/a", "d"), linkItem("/b", "/d/f"), linkItem("/c", "/none"), dirItem("/d"), fileItem("/d/f", 0, 0), linkItem("/d/up", ".."), linkItem("/e", "e"), linkItem("/g", string(text)), linkItem("/h", "/")})
 }
 
@@ -98,11 +98,11 @@ func TestP1503Content(t *testing.T) {
 	} {
 		g := fresh(t, api.Super{Sectors: 400, Log: 18, Nodes: 4})
 		data := d.Bytes(c.bytes)
-		g.all(site.Create("/f"))
+		g.All(site.Create("/f"))
 		for at := 0; at < len(data); at += api.MaxIO {
-			g.all(site.Write("/f", c.off+at, string(data[at:min(len(data), at+api.MaxIO)])))
+			g.All(site.Write("/f", c.off+at, string(data[at:min(len(data), at+api.MaxIO)])))
 		}
-		g.all(site.Truncate("/f", c.size))
+		g.All(site.Truncate("/f", c.size))
 		item := api.Item{Kind: api.KFile, Path: "/f", Size: c.size}
 		if c.bytes > 0 {
 			from, to := c.off/512, (c.off+c.bytes+511)/512
@@ -121,50 +121,50 @@ func TestP1503Holes(t *testing.T) {
 	item := func(size, data int, runs ...api.Run) []api.Item {
 		return []api.Item{fileItem("/f", size, data, runs...)}
 	}
-	g.all(site.Create("/f"), site.Write("/f", 0, ones))
+	g.All(site.Create("/f"), site.Write("/f", 0, ones))
 	g.saves(item(3072, 3072, run(0, 6)))
-	g.all(site.Truncate("/f", 2100))
+	g.All(site.Truncate("/f", 2100))
 	g.saves(item(2100, 2560, run(0, 5)))
-	g.all(site.Truncate("/f", 9000))
+	g.All(site.Truncate("/f", 9000))
 	cut := fileItem("/f", 9000, 2560, run(0, 5))
 	clear(cut.Data[2100:])
 	g.saves([]api.Item{cut})
-	g.all(site.Punch("/f", 512, 512), site.Punch("/f", 1536, 300))
+	g.All(site.Punch("/f", 512, 512), site.Punch("/f", 1536, 300))
 	punched := fileItem("/f", 9000, 2048, run(0, 1), run(2, 5))
 	clear(punched.Data[1024:1324])
 	clear(punched.Data[2100-512:])
 	g.saves([]api.Item{punched})
-	g.all(site.Write("/f", 512, strings.Repeat("\x00", 512)), site.Write("/f", 8000, "\x00"))
+	g.All(site.Write("/f", 512, strings.Repeat("\x00", 512)), site.Write("/f", 8000, "\x00"))
 	filled := fileItem("/f", 9000, 3072, run(0, 5), run(15, 16))
 	clear(filled.Data[512:1024])
 	clear(filled.Data[1536:1836])
 	clear(filled.Data[2100:])
 	g.saves([]api.Item{filled})
-	g.all(site.Punch("/f", 0, 9000))
+	g.All(site.Punch("/f", 0, 9000))
 	g.saves([]api.Item{fileItem("/f", 9000, 0)})
-	g.all(site.Truncate("/f", 0))
+	g.All(site.Truncate("/f", 0))
 	g.saves([]api.Item{fileItem("/f", 0, 0)})
 }
 
 // A file that is held and has no name is not told; one that has a name is, held or not.
 func TestP1503Orphans(t *testing.T) {
 	g := fresh(t, middle)
-	g.all(site.Create("/x"), site.Write("/x", 0, "gone"), site.Create("/y"), site.Create("/z"), site.Link("/z", "/z2"))
+	g.All(site.Create("/x"), site.Write("/x", 0, "gone"), site.Create("/y"), site.Create("/z"), site.Link("/z", "/z2"))
 	for _, p := range []string{"/x", "/y", "/z"} {
-		if _, e := g.f.Hold(p); e != api.OK {
+		if _, e := g.F.Hold(p); e != api.OK {
 			t.Fatal(e)
 		}
 	}
-	g.all(site.Unlink("/x"), site.Unlink("/z"))
-	g.unchanged("Save with files held", func() { g.saves([]api.Item{fileItem("/y", 0, 0), fileItem("/z2", 0, 0)}) })
-	if r := g.f.Do(api.Op{Kind: api.OpRead, Node: 2, N: 9}); string(r.Data) != "gone" {
+	g.All(site.Unlink("/x"), site.Unlink("/z"))
+	g.Unchanged("Save with files held", func() { g.saves([]api.Item{fileItem("/y", 0, 0), fileItem("/z2", 0, 0)}) })
+	if r := g.F.Do(api.Op{Kind: api.OpRead, Node: 2, N: 9}); string(r.Data) != "gone" {
 		t.Errorf("P1508: the orphan holds %q, %v", r.Data, r.Err)
 	}
-	g.all(site.Unlink("/y"), site.Unlink("/z2"))
-	g.unchanged("Save with orphans alone", func() { g.saves(nil) })
+	g.All(site.Unlink("/y"), site.Unlink("/z2"))
+	g.Unchanged("Save with orphans alone", func() { g.saves(nil) })
 	for node := 2; node <= 4; node++ {
-		trial.Is(t, "P1508: Release", g.f.Release(node), api.OK)
-		trial.Is(t, "P1508: Release of what is not held any more", g.f.Release(node), api.ErrNotHeld)
+		trial.Is(t, "P1508: Release", g.F.Release(node), api.OK)
+		trial.Is(t, "P1508: Release of what is not held any more", g.F.Release(node), api.ErrNotHeld)
 	}
 }
 
@@ -183,16 +183,16 @@ func TestP1503LongPath(t *testing.T) {
 		top := "/" + strings.Repeat("m", 53)
 		path := top
 		for range 17 {
-			g.all(site.Mkdir(path))
+			g.All(site.Mkdir(path))
 			path += "/" + strings.Repeat("n", 54)
 		}
-		g.all(site.Mkdir(path))
+		g.All(site.Mkdir(path))
 		path += "/" + strings.Repeat("o", 1023-len(path)-1)
-		g.all(leaf(path)...)
+		g.All(leaf(path)...)
 		g.asTold()
-		g.all(site.Rename(top, top+"m"))
-		g.unchanged("Save of a long path: "+what, func() { g.unsaved(api.ErrLong) })
-		g.all(site.Rename(top+"m", "/"+strings.Repeat("k", 53)))
+		g.All(site.Rename(top, top+"m"))
+		g.Unchanged("Save of a long path: "+what, func() { g.unsaved(api.ErrLong) })
+		g.All(site.Rename(top+"m", "/"+strings.Repeat("k", 53)))
 		g.asTold()
 	}
 }
@@ -223,7 +223,7 @@ func crowded(t *testing.T, n int) *ground {
 	t.Helper()
 	g := fresh(t, api.Super{Sectors: 900, Log: 200, Nodes: 120})
 	for _, item := range crowd(n) {
-		trial.Is(t, item.Path, site.Put(g.f, item), api.OK)
+		trial.Is(t, item.Path, site.Put(g.F, item), api.OK)
 	}
 	return g
 }
@@ -234,30 +234,30 @@ func TestP1503ManyItems(t *testing.T) {
 	g := crowded(t, 4096)
 	g.saves(crowd(4096))
 	for _, extra := range []string{"/a", "/d07/x", "/z"} {
-		g.all(site.Create(extra))
-		g.unchanged("Save of too many", func() { g.unsaved(api.ErrLong) })
-		g.all(site.Unlink(extra))
+		g.All(site.Create(extra))
+		g.Unchanged("Save of too many", func() { g.unsaved(api.ErrLong) })
+		g.All(site.Unlink(extra))
 	}
-	g.all(site.Create("/y"), site.Create("/z"), site.Mkdir("/z2"))
+	g.All(site.Create("/y"), site.Create("/z"), site.Mkdir("/z2"))
 	g.unsaved(api.ErrLong)
-	g.all(site.Unlink("/y"), site.Unlink("/z"), site.Rmdir("/z2"), site.Unlink("/d31/4063"))
+	g.All(site.Unlink("/y"), site.Unlink("/z"), site.Rmdir("/z2"), site.Unlink("/d31/4063"))
 	g.asTold()
 }
 
 // reads counts what a Save asks of a disk that holds all at home; what it asks later is asked by one that has not ended.
 func (g *ground) reads(want api.Errno) int {
-	g.t.Helper()
-	trial.Is(g.t, "Checkpoint", g.f.Checkpoint(), api.OK)
-	was := g.d.Counts().Reads
-	_, e := dump.Save(g.f)
-	count := g.d.Counts().Reads - was
-	trial.Is(g.t, "P1503: Save", e, want)
+	g.T.Helper()
+	trial.Is(g.T, "Checkpoint", g.F.Checkpoint(), api.OK)
+	was := g.D.Counts().Reads
+	_, e := dump.Save(g.F)
+	count := g.D.Counts().Reads - was
+	trial.Is(g.T, "P1503: Save", e, want)
 	for range 20 {
 		runtime.Gosched()
 	}
 	time.Sleep(time.Millisecond)
-	if late := g.d.Counts().Reads - was - count; late > 0 {
-		g.t.Fatalf("%d reads behind the answer", late)
+	if late := g.D.Counts().Reads - was - count; late > 0 {
+		g.T.Fatalf("%d reads behind the answer", late)
 	}
 	return count
 }
@@ -267,15 +267,15 @@ func TestP1503StopsEarly(t *testing.T) {
 	t.Parallel()
 	g := crowded(t, 4600)
 	first := g.reads(api.ErrLong)
-	g.all(site.Create("/d31/x"), site.Write("/d31/x", 0, strings.Repeat("x", 9000)))
+	g.All(site.Create("/d31/x"), site.Write("/d31/x", 0, strings.Repeat("x", 9000)))
 	if now := g.reads(api.ErrLong); now != first {
 		t.Errorf("P3: %d reads, and %d before what is told late was changed", now, first)
 	}
 	g = crowded(t, 4090)
 	for i := range 20 {
-		g.all(site.Symlink(fmt.Sprintf("/l%02d", i), "x"))
+		g.All(site.Symlink(fmt.Sprintf("/l%02d", i), "x"))
 	}
-	g.all(site.Unlink("/l07"), site.Create("/l07"), site.Write("/l07", 0, strings.Repeat("x", 30000))) // the item behind the one too many
+	g.All(site.Unlink("/l07"), site.Create("/l07"), site.Write("/l07", 0, strings.Repeat("x", 30000))) // the item behind the one too many
 	first = g.reads(api.ErrLong)
 	for range 20 {
 		if now := g.reads(api.ErrLong); now != first {
@@ -330,10 +330,10 @@ func TestP1503LongArchive(t *testing.T) {
 	g := fresh(t, api.Super{Sectors: 700, Log: 200, Nodes: 120})
 	g.loads(archive, len(items), api.OK)
 	g.saves(items)
-	g.all(site.Rename("/10", "/100"))
-	g.unchanged("Save of too many bytes", func() { g.unsaved(api.ErrLong) })
-	g.all(site.Rename("/100", "/1"))
-	if a, e := dump.Save(g.f); e != api.OK || len(a) != 1<<22-1 {
+	g.All(site.Rename("/10", "/100"))
+	g.Unchanged("Save of too many bytes", func() { g.unsaved(api.ErrLong) })
+	g.All(site.Rename("/100", "/1"))
+	if a, e := dump.Save(g.F); e != api.OK || len(a) != 1<<22-1 {
 		t.Errorf("P1503: %d bytes, %v", len(a), e)
 	}
 }
@@ -341,21 +341,21 @@ func TestP1503LongArchive(t *testing.T) {
 // A file system that is dead says so, whatever it is dead of, and whatever else would be wrong.
 func TestP1503Dead(t *testing.T) {
 	for what, kill := range map[string]func(g *ground){
-		"cut":     func(g *ground) { g.d.Crash(nil) },
-		"taken":   func(g *ground) { g.d.Take() },
-		"mounted": func(g *ground) { site.Mounted(t, g.d) },
-		"burnt":   func(g *ground) { g.d.Fuse(0) },
+		"cut":     func(g *ground) { g.D.Crash(nil) },
+		"taken":   func(g *ground) { g.D.Take() },
+		"mounted": func(g *ground) { site.Mounted(t, g.D) },
+		"burnt":   func(g *ground) { g.D.Fuse(0) },
 		"burnt by an operation": func(g *ground) {
-			g.d.Fuse(1)
-			site.Does(t, g.f, site.Create("/new"), api.ErrDead)
+			g.D.Fuse(1)
+			site.Does(t, g.F, site.Create("/new"), api.ErrDead)
 		},
 	} {
 		g := fresh(t, middle)
-		g.all(site.Create("/a"))
+		g.All(site.Create("/a"))
 		kill(g)
-		g.unchanged(what, func() { g.unsaved(api.ErrDead) })
+		g.Unchanged(what, func() { g.unsaved(api.ErrDead) })
 		for _, archive := range [][]byte{nil, bytesOf(nil), bytesOf(three()), make([]byte, 1<<22+1), make([]byte, 99)} {
-			g.unchanged(what, func() { g.loads(archive, 0, api.ErrDead) })
+			g.Unchanged(what, func() { g.loads(archive, 0, api.ErrDead) })
 		}
 	}
 }
@@ -366,16 +366,16 @@ func TestP1508(t *testing.T) {
 		var images [2][]byte
 		for i := range images {
 			g := fresh(t, middle)
-			g.all(site.Mkdir("/d"), site.Create("/d/f"))
-			trial.Is(t, "Sync", g.f.Sync(), api.OK)
+			g.All(site.Mkdir("/d"), site.Create("/d/f"))
+			trial.Is(t, "Sync", g.F.Sync(), api.OK)
 			for k := range 9 {
-				g.all(site.Write("/d/f", 700*k, "some bytes"), site.Create(fmt.Sprint("/", k)))
+				g.All(site.Write("/d/f", 700*k, "some bytes"), site.Create(fmt.Sprint("/", k)))
 				if i == 1 {
-					g.unchanged("Save", func() { g.asTold() })
+					g.Unchanged("Save", func() { g.asTold() })
 				}
 			}
-			g.d.Crash(picks)
-			images[i] = g.d.Image()
+			g.D.Crash(picks)
+			images[i] = g.D.Image()
 		}
 		if !bytes.Equal(images[0], images[1]) {
 			t.Errorf("P1508: behind the cut with %v the disks are unlike", picks)
@@ -386,7 +386,7 @@ func TestP1508(t *testing.T) {
 // All goroutines have ended when a call answers, also where it stops early.
 func TestGoroutines(t *testing.T) {
 	g := crowded(t, 4096)
-	g.all(site.Create("/a"))
+	g.All(site.Create("/a"))
 	late := append(many(300), dirItem("/0"))
 	was := runtime.NumGoroutine()
 	for range 6 {

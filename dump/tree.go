@@ -8,6 +8,8 @@ import (
 	"vellum/rows"
 )
 
+const slash = "/"
+
 // name is the first name of a file.
 type name struct {
 	path string

@@ -1,4 +1,4 @@
-// Package put: how an item comes into a file system: dump and salvage share it.
+// Package put: how an item comes into a file system: dump, salvage and patch share it.
 package put
 
 import (
@@ -22,11 +22,11 @@ func Operations(item api.Item) []api.Op {
 		return create
 	}
 	// The size comes ahead of the bytes: a hole at the end is written by nobody.
-	return append(append(create, api.Op{Kind: api.OpTruncate, Path: item.Path, N: item.Size}), writes(item)...)
+	return append(append(create, api.Op{Kind: api.OpTruncate, Path: item.Path, N: item.Size}), Writes(item)...)
 }
 
-// writes are what fills the runs of a file.
-func writes(file api.Item) []api.Op {
+// Writes are what fills the runs of a file with its bytes, as far as they lie ahead of its size.
+func Writes(file api.Item) []api.Op {
 	var ops []api.Op
 	data := file.Data
 	for _, run := range file.Runs {

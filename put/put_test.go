@@ -11,13 +11,15 @@ import (
 	"vellum/trial"
 )
 
+func alike(a, b api.Op) bool {
+	return a.Kind == b.Kind && a.Path == b.Path && a.Other == b.Other && a.Node == b.Node && a.Off == b.Off && a.N == b.N && bytes.Equal(a.Data, b.Data)
+}
+
 // asks asks for just these operations.
 func asks(t *testing.T, what string, item api.Item, want ...api.Op) {
 	t.Helper()
 	got := put.Operations(item)
-	if !slices.EqualFunc(got, want, func(a, b api.Op) bool {
-		return a.Kind == b.Kind && a.Path == b.Path && a.Other == b.Other && a.Node == b.Node && a.Off == b.Off && a.N == b.N && bytes.Equal(a.Data, b.Data)
-	}) {
+	if !slices.EqualFunc(got, want, alike) {
 		t.Errorf("%s: %d operations, want %d", what, len(got), len(want))
 	}
 }
@@ -44,5 +46,18 @@ func TestP1504Pieces(t *testing.T) {
 			want = append(want, site.Write("/f", 65536*i, string(data[65536*i:min(size, 65536*(i+1))])))
 		}
 		asks(t, "pieces", api.Item{Kind: api.KFile, Path: "/f", Size: size, Runs: []api.Run{{From: 0, To: indexes}}, Data: data[:512*indexes]}, want...)
+	}
+}
+
+// Writes alone: of rows that are some of a file's, which is of that size already.
+func TestP1504Writes(t *testing.T) {
+	data := trial.NewDice(15042).Bytes(512 * 3)
+	got := put.Writes(api.Item{Kind: api.KFile, Path: "/f", Size: 512*9 + 7, Runs: []api.Run{{From: 2, To: 4}, {From: 9, To: 10}}, Data: data})
+	want := []api.Op{site.Write("/f", 1024, string(data[:1024])), site.Write("/f", 512*9, string(data[1024:1031]))}
+	if !slices.EqualFunc(got, want, alike) {
+		t.Errorf("%d operations, want %d", len(got), len(want))
+	}
+	if got := put.Writes(api.Item{Kind: api.KFile, Path: "/f", Size: 9000}); len(got) != 0 {
+		t.Errorf("%d operations for no rows", len(got))
 	}
 }

@@ -1,4 +1,4 @@
-// Package rows: what a file holds, by the rows of its indexes that hold blocks. It is asked by operations, by whichever of its ways the caller has to do them: dump and shell share it.
+// Package rows: what a file holds, by the rows of its indexes that hold blocks, and such rows by themselves. A file is asked by operations, by whichever of its ways the caller has to do them. The packages over the file system share it.
 package rows
 
 import "vellum/api"

@@ -2,14 +2,15 @@ package salvage
 
 import (
 	"slices"
-	"strings"
 
 	"vellum/api"
+	"vellum/parcel"
+	"vellum/rows"
 )
 
 // items are one for each name, as many as may be.
 func (w *wreck) items() []api.Item {
-	slices.SortFunc(w.names, func(a, b name) int { return strings.Compare(a.key(), b.key()) })
+	slices.SortFunc(w.names, func(a, b name) int { return parcel.Order(a.path, b.path) })
 	names := w.names[:min(len(w.names), api.MaxItems)]
 	if left := len(w.names) - len(names); left > 0 {
 		w.lose(api.Loss{Kind: api.LMany, Other: left})
@@ -25,9 +26,6 @@ func (w *wreck) items() []api.Item {
 	return items
 }
 
-// key is a path as it is compared: a slash ends a part, so it comes ahead of all bytes that a name can have.
-func (n name) key() string { return strings.ReplaceAll(n.path, slash, "\x00") }
-
 // item is what is told at a name of a node, of which that was the first one, if it has been told.
 func (w *wreck) item(n name, first string) api.Item {
 	switch kind := w.nodes[n.node].Kind; {
@@ -40,17 +38,8 @@ func (w *wreck) item(n name, first string) api.Item {
 	}
 	item := api.Item{Kind: api.KFile, Path: n.path, Size: w.nodes[n.node].Size}
 	for _, p := range w.pages[n.node] {
-		item.Runs = joined(item.Runs, p.index)
+		item.Runs = rows.Join(item.Runs, p.index)
 		item.Data = append(item.Data, w.blocks[p.block][:]...)
 	}
 	return item
-}
-
-// joined are rows of indexes, and one index more behind them.
-func joined(runs []api.Run, index int) []api.Run {
-	if last := len(runs) - 1; last >= 0 && runs[last].To == index {
-		runs[last].To++
-		return runs
-	}
-	return append(runs, api.Run{From: index, To: index + 1})
 }
