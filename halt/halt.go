@@ -1,4 +1,4 @@
-// Package halt: how a call of the views on a transaction (pool, node and those above) gives up from deep within, by panic, and what it answers then.
+// Package halt: how a call gives up from deep within, by panic, and what it answers then: those of the views on a transaction (pool, node and those above), and of package find.
 package halt
 
 import "vellum/api"
@@ -23,12 +23,19 @@ func Got[T any](value T, e api.Errno) T {
 	return value
 }
 
-// Caught is what a call answers, by what recover has told at its end: OK, if it did not give up. It hands every error to spoil: the transaction itself knows which errors spoil it, and passes over the others.
-func Caught(thrown any, spoil func(api.Errno) api.Errno) api.Errno {
+// Thrown is why a call has given up, by what recover has told at its end: OK, if it did not.
+func Thrown(thrown any) api.Errno {
 	if thrown == nil {
 		return api.OK
 	}
-	e := thrown.(api.Errno)
-	spoil(e)
+	return thrown.(api.Errno)
+}
+
+// Caught is what a call of a view answers, likewise. It hands every error to spoil: the transaction itself knows which errors spoil it, and passes over the others.
+func Caught(thrown any, spoil func(api.Errno) api.Errno) api.Errno {
+	e := Thrown(thrown)
+	if e != api.OK {
+		spoil(e)
+	}
 	return e
 }

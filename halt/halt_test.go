@@ -41,6 +41,9 @@ func TestHalt(t *testing.T) {
 			t.Errorf("%s: handed on to spoil: %v", c.what, spoilt)
 		}
 	}
+	if none, one := halt.Thrown(nil), halt.Thrown(api.ErrRange); none != api.OK || one != api.ErrRange {
+		t.Errorf("Thrown: %v, %v", none, one)
+	}
 	if got := halt.Got("text", api.OK); got != "text" {
 		t.Errorf("Got: %q", got)
 	}
